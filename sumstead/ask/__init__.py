@@ -1,0 +1,1 @@
+"""Questions for members."""

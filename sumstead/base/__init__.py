@@ -1,0 +1,1 @@
+"""Worths, names and integers."""

@@ -1,0 +1,1 @@
+"""Sides and outlines."""

@@ -1,0 +1,1 @@
+"""Formulas, rules, cubes and their plain reading."""

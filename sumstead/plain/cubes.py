@@ -1,0 +1,116 @@
+"""Cubes: an outline, rules and cells, and what the plain reading tells of them."""
+
+from sumstead.base.worths import is_cell_worth
+from sumstead.errors import InvalidCells, InvalidOutline, InvalidPlace, InvalidRule, TooMany
+from sumstead.outline.outlines import Outline, is_cells
+from sumstead.plain.reading import Reader
+from sumstead.plain.rules import MAX_RULES, Rule
+from sumstead.plain.ways import WorthWays
+
+MAX_CELLS = 300
+
+_MOST_CHANGES = 1000
+
+
+def _are_rules(outline, value):
+    """Whether the value is a tuple of rules that suit the outline."""
+    if type(value) is not tuple or len(value) > MAX_RULES:
+        return False
+    return all([isinstance(rule, Rule) and rule.suits(outline) for rule in value])
+
+
+def _is_change(outline, place, worth):
+    return outline.is_leaf_place(place) and (worth is None or is_cell_worth(worth))
+
+
+def _are_changes(outline, value):
+    """Whether the value is a dict from leaf places to cell worths, or None for nothing."""
+    if type(value) is not dict or len(value) > _MOST_CHANGES:
+        return False
+    return all([_is_change(outline, place, value[place]) for place in value])
+
+
+class Cube:
+    """A cube: an outline, rules in order, and cells."""
+
+    def __init__(self, outline, rules=(), cells=None):
+        if not isinstance(outline, Outline):
+            raise InvalidOutline(outline)
+        if not _are_rules(outline, rules):
+            raise InvalidRule(rules)
+        if cells is not None and not is_cells(outline, cells):
+            raise InvalidCells(cells)
+        self._outline = outline
+        self._rules = rules
+        self._cells = {} if cells is None else {place: cells[place] for place in sorted(cells)}
+        self._reader = Reader(outline, rules, WorthWays(self._cells), tuple(range(len(outline))))
+
+    @property
+    def outline(self):
+        """The outline."""
+        return self._outline
+
+    @property
+    def rules(self):
+        """The rules in order."""
+        return self._rules
+
+    @property
+    def cells(self):
+        """The dict from leaf places to the worths of the cells."""
+        return {place: self._cells[place] for place in self._cells}
+
+    def _check_place(self, place):
+        if place not in self._outline:
+            raise InvalidPlace(place)
+
+    def rule_at(self, place):
+        """The index of the rule that tells a place, or None."""
+        self._check_place(place)
+        return self._reader.rule_for(place)
+
+    def answer(self, place):
+        """The answer of the plain reading."""
+        self._check_place(place)
+        return self._reader.answer(place)
+
+    def needs(self, place):
+        """The places that the reading of a place asks itself, in the order of asking."""
+        self._check_place(place)
+        return self._reader.needs(place)
+
+    def read_node(self, place, node):
+        """What a formula, or a test, tells at a place that is not open; raises Refused if it is refused."""
+        return self._reader.read_node(place, node)
+
+    def with_cells(self, changes):
+        """The cube with other cells."""
+        if not _are_changes(self._outline, changes):
+            raise InvalidCells(changes)
+        changed = self.cells
+        for place in changes:
+            changed[place] = changes[place]
+        kept = {place: changed[place] for place in changed if changed[place] is not None}
+        if len(kept) > MAX_CELLS:
+            raise TooMany(MAX_CELLS)
+        return Cube(self._outline, self._rules, kept)
+
+    def with_rules(self, rules):
+        """The cube with other rules."""
+        return Cube(self._outline, rules, self._cells)
+
+    def __contains__(self, value):
+        return self._outline.is_leaf_place(value) and value in self._cells
+
+    def __len__(self):
+        return len(self._cells)
+
+    def __eq__(self, other):
+        if not isinstance(other, Cube):
+            return False
+        one = (self._outline, self._rules, self._cells)
+        return one == (other._outline, other._rules, other._cells)
+
+    def __str__(self):
+        sides = len(self._outline)
+        return f"cube of {sides} sides, {len(self._rules)} rules, {len(self._cells)} cells"

@@ -1,0 +1,132 @@
+"""Weights of leaves: what a place is told of, and in which orders of sides."""
+
+from sumstead.base.reckoning import multiplied, summed
+from sumstead.base.worths import ONE
+from sumstead.errors import InvalidCube, InvalidOperation, InvalidOutline, InvalidPlace
+from sumstead.outline.outlines import Outline, is_cells, same_places
+from sumstead.plain.cubes import Cube
+from sumstead.plain.parting import parting_leaves
+from sumstead.plain.reading import Reader
+from sumstead.plain.ways import WorthWays
+
+_MOST_PLACES = 100
+
+
+def _check_place(cube, place):
+    if not isinstance(cube, Cube):
+        raise InvalidCube(cube)
+    if place not in cube.outline:
+        raise InvalidPlace(place)
+
+
+def leaf_weights(outline, place):
+    """The dict from the leaf places beneath a place to their weights."""
+    if not isinstance(outline, Outline):
+        raise InvalidOutline(outline)
+    if place not in outline:
+        raise InvalidPlace(place)
+    found = [((), ONE)]
+    for side, member in zip(outline.sides, place):
+        below = sorted(side.under(member))
+        found = [(begun + (leaf,), multiplied(weight, part)) for begun, weight in found for leaf, part in below]
+    return {leaf_place: weight for leaf_place, weight in found}
+
+
+def _weight_at(outline, place, leaf_place):
+    """The weight of one leaf place for a place, or None if it is not beneath."""
+    total = ONE
+    for side, member, leaf in zip(outline.sides, place, leaf_place):
+        parts = {below: weight for below, weight in side.under(member)}
+        total = multiplied(total, parts.get(leaf, None))
+    return total
+
+
+def _members_beneath(side, member):
+    """The dict of a member and all that stand below it."""
+    found = {member: True}
+    left = [member]
+    while len(left) > 0:
+        children = [child for child, _ in side.children(left.pop())]
+        left.extend(children)
+        for child in children:
+            found[child] = True
+    return found
+
+
+def _meets(rule, beneath):
+    """Whether the area of a rule has a place whose members are all in the dicts beneath."""
+    for entry, below in zip(rule.area, beneath):
+        if entry is not None and not any([name in below for name in entry]):
+            return False
+    return True
+
+
+def is_clean(cube, place):
+    """Whether no rule's area has a place beneath a place."""
+    _check_place(cube, place)
+    beneath = [_members_beneath(side, member) for side, member in zip(cube.outline.sides, place)]
+    return not any([_meets(rule, beneath) for rule in cube.rules])
+
+
+def answer_by_leaves(cube, place):
+    """The answer of a clean place, told by leaf weights and cells."""
+    if not is_clean(cube, place):
+        raise InvalidOperation(place)
+    cells = cube.cells
+    pairs = [(_weight_at(cube.outline, place, leaf_place), cells[leaf_place]) for leaf_place in cells]
+    total = summed([(weight, worth) for weight, worth in pairs if weight is not None])
+    if total is None:
+        return ("nothing",)
+    return ("worth", total)
+
+
+def is_order(outline, value):
+    """Whether the value is an order of the sides of an outline."""
+    if type(value) is not tuple or not all([type(index) is int for index in value]):
+        return False
+    return sorted(value) == list(range(len(outline)))
+
+
+def answer_by(cube, place, order):
+    """The answer at a place, with opened places opened by an order of sides."""
+    _check_place(cube, place)
+    if not is_order(cube.outline, order):
+        raise InvalidOperation(order)
+    return Reader(cube.outline, cube.rules, WorthWays(cube.cells), order).answer(place)
+
+
+def _check_outlines(one, other, places):
+    if not isinstance(one, Outline):
+        raise InvalidOutline(one)
+    if not isinstance(other, Outline):
+        raise InvalidOutline(other)
+    if type(places) is not tuple or not 1 <= len(places) <= _MOST_PLACES:
+        raise InvalidPlace(places)
+    if not all([place in one for place in places]):
+        raise InvalidPlace(places)
+    if not same_places(one, other):
+        raise InvalidOperation("the outlines have unlike places")
+
+
+def parting_cells(one, other, places):
+    """Cells with one cell, at which some of the places has unlike answers in both outlines, or None."""
+    _check_outlines(one, other, places)
+    for place in places:
+        leaf_place = parting_leaves(one, other, place)
+        if leaf_place is not None:
+            return {leaf_place: ONE}
+    return None
+
+
+def is_parting(one, other, places, value):
+    """Whether the value is parting cells."""
+    _check_outlines(one, other, places)
+    if not is_cells(one, value) or len(value) != 1:
+        return False
+    for place in places:
+        for leaf_place in value:
+            worth = value[leaf_place]
+            told = multiplied(_weight_at(one, place, leaf_place), worth)
+            if told != multiplied(_weight_at(other, place, leaf_place), worth):
+                return True
+    return False

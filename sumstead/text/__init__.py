@@ -1,0 +1,1 @@
+"""Texts of formulas, rules, outlines and cells."""

@@ -1,6 +1,8 @@
 """The values that the document's examples use, and values that are wrong nearly everywhere."""
 
 from sumstead.outline.outlines import Outline, Side
+from sumstead.plain.cubes import Cube
+from sumstead.plain.rules import Rule
 
 ONE = (1, 1)
 
@@ -10,6 +12,24 @@ SHOP = Side("shop", ("a", "b"),
             (("sums", (("both", (("a", (1, 1)), ("b", (1, 1)))),)),
              ("less", (("diff", (("a", (1, 1)), ("b", (-1, 1)))),))))
 FLAT = Outline((TIME, SHOP))
+SOME = Cube(FLAT, (), {("jan", "a"): (4, 1), ("feb", "a"): (6, 1), ("jan", "b"): (1, 2)})
+GROWTH = Rule((None, ("diff",)), ("over", ("at", (("shop", ("to", "a")),)),
+                                  ("at", (("shop", ("to", "a")), ("time", ("step", -1))))), 2)
+RULED = SOME.with_rules((GROWTH,))
+LOOP = SOME.with_rules((Rule((None, ("b",)), ("plus", ("at", (("shop", ("to", "both")),)), ("worth", (1, 1)))),))
+
+HERE = ("at", ())
+NOTHING = ("nothing",)
+
+
+def number(top, bottom=1):
+    """The formula of a worth."""
+    return ("worth", (top, bottom))
+
+
+def to(*pairs):
+    """The formula that asks the place with members moved to others."""
+    return ("at", tuple((side, ("to", member)) for side, member in sorted(pairs)))
 
 
 def odd_values():
@@ -18,7 +38,7 @@ def odd_values():
         None, True, False, 0, 1, -1, 10 ** 60, -10 ** 99, "", "A", "1a", "ab cd", "a\nb", "a\tb", "longer9ame",
         (), [], {}, (1,), (1, 2, 3), [1, 1], (True, 1), (1, True), (1, 0), (2, 2), (1, -1), ("1", "1"),
         ([],), ({},), ([], []), (None, None), ((), ()), ((((((((),),),),),),),), {1: 2}, {(): ()},
-        {("a",): None}, TIME, FLAT, (TIME,), (FLAT,), [TIME], "x" * 60000,
+        {("a",): None}, TIME, FLAT, (TIME,), (FLAT,), [TIME], "x" * 60000, SOME, GROWTH, (GROWTH, SOME), [GROWTH],
     ]
 
 

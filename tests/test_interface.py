@@ -1,0 +1,116 @@
+"""Each name of the interface stands in the file under which the document lists it, with its arguments."""
+
+import ast
+import importlib
+import inspect
+import unittest
+
+FUNCTIONS = {
+    "sumstead.base.worths": {
+        "is_worth": "(value)", "is_name": "(value)", "is_cell_worth": "(value)", "is_weight": "(value)",
+        "worth": "(top, bottom=1)", "plus": "(one, other)", "minus": "(one, other)", "times": "(one, other)",
+        "over": "(one, other)", "weighted_sum": "(pairs)", "is_below": "(one, other)", "is_great": "(worth)",
+        "worth_text": "(worth)", "read_worth": "(text)"},
+    "sumstead.outline.outlines": {"is_cells": "(outline, value)", "same_places": "(one, other)"},
+    "sumstead.plain.formulas": {
+        "is_formula": "(value)", "nodes_in": "(formula)", "sides_in": "(formula)", "does_suit": "(outline, value)"},
+    "sumstead.plain.weights": {
+        "leaf_weights": "(outline, place)", "is_clean": "(cube, place)", "answer_by_leaves": "(cube, place)",
+        "answer_by": "(cube, place, order)", "parting_cells": "(one, other, places)",
+        "is_parting": "(one, other, places, value)"},
+    "sumstead.plain.forms": {
+        "is_linear": "(formula)", "form_of": "(cube, place, *, order=None)", "parting_of": "(one, other)",
+        "does_part": "(one, other, value)"},
+    "sumstead.text.rules": {
+        "write_formula": "(formula)", "read_formula": "(text)", "write_rule": "(outline, rule)",
+        "read_rule": "(outline, text)"},
+    "sumstead.text.outlines": {
+        "write_outline": "(outline)", "read_outline": "(text)", "write_cells": "(outline, cells)",
+        "read_cells": "(outline, text)"},
+    "sumstead.ask.sets": {
+        "is_question": "(value)", "does_ask": "(outline, side, value)",
+        "members_of": "(cube, place, side, question)", "write_question": "(question)", "read_question": "(text)"},
+}
+
+CLASSES = {
+    "sumstead.outline.outlines": {
+        "Side": ("(name, leaves, hierarchies=())", ("name", "leaves", "hierarchies", "names", "members"),
+                 {"children": "(self, member)", "home": "(self, member)", "under": "(self, member)",
+                  "parent": "(self, member, hierarchy)", "step": "(self, member, count)",
+                  "__contains__": "(self, value)", "__len__": "(self)", "__iter__": "(self)",
+                  "__eq__": "(self, other)", "__str__": "(self)"}),
+        "Outline": ("(sides)", ("sides", "names", "total"),
+                    {"side": "(self, name)", "index": "(self, name)", "has_leaves": "(self, place)",
+                     "with_member": "(self, place, name, member)", "places": "(self)", "leaf_places": "(self)",
+                     "__contains__": "(self, value)", "__len__": "(self)", "__eq__": "(self, other)",
+                     "__str__": "(self)"})},
+    "sumstead.plain.rules": {
+        "Rule": ("(area, formula, rank=0)", ("area", "formula", "rank"),
+                 {"covers": "(self, place)", "suits": "(self, outline)", "__eq__": "(self, other)",
+                  "__str__": "(self)"})},
+    "sumstead.plain.cubes": {
+        "Cube": ("(outline, rules=(), cells=None)", ("outline", "rules", "cells"),
+                 {"rule_at": "(self, place)", "answer": "(self, place)", "needs": "(self, place)",
+                  "with_cells": "(self, changes)", "with_rules": "(self, rules)", "__contains__": "(self, value)",
+                  "__len__": "(self)", "__eq__": "(self, other)", "__str__": "(self)"})},
+    "sumstead.plain.forms": {
+        "Form": ("(constant, weights, always)", ("constant", "weights", "always"),
+                 {"at": "(self, cells)", "__len__": "(self)", "__eq__": "(self, other)", "__str__": "(self)"})},
+}
+
+CONSTANTS = {
+    "sumstead.base.worths": {"ZERO": (0, 1), "ONE": (1, 1), "MOST_DIGITS": 1000},
+    "sumstead.outline.outlines": {"MAX_SIDES": 5, "MAX_LEAVES": 30, "MAX_HIERARCHIES": 3, "MAX_GROUPS": 20,
+                                  "MAX_DEEP": 6, "MAX_PLACES": 20000},
+    "sumstead.plain.formulas": {"MAX_NODES": 60, "MAX_DEPTH": 8},
+    "sumstead.plain.rules": {"MAX_RULES": 30, "MAX_RANK": 99},
+    "sumstead.plain.cubes": {"MAX_CELLS": 300},
+    "sumstead.ask.sets": {"MAX_QUESTIONS": 20, "QUESTION_DEPTH": 6, "MAX_ASKED": 100},
+}
+
+ERRORS = ("CubeError", "InvalidName", "InvalidWorth", "InvalidOutline", "InvalidPlace", "InvalidCells", "InvalidRule",
+          "InvalidCube", "InvalidQuestion", "InvalidCode", "InvalidStore", "InvalidOperation", "ParseError",
+          "InvalidNumber", "UnknownName", "NothingToUndo", "TooMany", "Refused", "PowerLost")
+
+
+def defined(module):
+    """The definitions at the top of a module's file, by their names."""
+    with open(inspect.getsourcefile(module)) as file:
+        tree = ast.parse(file.read())
+    return {node.name: node for node in tree.body if isinstance(node, (ast.FunctionDef, ast.ClassDef))}
+
+
+class Interface(unittest.TestCase):
+    def test_functions(self):
+        for name, told in FUNCTIONS.items():
+            module = importlib.import_module(name)
+            for function, arguments in told.items():
+                self.assertIsInstance(defined(module)[function], ast.FunctionDef)
+                self.assertEqual(str(inspect.signature(getattr(module, function))), arguments, function)
+
+    def test_classes(self):
+        for name, told in CLASSES.items():
+            module = importlib.import_module(name)
+            for word, (arguments, properties, methods) in told.items():
+                self.assertIsInstance(defined(module)[word], ast.ClassDef)
+                kind = getattr(module, word)
+                self.assertEqual(str(inspect.signature(kind)), arguments, word)
+                for one in properties:
+                    self.assertIsInstance(vars(kind)[one], property)
+                for method, takes in methods.items():
+                    self.assertEqual(str(inspect.signature(vars(kind)[method])), takes, method)
+
+    def test_constants(self):
+        for name, told in CONSTANTS.items():
+            module = importlib.import_module(name)
+            for word, value in told.items():
+                self.assertEqual(getattr(module, word), value, word)
+
+    def test_errors(self):
+        module = importlib.import_module("sumstead.errors")
+        for word in ERRORS:
+            self.assertIsInstance(defined(module)[word], ast.ClassDef)
+
+
+if __name__ == "__main__":
+    unittest.main()

@@ -75,6 +75,23 @@ class Chains(unittest.TestCase):
         self.assertEqual(form_of(cube, end), Form((0, 1), {source: ONE}, False))
         self.assertEqual(cube.with_cells({source: None}).answer(end), ("nothing",))
 
+    def test_a_running_total(self):
+        """Each place adds a cell to the one ahead: the form has as many weights as the chain has places."""
+        names = NAMES[:21]
+        last = names[-1]
+        backs = (("at", (("r", STEP),)), ("at", (("q", STEP), ("r", ("to", last)))),
+                 ("at", (("p", STEP), ("q", ("to", last)), ("r", ("to", last)))))
+        outline = Outline(tuple(Side(name, names) for name in "pqr") + (Side("s", ("in", "out")),))
+        inflow = ("at", (("s", ("to", "in")),))
+        rules = [Rule(area + (("out",),), ("plus", back, inflow), rank)
+                 for rank, (area, back) in enumerate(zip(AREAS, backs))]
+        rules.append(Rule(BEGIN + (("out",),), inflow, 3))
+        places = [place for place in outline.places() if place[3] == "in"]
+        cube = Cube(outline, tuple(rules), {place: ONE for place in places[::40]})
+        end = (last, last, last, "out")
+        self.assertEqual(cube.answer(end), ("worth", (len(cube), 1)))
+        self.assertEqual(form_of(cube, end), Form((0, 1), {place: ONE for place in places}, False))
+
     def test_a_refusal_at_the_end_of_a_chain(self):
         cube = chain(twice, ("over", number(1), number(0)))
         reason = ("zero", ALL[0])

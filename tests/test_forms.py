@@ -1,5 +1,6 @@
 import unittest
 
+from sumstead.base.worths import worth
 from sumstead.errors import InvalidCells, InvalidCube, InvalidOperation, InvalidPlace, InvalidRule, Refused
 from sumstead.outline.outlines import Outline, Side
 from sumstead.plain.cubes import Cube
@@ -184,6 +185,43 @@ class FormsOfPlaces(unittest.TestCase, Checks):
         long = ("over", ("times", ("times", ahead, number(10 ** 59)), number(10)), number(10 ** 59))
         cube = self.big(Rule((("n17",), ("x",)), long, 1))
         self.assertEqual(form_of(cube, ("n17", "x")), Form(ZERO, {("n00", "y"): (10 ** 945, 1)}, False))
+
+    def test_many_unlike_bottoms(self):
+        """Weights that have no short common bottom are told exactly, and refused as great exactly."""
+        names = tuple(f"n{index:02}" for index in range(30))
+        outline = Outline((Side("s", names), Side("t", ("x", "y", "z"))))
+        bottoms = [10 ** 59 + 2 * index + 1 for index in range(30)]
+
+        def told(begin, end, node):
+            for index in range(begin, end):
+                cell = ("at", (("s", ("to", names[index])), ("t", ("to", "x"))))
+                node = ("plus", node, ("over", cell, number(bottoms[index])))
+            return node
+
+        def rule(name, formula):
+            return Rule(((name,), ("y",)), formula)
+
+        def at(name):
+            return ("at", (("s", ("to", name)),))
+        rules = [rule(names[index // 6], told(index, index + 6, at(names[index // 6 - 1]) if index else NOTHING))
+                 for index in range(0, 30, 6)]
+        rules.append(rule("n05", ("times", number(7), at("n04"))))
+        rules.append(rule("n06", ("minus", at("n05"), ("times", number(7), at("n04")))))
+        for index in range(7, 24):
+            rules.append(rule(names[index], ("times", at("n05" if index == 7 else names[index - 1]), number(10 ** 59))))
+        cube = Cube(outline, tuple(rules))
+        cells = [(name, "x") for name in names]
+        weights = {cell: (1, bottom) for cell, bottom in zip(cells, bottoms)}
+        self.assertEqual(form_of(cube, ("n04", "y")), Form(ZERO, weights, False))
+        self.assertEqual(form_of(cube, ("n06", "y")), Form(ZERO, {cell: ZERO for cell in cells}, False))
+        for many, place in ((15, "n21"), (16, "n22")):
+            expected = {}
+            for cell, bottom in zip(cells, bottoms):
+                expected[cell] = worth(7 * 10 ** (59 * many), bottom)
+            self.assertEqual(form_of(cube, (place, "y")), Form(ZERO, expected, False))
+        self.assertEqual(self.assert_raises(Refused, form_of, cube, ("n23", "y")).reason, ("great", ("n23", "y")))
+        always = Rule((("n06",), ("z",)), ("plus", number(3), ("at", (("t", ("to", "y")),))))
+        self.assertEqual(form_of(Cube(outline, tuple(rules) + (always,)), ("n06", "z")), Form((3, 1), {}, True))
 
     def test_errors(self):
         for value in odd_values() + [[0, 1], (0,), (0, 0), (False, True)]:

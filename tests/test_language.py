@@ -27,6 +27,8 @@ WORDS = set("""typing typing_extensions enum Enum IntEnum StrEnum Flag IntFlag G
     NamedTuple TypedDict TYPE_CHECKING abstractmethod dataclass overload contextmanager""".split())
 NOT_ATTRIBUTES = set("""items keys values pop update append clear extend insert remove reverse setdefault sort args encode
     decode hex fromhex format""".split())
+KEYWORDS = {"sorted": ("key", "reverse"), "min": ("key", "default"), "max": ("key", "default"), "sum": ("start",),
+            "enumerate": ("start",), "zip": ("strict",)}
 PYTHON_BUILTINS = set(dir(__builtins__) if not isinstance(__builtins__, dict) else __builtins__)
 
 
@@ -282,8 +284,10 @@ class Language(unittest.TestCase):
                     if not of_none and not of_type:
                         found.append((path, node, "is"))
         for path, node in all_nodes(ast.Call):
-            if isinstance(node.func, ast.Name) and node.func.id in PYTHON_BUILTINS and node.keywords:
-                found.append((path, node, "keyword of a builtin"))
+            if isinstance(node.func, ast.Name) and node.func.id in PYTHON_BUILTINS:
+                for keyword in node.keywords:
+                    if keyword.arg not in KEYWORDS.get(node.func.id, ()):
+                        found.append((path, node, "keyword of a builtin"))
             if isinstance(node.func, ast.Attribute) and node.func.attr in METHODS and node.keywords:
                 found.append((path, node, "keyword of a method"))
         self.assert_none(found)

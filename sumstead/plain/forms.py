@@ -7,7 +7,7 @@ from sumstead.outline.outlines import MAX_PLACES, MAX_SIDES
 from sumstead.plain.cubes import MAX_CELLS, Cube
 from sumstead.plain.formulas import is_formula
 from sumstead.plain.linear import is_linear_node
-from sumstead.plain.mixes import MixWays
+from sumstead.plain.mixes import MixWays, factors_of
 from sumstead.plain.reading import Reader
 from sumstead.plain.weights import is_order
 
@@ -113,7 +113,7 @@ def form_of(cube, place, *, order=None):
     if not is_order(cube.outline, order):
         raise InvalidOperation(order)
     mix = Reader(cube.outline, cube.rules, MixWays(), order).tell(place)
-    return Form(mix.start, mix.factors, mix.certain)
+    return Form(mix.start, factors_of(mix), mix.certain)
 
 
 def _check_forms(one, other):

@@ -247,6 +247,17 @@ class Tests(unittest.TestCase):
                 self.assertIs(self.yes(("both", one, other)), one is yes and other is yes)
                 self.assertIs(self.yes(("either", one, other)), one is yes or other is yes)
 
+    def test_tests_within_operators(self):
+        yes, no = ("there", number(1)), ("there", NOTHING)
+        for one in (yes, no):
+            for other in (yes, no):
+                for word, both in (("both", one is yes and other is yes), ("either", one is yes or other is yes)):
+                    choice = ("if", (word, one, other), number(1), number(2))
+                    self.assertEqual(told(("plus", number(10), choice)), ("worth", (11 if both else 12, 1)))
+                    inner = ("if", (word, ("same", choice, number(1)), no), number(1), number(2))
+                    expected = 1 if word == "either" and both else 2
+                    self.assertEqual(told(("minus", number(10), inner)), ("worth", (10 - expected, 1)))
+
     def test_what_is_not_read(self):
         yes, no = ("there", number(1)), ("there", NOTHING)
         wrong = ("over", number(1), number(0))

@@ -35,7 +35,9 @@ class Linear(unittest.TestCase, Checks):
                       ("last", "time", ("leaves",), A), ("sum", "time", ("leaves",), ("times", A, A)),
                       ("plus", A, ("times", A, B)), ("minus", ("over", A, B), A),
                       ("times", ("plus", number(1), number(2)), A), ("times", number(2), ("times", A, B)),
-                      ("over", A, ("plus", number(1), number(1)))):
+                      ("over", A, ("plus", number(1), number(1))), ("over", ("times", A, B), number(2)),
+                      ("sum", "time", ("leaves",), ("first", "time", ("leaves",), A)),
+                      ("minus", A, ("times", A, B)), ("times", ("times", A, B), number(2))):
             self.assertIs(is_linear(value), False, value)
 
     def test_errors(self):

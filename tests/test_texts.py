@@ -33,6 +33,9 @@ FORMULA_TEXTS = {
     "if([] + 1 = 2 * 3, 2, 3) + 1":
         ("plus", ("if", ("same", ("plus", HERE, number(1)), ("times", number(2), number(3))), number(2), number(3)),
          number(1)),
+    "if([] < 1 + 2, 1 - 2, nothing / nothing)":
+        ("if", ("below", HERE, ("plus", number(1), number(2))), ("minus", number(1), number(2)),
+         ("over", NOTHING, NOTHING)),
     "if(both(there([]), not(1 < 2)), 1, 2)":
         ("if", ("both", ("there", HERE), ("not", ("below", number(1), number(2)))), number(1), number(2)),
     "if(either(there(1 + 2), there(3)), 1, 2)":

@@ -6,8 +6,7 @@ from sumstead.outline.trees import are_names
 from sumstead.plain.formulas import is_formula, is_test
 from sumstead.plain.nodes import node_suits
 
-MOST_NAMES = 100
-MOST_FIRST = 100
+MOST_ASKED = 100
 MOST_STEPS = 6
 
 # For each word the kinds of the parts behind it.
@@ -32,13 +31,13 @@ def inner_questions(question):
 
 def _is_part(kind, part):
     if kind == "names":
-        return are_names(part, 0, MOST_NAMES)
+        return are_names(part, 0, MOST_ASKED)
     if kind == "name":
         return is_name(part)
     if kind == "steps":
         return is_between(part, 0, MOST_STEPS)
     if kind == "many":
-        return is_between(part, 1, MOST_FIRST)
+        return is_between(part, 1, MOST_ASKED)
     if kind == "test":
         return is_test(part)
     if kind == "formula":

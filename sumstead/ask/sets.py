@@ -3,9 +3,9 @@
 from sumstead.ask.asking import Asker
 from sumstead.ask.grammar import question_goal, question_text
 from sumstead.ask.questions import is_question_tree, question_suits
-from sumstead.errors import InvalidCube, InvalidOutline, InvalidPlace, InvalidQuestion, Refused, UnknownName
-from sumstead.outline.outlines import Outline
-from sumstead.plain.cubes import Cube
+from sumstead.errors import InvalidQuestion, Refused, UnknownName
+from sumstead.outline.outlines import check_outline
+from sumstead.plain.cubes import check_cube_place
 from sumstead.text.parser import Parser
 
 MAX_QUESTIONS = 20
@@ -29,18 +29,14 @@ def _can_ask(outline, side, value):
 
 def does_ask(outline, side, value):
     """Whether the value is a question that can be asked for a side of the outline."""
-    if not isinstance(outline, Outline):
-        raise InvalidOutline(outline)
+    check_outline(outline)
     _check_side(outline, side)
     return _can_ask(outline, side, value)
 
 
 def members_of(cube, place, side, question):
     """The members of a side that a question tells at a place, or the first refusal."""
-    if not isinstance(cube, Cube):
-        raise InvalidCube(cube)
-    if place not in cube.outline:
-        raise InvalidPlace(place)
+    check_cube_place(cube, place)
     _check_side(cube.outline, side)
     if not _can_ask(cube.outline, side, question):
         raise InvalidQuestion(question)

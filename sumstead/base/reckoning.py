@@ -2,10 +2,6 @@
 
 from math import gcd
 
-from sumstead.base.integers import has_more_digits
-
-GREAT_DIGITS = 1000
-
 
 def lowest(top, bottom):
     """The worth of a fraction with a bottom other than 0."""
@@ -62,8 +58,3 @@ def summed(pairs):
 def is_less(one, other):
     """Whether one worth is less than another one."""
     return one[0] * other[1] < other[0] * one[1]
-
-
-def is_over_great(one):
-    """Whether a worth has too many digits."""
-    return has_more_digits(one[0], GREAT_DIGITS) or has_more_digits(one[1], GREAT_DIGITS)

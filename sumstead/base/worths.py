@@ -3,7 +3,7 @@
 from math import gcd
 
 from sumstead.base.integers import MOST_PASSED, has_more_digits, is_between, is_integer, is_integer_of
-from sumstead.base.reckoning import added, divided, is_less, is_over_great, lowest, multiplied, opposite, summed
+from sumstead.base.reckoning import added, divided, is_less, lowest, multiplied, opposite, summed
 from sumstead.errors import InvalidNumber, InvalidOperation, InvalidWorth, ParseError, Refused
 
 ZERO = (0, 1)
@@ -118,6 +118,11 @@ def is_below(one, other):
     _check_worth(one)
     _check_worth(other)
     return is_less(one, other)
+
+
+def is_over_great(one):
+    """Whether a worth, of any length, has more digits than the plain reading tells."""
+    return has_more_digits(one[0], MOST_DIGITS) or has_more_digits(one[1], MOST_DIGITS)
 
 
 def is_great(worth):

@@ -188,10 +188,6 @@ class Outline:
         """The number of places."""
         return self._total
 
-    def _check_place(self, place):
-        if place not in self:
-            raise InvalidPlace(place)
-
     def index(self, name):
         """The index of the side with a name."""
         if type(name) is not str or name not in self._names:
@@ -204,7 +200,7 @@ class Outline:
 
     def has_leaves(self, place):
         """Whether a place is a leaf place."""
-        self._check_place(place)
+        check_place(self, place)
         return self.is_leaf_place(place)
 
     def is_leaf_place(self, value):
@@ -215,7 +211,7 @@ class Outline:
 
     def with_member(self, place, name, member):
         """The place with another member at the side with a name."""
-        self._check_place(place)
+        check_place(self, place)
         index = self.index(name)
         if member not in self._sides[index]:
             raise UnknownName(member)
@@ -245,10 +241,21 @@ class Outline:
         return f"outline of {', '.join(told)}"
 
 
-def is_cells(outline, value):
-    """Whether the value is cells of the outline."""
+def check_outline(outline):
+    """Refuses what is no outline."""
     if not isinstance(outline, Outline):
         raise InvalidOutline(outline)
+
+
+def check_place(outline, place):
+    """Refuses what is no place of the outline."""
+    if place not in outline:
+        raise InvalidPlace(place)
+
+
+def is_cells(outline, value):
+    """Whether the value is cells of the outline."""
+    check_outline(outline)
     if type(value) is not dict or len(value) > _MOST_CELLS:
         return False
     return all([outline.is_leaf_place(place) and is_cell_worth(value[place]) for place in value])
@@ -256,10 +263,8 @@ def is_cells(outline, value):
 
 def same_places(one, other):
     """Whether two outlines have equal places."""
-    if not isinstance(one, Outline):
-        raise InvalidOutline(one)
-    if not isinstance(other, Outline):
-        raise InvalidOutline(other)
+    check_outline(one)
+    check_outline(other)
     if len(one) != len(other):
         return False
     return all([_have_same_members(side, twin) for side, twin in zip(one.sides, other.sides)])

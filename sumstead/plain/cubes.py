@@ -1,8 +1,8 @@
 """Cubes: an outline, rules and cells, and what the plain reading tells of them."""
 
 from sumstead.base.worths import is_cell_worth
-from sumstead.errors import InvalidCells, InvalidOutline, InvalidPlace, InvalidRule, TooMany
-from sumstead.outline.outlines import Outline, is_cells
+from sumstead.errors import InvalidCells, InvalidCube, InvalidRule, TooMany
+from sumstead.outline.outlines import check_outline, check_place, is_cells
 from sumstead.plain.reading import Reader
 from sumstead.plain.rules import MAX_RULES, Rule
 from sumstead.plain.ways import WorthWays
@@ -34,8 +34,7 @@ class Cube:
     """A cube: an outline, rules in order, and cells."""
 
     def __init__(self, outline, rules=(), cells=None):
-        if not isinstance(outline, Outline):
-            raise InvalidOutline(outline)
+        check_outline(outline)
         if not _are_rules(outline, rules):
             raise InvalidRule(rules)
         if cells is not None and not is_cells(outline, cells):
@@ -60,23 +59,19 @@ class Cube:
         """The dict from leaf places to the worths of the cells."""
         return {place: self._cells[place] for place in self._cells}
 
-    def _check_place(self, place):
-        if place not in self._outline:
-            raise InvalidPlace(place)
-
     def rule_at(self, place):
         """The index of the rule that tells a place, or None."""
-        self._check_place(place)
+        check_place(self._outline, place)
         return self._reader.rule_for(place)
 
     def answer(self, place):
         """The answer of the plain reading."""
-        self._check_place(place)
+        check_place(self._outline, place)
         return self._reader.answer(place)
 
     def needs(self, place):
         """The places that the reading of a place asks itself, in the order of asking."""
-        self._check_place(place)
+        check_place(self._outline, place)
         return self._reader.needs(place)
 
     def read_node(self, place, node):
@@ -114,3 +109,10 @@ class Cube:
     def __str__(self):
         sides = len(self._outline)
         return f"cube of {sides} sides, {len(self._rules)} rules, {len(self._cells)} cells"
+
+
+def check_cube_place(cube, place):
+    """Refuses what is no cube, and then what is no place of it."""
+    if not isinstance(cube, Cube):
+        raise InvalidCube(cube)
+    check_place(cube.outline, place)

@@ -1,10 +1,10 @@
 """Forms: what places that linear rules tell are told, whatever the cells are."""
 
-from sumstead.base.reckoning import added, is_over_great, multiplied
-from sumstead.base.worths import ONE, ZERO, is_cell_worth, is_name, is_worth, worth_text
-from sumstead.errors import InvalidCells, InvalidCube, InvalidOperation, InvalidPlace, InvalidRule
+from sumstead.base.reckoning import added, multiplied
+from sumstead.base.worths import ONE, ZERO, is_cell_worth, is_name, is_over_great, is_worth, worth_text
+from sumstead.errors import InvalidCells, InvalidOperation, InvalidRule
 from sumstead.outline.outlines import MAX_PLACES, MAX_SIDES
-from sumstead.plain.cubes import MAX_CELLS, Cube
+from sumstead.plain.cubes import MAX_CELLS, check_cube_place
 from sumstead.plain.formulas import is_formula
 from sumstead.plain.linear import is_linear_node
 from sumstead.plain.mixes import MixWays, factors_of
@@ -104,10 +104,7 @@ class Form:
 
 def form_of(cube, place, *, order=None):
     """The form of a place by an order of sides."""
-    if not isinstance(cube, Cube):
-        raise InvalidCube(cube)
-    if place not in cube.outline:
-        raise InvalidPlace(place)
+    check_cube_place(cube, place)
     if order is None:
         order = tuple(range(len(cube.outline)))
     if not is_order(cube.outline, order):

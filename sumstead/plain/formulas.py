@@ -1,7 +1,7 @@
 """Formulas: what is one, and for which outlines."""
 
-from sumstead.errors import InvalidOutline, InvalidRule
-from sumstead.outline.outlines import Outline
+from sumstead.errors import InvalidRule
+from sumstead.outline.outlines import check_outline
 from sumstead.plain.nodes import FORMULA, TEST, is_node, node_suits, nodes_of, side_names
 
 MAX_NODES = 60
@@ -37,6 +37,5 @@ def sides_in(formula):
 
 def does_suit(outline, value):
     """Whether the value is a formula that suits the outline."""
-    if not isinstance(outline, Outline):
-        raise InvalidOutline(outline)
+    check_outline(outline)
     return is_formula(value) and node_suits(outline, value)

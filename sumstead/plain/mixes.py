@@ -7,8 +7,8 @@ chain of places, each with one leaf place more than the one ahead, takes no more
 from math import lcm
 
 from sumstead.base.integers import has_more_digits
-from sumstead.base.reckoning import GREAT_DIGITS, added, divided, is_over_great, multiplied, summed
-from sumstead.base.worths import ONE, ZERO
+from sumstead.base.reckoning import added, divided, multiplied, summed
+from sumstead.base.worths import MOST_DIGITS, ONE, ZERO, is_over_great
 from sumstead.errors import Refused
 from sumstead.plain.linear import is_linear_node
 
@@ -56,9 +56,9 @@ def _bound(mix):
 
 def _is_safe(mix):
     """Whether the bounds tell that no factor has too many digits."""
-    if mix.common == 0 or has_more_digits(mix.common, GREAT_DIGITS):
+    if mix.common == 0 or has_more_digits(mix.common, MOST_DIGITS):
         return False
-    return not has_more_digits(mix.greatest, GREAT_DIGITS)
+    return not has_more_digits(mix.greatest, MOST_DIGITS)
 
 
 def _bound_by(mix, factors):
@@ -66,7 +66,7 @@ def _bound_by(mix, factors):
     common = 1
     for place in factors:
         common = lcm(common, factors[place][1])
-        if has_more_digits(common, GREAT_DIGITS):
+        if has_more_digits(common, MOST_DIGITS):
             mix.common = 0
             return
     mix.common = common

@@ -34,11 +34,9 @@ def are_moves(value):
 
 def is_span(value):
     """Whether the value is a span."""
-    if type(value) is not tuple or len(value) == 0:
-        return False
     if value == ("leaves",):
         return True
-    if len(value) != 2:
+    if not is_pair(value):
         return False
     word, given = value
     if word == "members":

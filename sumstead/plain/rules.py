@@ -2,8 +2,8 @@
 
 from sumstead.base.integers import is_between
 from sumstead.base.worths import is_name
-from sumstead.errors import InvalidNumber, InvalidOutline, InvalidPlace, InvalidRule
-from sumstead.outline.outlines import MAX_SIDES, Outline
+from sumstead.errors import InvalidNumber, InvalidPlace, InvalidRule
+from sumstead.outline.outlines import MAX_SIDES, check_outline
 from sumstead.plain.formulas import does_suit, is_formula, nodes_in
 
 MAX_RULES = 30
@@ -69,8 +69,7 @@ class Rule:
 
     def suits(self, outline):
         """Whether the outline has all that the area and the formula tell."""
-        if not isinstance(outline, Outline):
-            raise InvalidOutline(outline)
+        check_outline(outline)
         if len(self._area) != len(outline):
             return False
         for side, entry in zip(outline.sides, self._area):

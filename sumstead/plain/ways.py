@@ -1,7 +1,7 @@
 """What the plain reading reckons with: worths, of cells that are there."""
 
-from sumstead.base.reckoning import added, divided, is_less, is_over_great, multiplied, opposite, summed
-from sumstead.base.worths import ZERO
+from sumstead.base.reckoning import added, divided, is_less, multiplied, opposite, summed
+from sumstead.base.worths import ZERO, is_over_great
 from sumstead.errors import Refused
 
 

@@ -2,9 +2,9 @@
 
 from sumstead.base.reckoning import multiplied, summed
 from sumstead.base.worths import ONE
-from sumstead.errors import InvalidCube, InvalidOperation, InvalidOutline, InvalidPlace
-from sumstead.outline.outlines import Outline, is_cells, same_places
-from sumstead.plain.cubes import Cube
+from sumstead.errors import InvalidOperation, InvalidPlace
+from sumstead.outline.outlines import check_outline, check_place, is_cells, same_places
+from sumstead.plain.cubes import check_cube_place
 from sumstead.plain.parting import parting_leaves
 from sumstead.plain.reading import Reader
 from sumstead.plain.ways import WorthWays
@@ -12,19 +12,10 @@ from sumstead.plain.ways import WorthWays
 _MOST_PLACES = 100
 
 
-def _check_place(cube, place):
-    if not isinstance(cube, Cube):
-        raise InvalidCube(cube)
-    if place not in cube.outline:
-        raise InvalidPlace(place)
-
-
 def leaf_weights(outline, place):
     """The dict from the leaf places beneath a place to their weights."""
-    if not isinstance(outline, Outline):
-        raise InvalidOutline(outline)
-    if place not in outline:
-        raise InvalidPlace(place)
+    check_outline(outline)
+    check_place(outline, place)
     found = [((), ONE)]
     for side, member in zip(outline.sides, place):
         below = sorted(side.under(member))
@@ -63,7 +54,7 @@ def _meets(rule, beneath):
 
 def is_clean(cube, place):
     """Whether no rule's area has a place beneath a place."""
-    _check_place(cube, place)
+    check_cube_place(cube, place)
     beneath = [_members_beneath(side, member) for side, member in zip(cube.outline.sides, place)]
     return not any([_meets(rule, beneath) for rule in cube.rules])
 
@@ -89,17 +80,15 @@ def is_order(outline, value):
 
 def answer_by(cube, place, order):
     """The answer at a place, with opened places opened by an order of sides."""
-    _check_place(cube, place)
+    check_cube_place(cube, place)
     if not is_order(cube.outline, order):
         raise InvalidOperation(order)
     return Reader(cube.outline, cube.rules, WorthWays(cube.cells), order).answer(place)
 
 
 def _check_outlines(one, other, places):
-    if not isinstance(one, Outline):
-        raise InvalidOutline(one)
-    if not isinstance(other, Outline):
-        raise InvalidOutline(other)
+    check_outline(one)
+    check_outline(other)
     if type(places) is not tuple or not 1 <= len(places) <= _MOST_PLACES:
         raise InvalidPlace(places)
     if not all([place in one for place in places]):

@@ -1,18 +1,13 @@
 """Texts of outlines and of cells."""
 
 from sumstead.base.worths import ONE, worth_text
-from sumstead.errors import InvalidCells, InvalidOutline
-from sumstead.outline.outlines import Outline, Side, is_cells
+from sumstead.errors import InvalidCells
+from sumstead.outline.outlines import Outline, Side, check_outline, is_cells
 from sumstead.text.parser import Parser, begin_list, put_in_list
 from sumstead.text.parser import take_name, take_names, take_number, take_sign
 from sumstead.text.tokens import END, WORD
 
 _NEWLINE = "\n"
-
-
-def _check_outline(outline):
-    if not isinstance(outline, Outline):
-        raise InvalidOutline(outline)
 
 
 def _child_text(child, weight):
@@ -32,7 +27,7 @@ def _side_lines(side):
 
 def write_outline(outline):
     """The text of an outline."""
-    _check_outline(outline)
+    check_outline(outline)
     lines = []
     for side in outline.sides:
         lines.extend(_side_lines(side))
@@ -41,7 +36,7 @@ def write_outline(outline):
 
 def write_cells(outline, cells):
     """The text of cells of an outline."""
-    _check_outline(outline)
+    check_outline(outline)
     if not is_cells(outline, cells):
         raise InvalidCells(cells)
     return "\n".join([f"{' '.join(place)}: {worth_text(cells[place])}" for place in sorted(cells)])
@@ -165,7 +160,7 @@ def _end_cell(parser, given):
 
 def read_cells(outline, text):
     """The cells of an outline that a text tells."""
-    _check_outline(outline)
+    check_outline(outline)
     rows = Parser(text).run([(_cell_lines, None)])[0]
     cells = {place: worth for place, worth in rows}
     if len(cells) < len(rows) or not is_cells(outline, cells):

@@ -112,7 +112,7 @@ def take_number(parser, given):
 
 def take_integer(parser, given):
     """Makes an integer."""
-    if parser.next_kind() != NUMBER or "/" in parser.next_text():
+    if "/" in parser.next_text():
         parser.refuse()
     take_number(parser, None)
     parser.made.append(parser.made.pop()[0])

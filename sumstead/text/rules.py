@@ -1,8 +1,8 @@
 """Texts of formulas and of rules."""
 
 from sumstead.base.integers import is_between
-from sumstead.errors import InvalidOutline, InvalidRule
-from sumstead.outline.outlines import Outline
+from sumstead.errors import InvalidRule
+from sumstead.outline.outlines import check_outline
 from sumstead.plain.formulas import is_formula
 from sumstead.plain.rules import MAX_RANK, Rule
 from sumstead.text.grammar import formula_goal
@@ -26,14 +26,9 @@ def read_formula(text):
     return made[0]
 
 
-def _check_outline(outline):
-    if not isinstance(outline, Outline):
-        raise InvalidOutline(outline)
-
-
 def write_rule(outline, rule):
     """The text of a rule that suits an outline."""
-    _check_outline(outline)
+    check_outline(outline)
     if not isinstance(rule, Rule) or not rule.suits(outline):
         raise InvalidRule(rule)
     entries = []
@@ -80,7 +75,7 @@ def _area_of(outline, entries):
 
 def read_rule(outline, text):
     """The rule that a text tells; it suits the outline."""
-    _check_outline(outline)
+    check_outline(outline)
     goals = [(take_integer, None), (take_sign, "("), (_entries, None), (take_sign, ")"), (take_sign, "="),
              (formula_goal, None)]
     rank, entries, told = Parser(text).run(goals)

@@ -11,16 +11,10 @@ _LETTERS = "abcdefghijklmnopqrstuvwxyz"
 _DIGITS = "0123456789"
 
 
-def _word_end(text, begin):
+def _end_of(text, begin, signs):
+    """Where the longest run of some signs ends."""
     end = begin
-    while end < len(text) and (text[end] in _LETTERS or text[end] in _DIGITS):
-        end += 1
-    return end
-
-
-def _digits_end(text, begin):
-    end = begin
-    while end < len(text) and text[end] in _DIGITS:
+    while end < len(text) and text[end] in signs:
         end += 1
     return end
 
@@ -30,16 +24,16 @@ def _is_digit_at(text, index):
 
 
 def _number_end(text, begin):
-    end = _digits_end(text, begin + 1)
-    if end < len(text) and text[end] == "/" and _is_digit_at(text, end + 1):
-        return _digits_end(text, end + 1)
+    end = _end_of(text, begin + 1, _DIGITS)
+    if text[end:end + 1] == "/" and _is_digit_at(text, end + 1):
+        return _end_of(text, end + 1, _DIGITS)
     return end
 
 
 def _token_at(text, begin):
     """The kind of the token that begins at an index, and where it ends."""
     if text[begin] in _LETTERS:
-        return (WORD, _word_end(text, begin))
+        return (WORD, _end_of(text, begin, _LETTERS + _DIGITS))
     if text[begin] in _DIGITS or (text[begin] == "-" and _is_digit_at(text, begin + 1)):
         return (NUMBER, _number_end(text, begin))
     return (SIGN, begin + 1)

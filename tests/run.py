@@ -9,7 +9,8 @@ sys.dont_write_bytecode = True
 
 def main():
     folder = os.path.abspath(sys.argv[1])
-    sys.path.insert(0, os.path.dirname(os.path.dirname(os.path.abspath(__file__))))
+    # The folder of this file is no place to import from, unless its own tests are run.
+    sys.path[0] = os.path.dirname(os.path.dirname(os.path.abspath(__file__)))
     suite = unittest.defaultTestLoader.discover(folder, pattern="test_*.py", top_level_dir=folder)
     result = unittest.TextTestRunner(stream=sys.stdout, verbosity=1).run(suite)
     failed = len(result.failures) + len(result.errors) + len(result.unexpectedSuccesses)

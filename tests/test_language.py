@@ -271,7 +271,7 @@ class Language(unittest.TestCase):
 
     def test_expressions_l7_l20_l22(self):
         found = []
-        for path, node in all_nodes((ast.GeneratorExp, ast.Set, ast.Div, ast.Pow, ast.MatMult, ast.Ellipsis)):
+        for path, node in all_nodes((ast.GeneratorExp, ast.Set, ast.Div, ast.Pow, ast.MatMult)):
             found.append((path, getattr(node, "lineno", 0) and node or 0, type(node).__name__))
         for path, node in all_nodes(ast.Constant):
             if isinstance(node.value, (float, complex, bytes)):

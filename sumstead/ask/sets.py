@@ -19,7 +19,7 @@ def is_question(value):
 
 
 def _check_side(outline, side):
-    if type(side) is not str or side not in outline.names:
+    if side not in outline.names:
         raise UnknownName(side)
 
 

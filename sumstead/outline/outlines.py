@@ -121,7 +121,7 @@ class Side:
     def parent(self, member, hierarchy):
         """The group of which the member is a child in a hierarchy, or None."""
         self._check_member(member)
-        if type(hierarchy) is not str or hierarchy not in self._names:
+        if hierarchy not in self._names:
             raise UnknownName(hierarchy)
         return self._parents.get((member, hierarchy), None)
 
@@ -190,7 +190,7 @@ class Outline:
 
     def index(self, name):
         """The index of the side with a name."""
-        if type(name) is not str or name not in self._names:
+        if name not in self._names:
             raise UnknownName(name)
         return self._names.index(name)
 

@@ -63,13 +63,10 @@ def _end_entry(parser, given):
 
 
 def _area_of(outline, entries):
-    """The area that pairs (side, names) tell; nothing else stands at a side than what is told once."""
+    """The area that pairs (side, names) tell, each side once."""
     told = {side: members for side, members in entries}
     if len(told) < len(entries) or not all([side in outline.names for side in told]):
         raise InvalidRule("no area")
-    for side in told:
-        if len(set(told[side])) < len(told[side]):
-            raise InvalidRule("a name stands twice")
     return tuple([told.get(side, None) for side in outline.names])
 
 

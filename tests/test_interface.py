@@ -30,6 +30,12 @@ FUNCTIONS = {
     "sumstead.ask.sets": {
         "is_question": "(value)", "does_ask": "(outline, side, value)",
         "members_of": "(cube, place, side, question)", "write_question": "(question)", "read_question": "(text)"},
+    "sumstead.ask.sheets": {"with_own": "(cube, side, name, formula, rank=0)"},
+    "sumstead.code.making": {"is_code": "(value)", "code_of": "(formula)"},
+    "sumstead.code.judge": {
+        "is_sound": "(value)", "heights": "(code)", "slots_at": "(code, index)", "needs_of": "(code)"},
+    "sumstead.code.passes": {
+        "folded": "(code)", "pruned": "(code)", "threaded": "(code)", "shared": "(code)", "passed": "(code, words)"},
 }
 
 CLASSES = {
@@ -56,6 +62,21 @@ CLASSES = {
     "sumstead.plain.forms": {
         "Form": ("(constant, weights, always)", ("constant", "weights", "always"),
                  {"at": "(self, cells)", "__len__": "(self)", "__eq__": "(self, other)", "__str__": "(self)"})},
+    "sumstead.ask.sheets": {
+        "Sheet": ("(cube, place, rows, columns, *, whole=True)", ("cube", "rows", "columns", "answers", "lines"),
+                  {"shown": "(self, row, column)", "answer": "(self, row, column)", "with_cells": "(self, changes)",
+                   "unlike": "(self, other)", "__contains__": "(self, value)", "__len__": "(self)",
+                   "__iter__": "(self)", "__eq__": "(self, other)", "__str__": "(self)"})},
+    "sumstead.code.machine": {
+        "Machine": ("(cube, codes=None)", ("cube", "codes", "steps"),
+                    {"answer": "(self, place)", "go_on": "(self, place, *, most=1000)", "change": "(self, changes)",
+                     "__contains__": "(self, value)", "__len__": "(self)", "__str__": "(self)"})},
+    "sumstead.kept.sums": {
+        "Kept": ("(cube, places)", ("cube", "kept_places", "sums"),
+                 {"change": "(self, changes)", "plan": "(self, place)", "is_plan": "(self, place, value)",
+                  "answer": "(self, place)", "count": "(self, place)", "twin": "(self)",
+                  "__contains__": "(self, value)", "__len__": "(self)", "__iter__": "(self)",
+                  "__eq__": "(self, other)", "__str__": "(self)"})},
 }
 
 CONSTANTS = {
@@ -66,6 +87,10 @@ CONSTANTS = {
     "sumstead.plain.rules": {"MAX_RULES": 30, "MAX_RANK": 99},
     "sumstead.plain.cubes": {"MAX_CELLS": 300},
     "sumstead.ask.sets": {"MAX_QUESTIONS": 20, "QUESTION_DEPTH": 6, "MAX_ASKED": 100},
+    "sumstead.ask.sheets": {"MAX_SHOWN": 2000},
+    "sumstead.code.making": {"MAX_CODE": 2000, "MAX_SLOTS": 60},
+    "sumstead.code.passes": {"PASSES": ("folded", "pruned", "threaded", "shared")},
+    "sumstead.kept.sums": {"MAX_KEPT": 12},
 }
 
 ERRORS = ("CubeError", "InvalidName", "InvalidWorth", "InvalidOutline", "InvalidPlace", "InvalidCells", "InvalidRule",

@@ -111,8 +111,13 @@ class Cube:
         return f"cube of {sides} sides, {len(self._rules)} rules, {len(self._cells)} cells"
 
 
-def check_cube_place(cube, place):
-    """Refuses what is no cube, and then what is no place of it."""
+def check_cube(cube):
+    """Refuses what is no cube."""
     if not isinstance(cube, Cube):
         raise InvalidCube(cube)
+
+
+def check_cube_place(cube, place):
+    """Refuses what is no cube, and then what is no place of it."""
+    check_cube(cube)
     check_place(cube.outline, place)

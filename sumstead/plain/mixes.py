@@ -123,6 +123,10 @@ class MixWays:
         self._leaves[place] = mix
         return mix
 
+    def is_whole(self, place):
+        """Whether a place that no rule tells is told without being opened; here only leaf places are."""
+        return False
+
     def check_rule(self, index, rule):
         """Refuses a rule that is not linear."""
         if not is_linear_node(rule.formula):

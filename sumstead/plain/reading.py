@@ -67,13 +67,13 @@ class Reader:
         return None
 
     def _begin(self, place):
-        """The reading of a place, or None if it is a leaf place that is told its cell at once."""
+        """The reading of a place, or None if it is told at once, as a leaf place is told its cell."""
         found = self._rule_at(place)
         if found is not None:
             self._ways.check_rule(found.rule_index, found.rule)
             return FormulaReading(self._outline, place, found.rule.formula, self._ways)
         index = self._group_index(place)
-        if index is None:
+        if index is None or self._ways.is_whole(place):
             self._known[place] = self._ways.leaf(place)
             return None
         return OpenedReading(self._outline, place, index, self._ways)

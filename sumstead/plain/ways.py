@@ -15,6 +15,10 @@ class WorthWays:
         """What a leaf place without a rule is told."""
         return self._cells.get(place, None)
 
+    def is_whole(self, place):
+        """Whether a place that no rule tells is told without being opened; here only leaf places are."""
+        return False
+
     def check_rule(self, index, rule):
         """Lets each rule tell."""
         return None

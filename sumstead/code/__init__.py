@@ -1,0 +1,1 @@
+"""Code of formulas, and a machine that runs it."""

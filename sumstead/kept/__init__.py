@@ -1,0 +1,1 @@
+"""What is kept of cubes, and what can be told by it."""

@@ -36,6 +36,24 @@ FUNCTIONS = {
         "is_sound": "(value)", "heights": "(code)", "slots_at": "(code, index)", "needs_of": "(code)"},
     "sumstead.code.passes": {
         "folded": "(code)", "pruned": "(code)", "threaded": "(code)", "shared": "(code)", "passed": "(code, words)"},
+    "sumstead.kept.telling": {
+        "told": "(outline, place, filling)", "mixture": "(outline, place, seen)",
+        "is_mixture": "(outline, place, seen, value)", "unlike_fillings": "(outline, place, seen)",
+        "are_unlike_fillings": "(outline, place, seen, value)"},
+    "sumstead.kept.marks": {
+        "wide_word": "(cube, place, there)", "is_traced": "(cube, place)", "is_enough": "(cube, place, marks)",
+        "missed": "(cube, place, marks)", "is_missed": "(cube, place, marks, value)",
+        "least_marks": "(cube, place)", "is_least_marks": "(cube, place, value)",
+        "answer_marked": "(cube, place, marks)"},
+    "sumstead.store.codings": {
+        "is_row": "(value)", "codings": "(row)", "coded": "(row)", "decoded": "(text)", "length_of": "(text)",
+        "entry_at": "(text, index)", "is_coding": "(row, value)", "changed_at": "(text, index, entry)",
+        "joined": "(one, other)"},
+    "sumstead.store.blocks": {"store_of_room": "(outline, dense, room, spans)"},
+    "sumstead.write.spreads": {
+        "parts_of": "(cube, place, way)", "exact_shares": "(cube, place, total, way)",
+        "spread": "(cube, place, total, way, *, unit=(1, 1))",
+        "is_spread": "(cube, place, total, way, value, *, unit=(1, 1))"},
 }
 
 CLASSES = {
@@ -77,6 +95,19 @@ CLASSES = {
                   "answer": "(self, place)", "count": "(self, place)", "twin": "(self)",
                   "__contains__": "(self, value)", "__len__": "(self)", "__iter__": "(self)",
                   "__eq__": "(self, other)", "__str__": "(self)"})},
+    "sumstead.store.blocks": {
+        "BlockStore": ("(outline, dense, cells=None)", ("outline", "dense", "room", "spans", "free", "cells"),
+                       {"as_cube": "(self, rules=())", "key": "(self, leaf_place)", "seat": "(self, leaf_place)",
+                        "row": "(self, key)", "worth_at": "(self, leaf_place)", "put": "(self, leaf_place, entry)",
+                        "squeeze": "(self)", "answer": "(self, place, *, keys=None)",
+                        "__contains__": "(self, value)", "__len__": "(self)", "__iter__": "(self)",
+                        "__eq__": "(self, other)", "__str__": "(self)"})},
+    "sumstead.write.totals": {
+        "Totals": ("(outline, hierarchies, totals, *, bounds=None, rest=(0, 1000000))",
+                   ("outline", "hierarchies", "totals", "bounds", "rest", "grid"),
+                   {"pair_at": "(self, leaf_place)", "filling": "(self)", "cut": "(self)",
+                    "is_filling": "(self, value)", "is_cut": "(self, value)", "__contains__": "(self, value)",
+                    "__len__": "(self)", "__eq__": "(self, other)", "__str__": "(self)"})},
 }
 
 CONSTANTS = {
@@ -91,6 +122,8 @@ CONSTANTS = {
     "sumstead.code.making": {"MAX_CODE": 2000, "MAX_SLOTS": 60},
     "sumstead.code.passes": {"PASSES": ("folded", "pruned", "threaded", "shared")},
     "sumstead.kept.sums": {"MAX_KEPT": 12},
+    "sumstead.store.codings": {"MAX_ROW": 1000, "KINDS": ("plain", "runs", "sparse", "steps")},
+    "sumstead.store.blocks": {"MAX_DENSE": 1000, "FREE": "_"},
 }
 
 ERRORS = ("CubeError", "InvalidName", "InvalidWorth", "InvalidOutline", "InvalidPlace", "InvalidCells", "InvalidRule",

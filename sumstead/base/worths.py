@@ -163,6 +163,20 @@ def _read_nothing(text):
         raise ParseError(len(_NOTHING))
 
 
+def worth_from(text, begin):
+    """The worth whose text begins at an index of a text, and where it ends."""
+    first = begin
+    firsts = _DIGITS
+    if text[begin:begin + 1] == "-":
+        first = begin + 1
+        firsts = _DIGITS[1:]
+    end = _read_digits(text, first, firsts)
+    if text[end:end + 1] != "/":
+        return ((int(text[begin:end]), 1), end)
+    last = _read_digits(text, end + 1, _DIGITS[1:])
+    return (lowest(int(text[begin:end]), int(text[end + 1:last])), last)
+
+
 def read_worth(text):
     """The worth that a text tells, or None for nothing."""
     if type(text) is not str:
@@ -170,17 +184,7 @@ def read_worth(text):
     if text[:1] == "n":
         _read_nothing(text)
         return None
-    begin = 0
-    firsts = _DIGITS
-    if text[:1] == "-":
-        begin = 1
-        firsts = _DIGITS[1:]
-    end = _read_digits(text, begin, firsts)
-    if end == len(text):
-        return (int(text), 1)
-    if text[end] != "/":
+    told, end = worth_from(text, 0)
+    if end < len(text):
         raise ParseError(end)
-    last = _read_digits(text, end + 1, _DIGITS[1:])
-    if last < len(text):
-        raise ParseError(last)
-    return lowest(int(text[:end]), int(text[end + 1:]))
+    return told

@@ -1,7 +1,7 @@
 """Cheapest plans: which kept places tell a clean place with the fewest pairs."""
 
 from sumstead.base.worths import is_worth
-from sumstead.kept.boxes import Box, do_meet, factor_of, has_leaf_place, size_of, weights_of
+from sumstead.plain.boxes import Box, do_meet, factor_of, has_leaf_place, size_of, weights_of
 from sumstead.outline.trees import is_pair
 
 

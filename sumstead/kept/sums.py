@@ -3,7 +3,7 @@
 from sumstead.base.reckoning import added, multiplied, opposite
 from sumstead.base.worths import ZERO
 from sumstead.errors import InvalidOperation, InvalidPlace
-from sumstead.kept.boxes import Box, has_leaf_place, weight_in
+from sumstead.plain.boxes import Box, has_leaf_place, weight_in
 from sumstead.kept.plans import Plans
 from sumstead.outline.outlines import check_place
 from sumstead.plain.cubes import check_cube

@@ -1,0 +1,1 @@
+"""Cells as texts: rows of entries, and blocks of them."""

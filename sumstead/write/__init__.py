@@ -1,0 +1,1 @@
+"""Totals that are written at places, and spread downward."""

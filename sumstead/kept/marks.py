@@ -1,5 +1,6 @@
 """Marks: leaf places without which a place is told nothing, so that it can be skipped."""
 
+from sumstead.base.ordered import are_ascending
 from sumstead.errors import InvalidOperation, Refused
 from sumstead.kept.looking import NOTHING, THERE
 from sumstead.kept.wide import WideReading, WideView
@@ -12,7 +13,7 @@ def _is_set(outline, value):
     """Whether the value is an ascending tuple of leaf places."""
     if type(value) is not tuple or not all([outline.is_leaf_place(leaf_place) for leaf_place in value]):
         return False
-    return all([one < other for one, other in zip(value, value[1:])])
+    return are_ascending(value)
 
 
 def _check_set(cube, value):

@@ -1,5 +1,6 @@
 """Cheapest plans: which kept places tell a clean place with the fewest pairs."""
 
+from sumstead.base.ordered import are_ascending
 from sumstead.base.worths import is_worth
 from sumstead.plain.boxes import Box, do_meet, factor_of, has_leaf_place, size_of, weights_of
 from sumstead.outline.trees import is_pair
@@ -53,7 +54,7 @@ class Plans:
             return False
         box = Box(self.layout, place)
         saved = sum([size_of(one) - 1 for one, _ in self.best_pairs(place)])
-        if len(value) != size_of(box) - saved or not _are_ascending([source for source, _ in value]):
+        if len(value) != size_of(box) - saved or not are_ascending([source for source, _ in value]):
             return False
         boxes = [Box(self.layout, source) for source, _ in value]
         if not all([factor_of(box, one) == pair[1] for one, pair in zip(boxes, value)]):
@@ -67,10 +68,6 @@ def _are_pairs(value):
     if type(value) is not tuple or not all([is_pair(pair) for pair in value]):
         return False
     return all([is_worth(factor) for _, factor in value])
-
-
-def _are_ascending(sources):
-    return all([one < other for one, other in zip(sources, sources[1:])])
 
 
 def _are_apart(boxes):

@@ -1,6 +1,7 @@
 """What is told by what: mixtures of seen places, and fillings that show that there is none."""
 
 from sumstead.base.integers import has_more_digits
+from sumstead.base.ordered import by_keys
 from sumstead.base.reckoning import added, multiplied, opposite, summed
 from sumstead.base.worths import ONE, ZERO, is_worth
 from sumstead.errors import InvalidCells, InvalidPlace, TooMany
@@ -92,8 +93,7 @@ def mixture(outline, place, seen):
     many = len(leaf_places)
     if first_column(rest, many) is not None:
         return None
-    factors = {one: opposite(factor) for one, factor in zip(seen, rest[many:])}
-    return {one: factors[one] for one in sorted(factors)}
+    return by_keys({one: opposite(factor) for one, factor in zip(seen, rest[many:])})
 
 
 def _mixed_weights(outline, factors):

@@ -2,14 +2,7 @@
 
 from sumstead.base.reckoning import divided, multiplied
 from sumstead.base.worths import ONE
-
-
-def _tables(outline, place):
-    """For each side the dict from the leaves below the member to their weights."""
-    found = []
-    for side, member in zip(outline.sides, place):
-        found.append({leaf: weight for leaf, weight in side.under(member)})
-    return found
+from sumstead.plain.boxes import Box
 
 
 def _first_leaves(tables):
@@ -37,8 +30,8 @@ def parting_leaves(one, other, place):
     Where the same leaves are beneath, the weights are alike exactly if the quotients of both weights
     are the same at all leaves of a side, for each side, and their product is 1.
     """
-    tables = _tables(one, place)
-    others = _tables(other, place)
+    tables = Box(one, place).leaf_tables
+    others = Box(other, place).leaf_tables
     found = _lacking(tables, others)
     if found is None:
         found = _lacking(others, tables)

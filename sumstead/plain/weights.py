@@ -4,6 +4,7 @@ from sumstead.base.reckoning import multiplied, summed
 from sumstead.base.worths import ONE
 from sumstead.errors import InvalidOperation, InvalidPlace
 from sumstead.outline.outlines import check_outline, check_place, is_cells, same_places
+from sumstead.plain.boxes import Box, weight_in
 from sumstead.plain.cubes import check_cube_place
 from sumstead.plain.parting import parting_leaves
 from sumstead.plain.reading import Reader
@@ -21,15 +22,6 @@ def leaf_weights(outline, place):
         below = sorted(side.under(member))
         found = [(begun + (leaf,), multiplied(weight, part)) for begun, weight in found for leaf, part in below]
     return {leaf_place: weight for leaf_place, weight in found}
-
-
-def _weight_at(outline, place, leaf_place):
-    """The weight of one leaf place for a place, or None if it is not beneath."""
-    total = ONE
-    for side, member, leaf in zip(outline.sides, place, leaf_place):
-        parts = {below: weight for below, weight in side.under(member)}
-        total = multiplied(total, parts.get(leaf, None))
-    return total
 
 
 def _members_beneath(side, member):
@@ -64,7 +56,8 @@ def answer_by_leaves(cube, place):
     if not is_clean(cube, place):
         raise InvalidOperation(place)
     cells = cube.cells
-    pairs = [(_weight_at(cube.outline, place, leaf_place), cells[leaf_place]) for leaf_place in cells]
+    box = Box(cube.outline, place)
+    pairs = [(weight_in(box, leaf_place), cells[leaf_place]) for leaf_place in cells]
     total = summed([(weight, worth) for weight, worth in pairs if weight is not None])
     if total is None:
         return ("nothing",)
@@ -115,7 +108,7 @@ def is_parting(one, other, places, value):
     for place in places:
         for leaf_place in value:
             worth = value[leaf_place]
-            told = multiplied(_weight_at(one, place, leaf_place), worth)
-            if told != multiplied(_weight_at(other, place, leaf_place), worth):
+            told = multiplied(weight_in(Box(one, place), leaf_place), worth)
+            if told != multiplied(weight_in(Box(other, place), leaf_place), worth):
                 return True
     return False

@@ -1,6 +1,7 @@
 """Block stores: the cells of an outline as texts of rows, side by side in one string."""
 
 from sumstead.base.integers import is_between
+from sumstead.base.ordered import by_keys
 from sumstead.base.reckoning import added, multiplied
 from sumstead.base.worths import is_cell_worth
 from sumstead.errors import InvalidCells, InvalidOperation, InvalidPlace, InvalidStore, InvalidWorth
@@ -70,7 +71,7 @@ class BlockStore:
             for seat, entry in enumerate(self._row_at(key)):
                 if entry is not None:
                     found[self._layout.leaf_place_of(key, seat)] = entry
-        return {leaf_place: found[leaf_place] for leaf_place in sorted(found)}
+        return by_keys(found)
 
     def as_cube(self, rules=()):
         """The cube of the cells."""
@@ -135,7 +136,7 @@ class BlockStore:
             begin = seat_for(self._room, len(text))
             self._room = with_text(self._room, begin, text)
             self._spans[key] = (begin, begin + len(text))
-            self._spans = {one: self._spans[one] for one in sorted(self._spans)}
+            self._spans = by_keys(self._spans)
 
     def squeeze(self):
         """Lays the blocks side by side; how many characters the room has less."""
@@ -194,7 +195,7 @@ class BlockStore:
     def take_over(self, room, spans):
         """Takes over a room and spans that could be its own."""
         self._room = room
-        self._spans = {key: spans[key] for key in sorted(spans)}
+        self._spans = by_keys(spans)
         self._cell_count = sum([_count_in(self._row_at(key)) for key in self._spans])
 
     def __contains__(self, value):

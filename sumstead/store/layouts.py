@@ -1,5 +1,7 @@
 """Layouts: in which block, and where in its row, each leaf place of an outline has its entry."""
 
+from sumstead.base.ordered import are_ascending
+
 _MOST_SEATS = 1000
 
 
@@ -8,7 +10,7 @@ def dense_indices(outline, value):
     if type(value) is not tuple or not all([name in outline.names for name in value]):
         return None
     indices = [outline.index(name) for name in value]
-    if not all([one < other for one, other in zip(indices, indices[1:])]):
+    if not are_ascending(indices):
         return None
     many = 1
     for index in indices:

@@ -1,6 +1,7 @@
 """Spreads: a total that is written at a place, shared out on the leaf places beneath it."""
 
 from sumstead.base.integers import has_more_digits
+from sumstead.base.ordered import by_keys
 from sumstead.base.reckoning import added, divided, multiplied
 from sumstead.base.worths import ONE, ZERO, is_cell_worth, is_worth
 from sumstead.errors import InvalidOperation, InvalidWorth, Refused, TooMany
@@ -86,15 +87,11 @@ def _parts_in_order(cube, place, way):
     return parts
 
 
-def _ascending(table):
-    return {key: table[key] for key in sorted(table)}
-
-
 def parts_of(cube, place, way):
     """The dict from the leaf places beneath a place to their parts."""
     check_cube_place(cube, place)
     _check_way(cube, place, way)
-    return _ascending(_parts_in_order(cube, place, way))
+    return by_keys(_parts_in_order(cube, place, way))
 
 
 def _shares_of(parts, total):
@@ -116,7 +113,7 @@ def _check_total(cube, place, total, way):
 def exact_shares(cube, place, total, way):
     """The dict from the leaf places beneath a place to their exact shares of a total."""
     _check_total(cube, place, total, way)
-    return _ascending(_shares_of(_parts_in_order(cube, place, way), total))
+    return by_keys(_shares_of(_parts_in_order(cube, place, way), total))
 
 
 def _shares_in_units(cube, place, total, way, unit):

@@ -1,6 +1,7 @@
 """Several written totals at once: a filling of the leaf places beneath, or a cut that bars all fillings."""
 
 from sumstead.base.integers import is_between
+from sumstead.base.ordered import are_ascending, by_keys
 from sumstead.base.worths import is_worth
 from sumstead.errors import InvalidOperation, InvalidOutline, InvalidPlace, Refused, TooMany
 from sumstead.outline.outlines import check_outline
@@ -39,15 +40,11 @@ def _are_bounds(trees, value):
     return all([is_seat(trees, leaf_place) and _is_bound(value[leaf_place]) for leaf_place in value])
 
 
-def _ascending(table):
-    return {key: table[key] for key in sorted(table)}
-
-
 def _are_members(tree, value):
     """Whether the value is an ascending tuple of members of a tree."""
     if type(value) is not tuple or not all([type(member) is str and member in tree.nodes for member in value]):
         return False
-    return all([one < other for one, other in zip(value, value[1:])])
+    return are_ascending(value)
 
 
 class Totals:
@@ -73,8 +70,8 @@ class Totals:
             raise TooMany(_MOST_SEATS)
         self._outline = outline
         self._hierarchies = hierarchies
-        self._totals = _ascending(totals)
-        self._bounds = {} if bounds is None else _ascending(bounds)
+        self._totals = by_keys(totals)
+        self._bounds = {} if bounds is None else by_keys(bounds)
         self._rest = rest
         self._trees = trees
         self._grid = tuple(sorted([(one, other) for one in trees[0].tree_leaves for other in trees[1].tree_leaves]))

@@ -5,6 +5,7 @@ import time
 import unittest
 
 from sumstead.errors import InvalidOperation, InvalidOutline, InvalidPlace, Refused, TooMany
+from sumstead.kept.telling import told
 from sumstead.outline.outlines import Outline, Side
 from sumstead.plain.weights import leaf_weights
 from sumstead.write.totals import Totals
@@ -303,6 +304,26 @@ class Fillings(unittest.TestCase, Checks):
         for some in itertools.combinations(told, 2):
             self.check(Totals(FLAT, BOTH, {line: told[line] for line in some}), True)
         self.check(Totals(FLAT, BOTH, told), False)
+
+    def test_not_true_fractions_lead_to_whole_units(self):
+        """Five totals, one of them at inner groups of both sides: halves fit them, whole numbers do not."""
+        def side(name):
+            rows = (("top", (("both", ONE), ("n2", ONE))), ("both", (("n0", ONE), ("n1", ONE))))
+            return Side(name, NAMES[:3], (("h", rows),))
+        outline = Outline((side("p"), side("q")))
+        asked = (("n0", "top"), ("n2", "top"), ("both", "both"), ("top", "n1"), ("top", "n2"))
+        cells = (("n0", "n0"), ("n0", "n2"), ("n1", "n1"), ("n2", "n1"), ("n2", "n2"))
+
+        def all_are_one(worths):
+            filling = {**{place: (0, 1) for place in outline.leaf_places()}, **dict(zip(cells, worths))}
+            return all(told(outline, place, filling) == ONE for place in asked)
+        self.assertTrue(all_are_one([(1, 2)] * 5))
+        self.assertFalse(any(all_are_one([(one, 1) for one in numbers]) for numbers in itertools.product(range(-2, 3), repeat=5)))
+        # Such a place is no line; without it there is a filling.
+        one_each = {place: (1, 1) for place in asked}
+        self.assert_raises(InvalidOperation, Totals, outline, ("h", "h"), one_each)
+        del one_each[("both", "both")]
+        self.check(Totals(outline, ("h", "h"), one_each, bounds={place: (0, 1) for place in cells}, rest=(0, 0)), True)
 
     def test_great_numbers(self):
         self.check(Totals(FLAT, BOTH, {TOP: (MOST, MOST), ("jan", "both"): (-MOST, 1 - MOST)}, rest=(-MOST, MOST)), True)

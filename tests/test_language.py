@@ -14,7 +14,8 @@ LIBRARY = {"heapq": ("heappush", "heappop", "heapify", "heapreplace", "heappushp
            "itertools": ("product", "combinations", "permutations")}
 BUILTINS = set("""len range enumerate zip min max sum abs sorted reversed int str bool list tuple dict set isinstance ord
     repr any all divmod iter type Exception ValueError TypeError KeyError IndexError LookupError ZeroDivisionError
-    ArithmeticError OverflowError RuntimeError NotImplementedError AttributeError NotImplemented property""".split())
+    ArithmeticError OverflowError RuntimeError NotImplementedError AttributeError NotImplemented property
+    classmethod""".split())
 METHODS = set("""append clear copy count endswith extend find get index insert isalnum isalpha isdigit islower isspace
     isupper items join keys ljust lower lstrip partition pop remove replace reverse rfind rjust rpartition rsplit rstrip
     setdefault split splitlines startswith strip update upper values zfill bit_length""".split())
@@ -65,6 +66,85 @@ def all_nodes(kinds):
 
 def functions(tree):
     return [node for node in ast.walk(tree) if isinstance(node, ast.FunctionDef)]
+
+
+CHANGING = ("append", "extend", "pop", "insert", "remove", "clear", "update", "setdefault", "reverse", "sort")
+
+
+def assigned_in(function):
+    """The dict from the names that a function binds to what they are assigned, None where it is not plain to see."""
+    found = {one.arg: [None] for one in function.args.args + function.args.kwonlyargs}
+    for node in ast.walk(function):
+        targets = []
+        if isinstance(node, ast.Assign):
+            targets = node.targets
+        elif isinstance(node, (ast.For, ast.comprehension)):
+            targets = [node.target]
+        for target in targets:
+            whole = isinstance(node, ast.Assign) and isinstance(target, ast.Name)
+            for one in ast.walk(target):
+                if isinstance(one, ast.Name) and isinstance(one.ctx, ast.Store):
+                    found.setdefault(one.id, []).append(node.value if whole else None)
+    return found
+
+
+def is_new(value):
+    """Whether an expression makes a value that nothing else holds."""
+    if isinstance(value, ast.Call):
+        return isinstance(value.func, ast.Name) and value.func.id in ("list", "dict", "tuple", "sorted", "set")
+    if isinstance(value, ast.Subscript):
+        return isinstance(value.slice, ast.Slice)
+    return isinstance(value, (ast.List, ast.Dict, ast.Tuple, ast.ListComp, ast.DictComp, ast.Constant, ast.BinOp))
+
+
+def walked_by(node):
+    """The names, attributes and items that a loop goes over."""
+    if isinstance(node, ast.Call):
+        if isinstance(node.func, ast.Name) and node.func.id in ("enumerate", "zip", "reversed"):
+            return [one for part in node.args for one in walked_by(part)]
+        if isinstance(node.func, ast.Attribute) and node.func.attr in ("items", "keys", "values"):
+            return walked_by(node.func.value)
+        return []
+    if isinstance(node, ast.IfExp):
+        return walked_by(node.body) + walked_by(node.orelse)
+    if isinstance(node, ast.BoolOp):
+        return [one for part in node.values for one in walked_by(part)]
+    if isinstance(node, ast.Subscript):
+        return [] if isinstance(node.slice, ast.Slice) else [node]
+    return [node] if isinstance(node, (ast.Name, ast.Attribute)) else []
+
+
+def changes_in(statements):
+    """The pairs (node, what it changes) of statements."""
+    found = []
+    for statement in statements:
+        for node in ast.walk(statement):
+            if isinstance(node, ast.Call) and isinstance(node.func, ast.Attribute) and node.func.attr in CHANGING:
+                found.append((node, node.func.value))
+            if isinstance(node, ast.Subscript) and isinstance(node.ctx, (ast.Store, ast.Del)):
+                found.append((node, node.value))
+    return found
+
+
+def may_be_one(target, walked, known):
+    """Whether what is changed may be what is walked, as far as one function shows."""
+    def is_own(name):
+        return name in known and all(value is not None and is_new(value) for value in known[name])
+    if isinstance(target, ast.Attribute):
+        return isinstance(walked, ast.Attribute) and walked.attr == target.attr
+    if isinstance(target, ast.Name):
+        if not isinstance(walked, ast.Name):
+            return not is_own(target.id)
+        if walked.id == target.id:
+            return True
+        if any(isinstance(value, ast.Name) and value.id == target.id for value in known.get(walked.id, [])):
+            return True
+        return not is_own(target.id) and not is_own(walked.id)
+    while isinstance(target, ast.Subscript):
+        target = target.value
+    if isinstance(target, ast.Name) and is_own(target.id):
+        return isinstance(walked, ast.Name) and walked.id == target.id
+    return True
 
 
 class Language(unittest.TestCase):
@@ -200,7 +280,7 @@ class Language(unittest.TestCase):
         found = [(path, node, type(node).__name__) for path, node in all_nodes(barred)]
         for path, node in all_nodes(ast.FunctionDef):
             for mark in node.decorator_list:
-                if not isinstance(mark, ast.Name) or mark.id != "property":
+                if not isinstance(mark, ast.Name) or mark.id not in ("property", "classmethod"):
                     found.append((path, node, "decorator"))
             for default in node.args.defaults + [one for one in node.args.kw_defaults if one is not None]:
                 if not self.is_plain(default, []):
@@ -216,7 +296,7 @@ class Language(unittest.TestCase):
 
     def test_classes_l5_l12_l18(self):
         found = []
-        methods, properties, attributes = {}, {}, {}
+        methods, properties, class_methods, attributes = {}, {}, {}, {}
         for path, node in all_nodes(ast.ClassDef):
             if not node.name[0].isalpha():
                 found.append((path, node, "name of a class"))
@@ -224,7 +304,8 @@ class Language(unittest.TestCase):
             for one in node.body:
                 if isinstance(one, ast.FunctionDef):
                     own.append(one.name)
-                    table = properties if one.decorator_list else methods
+                    word = ast.unparse(one.decorator_list[0]) if one.decorator_list else ""
+                    table = {"property": properties, "classmethod": class_methods, "": methods}[word]
                     table.setdefault(one.name, []).append((path, one))
                     if one.name.startswith("__") and one.name not in DUNDERS:
                         found.append((path, one, "double underscores"))
@@ -241,8 +322,11 @@ class Language(unittest.TestCase):
         for name in attributes:
             if name in NOT_ATTRIBUTES or name in methods:
                 found.append(attributes[name][0] + (f"attribute {name}",))
+        for name in class_methods:
+            if name in methods or name in attributes or name in properties or name in BUILTIN_METHODS:
+                found.append(class_methods[name][0] + (f"class method {name}",))
         for path, node in all_nodes(ast.Attribute):
-            known = set(methods) | set(properties) | set(attributes) | METHODS
+            known = set(methods) | set(properties) | set(class_methods) | set(attributes) | METHODS
             if node.attr not in known:
                 found.append((path, node, f"unknown attribute {node.attr}"))
             if node.attr in BUILTIN_METHODS - METHODS and node.attr not in methods:
@@ -280,7 +364,8 @@ class Language(unittest.TestCase):
             for sign, right in zip(node.ops, node.comparators):
                 if isinstance(sign, (ast.Is, ast.IsNot)):
                     of_none = isinstance(right, ast.Constant) and right.value in (None, True, False)
-                    of_type = ast.unparse(node.left).startswith("type(") and isinstance(right, ast.Name)
+                    of_type = ast.unparse(node.left).startswith("type(") and (
+                        isinstance(right, ast.Name) or isinstance(sign, ast.Is) and ast.unparse(right).startswith("type("))
                     if not of_none and not of_type:
                         found.append((path, node, "is"))
         for path, node in all_nodes(ast.Call):
@@ -316,26 +401,35 @@ class Language(unittest.TestCase):
 
     def test_loops_change_nothing_they_go_over_l23(self):
         found = []
-        changing = ("append", "extend", "pop", "insert", "remove", "clear", "update", "setdefault", "reverse")
-        for path, node in all_nodes(ast.For):
-            over = {ast.unparse(one) for one in ast.walk(node.iter) if isinstance(one, (ast.Name, ast.Attribute))}
-            if isinstance(node.iter, ast.Call) and ast.unparse(node.iter.func) in ("list", "sorted"):
-                continue
-            for one in ast.walk(node):
-                target = None
-                if isinstance(one, ast.Call) and isinstance(one.func, ast.Attribute) and one.func.attr in changing:
-                    target = ast.unparse(one.func.value)
-                if isinstance(one, ast.Subscript) and isinstance(one.ctx, (ast.Store, ast.Del)):
-                    target = ast.unparse(one.value)
-                if target in over:
-                    found.append((path, one, f"changes {target}"))
+        for path, node in all_nodes(ast.FunctionDef):
+            known = assigned_in(node)
+            for loop in [one for one in ast.walk(node) if isinstance(one, ast.For)]:
+                for one, target in changes_in(loop.body + loop.orelse):
+                    if any(may_be_one(target, walked, known) for walked in walked_by(loop.iter)):
+                        found.append((path, one, f"may change what is walked: {ast.unparse(target)}"))
         self.assert_none(found)
+
+    def test_the_check_of_loops_sees_what_it_should(self):
+        for text, wrong in (
+                ("for x in self.a:\n  self.b[x].append(1)", True), ("for x in list(self.a):\n  self.b[x].append(1)", False),
+                ("a = [1]\nwhile a:\n  b = []\n  for x in a:\n    b.append(x)\n  a = b", True),
+                ("a = [1]\nb = []\nfor x in a:\n  b.append(x)", False), ("for x in self.a:\n  self.a.append(x)", True),
+                ("for x, y in zip(a, self.a):\n  self.a[x] = y", True), ("for x in self.a:\n  self.b[x] = 1", False),
+                ("for x in a if a else b:\n  b.append(x)", True), ("for x in (p or q):\n  q[x] = 1", True),
+                ("a = b\nfor x in a:\n  b[x] = 1", True)):
+            tree = ast.parse("def f(self, p, q):\n" + "\n".join("  " + line for line in text.split("\n")))
+            known = assigned_in(tree.body[0])
+            seen = [target for loop in ast.walk(tree) if isinstance(loop, ast.For)
+                    for _, target in changes_in(loop.body) for walked in walked_by(loop.iter)
+                    if may_be_one(target, walked, known)]
+            self.assertEqual(len(seen) > 0, wrong, text)
 
     def test_errors_l19(self):
         own = {node.name for node in TREES[MODULES["sumstead.errors"]].body if isinstance(node, ast.ClassDef)}
         found = []
         for path, node in all_nodes(ast.ExceptHandler):
-            if not isinstance(node.type, ast.Name) or node.type.id not in own:
+            kinds = node.type.elts if isinstance(node.type, ast.Tuple) else [node.type]
+            if not all(isinstance(kind, ast.Name) and kind.id in own for kind in kinds):
                 found.append((path, node, "what is caught"))
         for path, node in all_nodes(ast.Raise):
             if node.exc is None:

@@ -86,7 +86,7 @@ class WideReading:
         self._levels = {}
         # Levels that places cannot come to without breaking what holds at the root.
         self._bars = {}
-        for place in self._order:
+        for place in list(self._order):
             tree = self._trees[place]
             if tree is None:
                 self._levels[place] = THERE if place in there else NOTHING

@@ -12,7 +12,7 @@ MAX_CELLS = 300
 _MOST_CHANGES = 1000
 
 
-def _are_rules(outline, value):
+def are_rules(outline, value):
     """Whether the value is a tuple of rules that suit the outline."""
     if type(value) is not tuple or len(value) > MAX_RULES:
         return False
@@ -23,7 +23,7 @@ def _is_change(outline, place, worth):
     return outline.is_leaf_place(place) and (worth is None or is_cell_worth(worth))
 
 
-def _are_changes(outline, value):
+def are_changes(outline, value):
     """Whether the value is a dict from leaf places to cell worths, or None for nothing."""
     if type(value) is not dict or len(value) > _MOST_CHANGES:
         return False
@@ -35,7 +35,7 @@ class Cube:
 
     def __init__(self, outline, rules=(), cells=None):
         check_outline(outline)
-        if not _are_rules(outline, rules):
+        if not are_rules(outline, rules):
             raise InvalidRule(rules)
         if cells is not None and not is_cells(outline, cells):
             raise InvalidCells(cells)
@@ -80,9 +80,9 @@ class Cube:
 
     def with_cells(self, changes):
         """The cube with other cells."""
-        if not _are_changes(self._outline, changes):
+        if not are_changes(self._outline, changes):
             raise InvalidCells(changes)
-        changed = self.cells
+        changed = {place: self._cells[place] for place in self._cells}
         for place in changes:
             changed[place] = changes[place]
         kept = {place: changed[place] for place in changed if changed[place] is not None}

@@ -33,7 +33,7 @@ class Net:
         row = [self.source]
         while len(row) > 0:
             found = []
-            for node in row:
+            for node in list(row):
                 for edge in self.edges_at[node]:
                     goal = self.goals[edge]
                     if self.spare[edge] > 0 and self.depths[goal] is None:

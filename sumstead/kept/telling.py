@@ -2,13 +2,13 @@
 
 from sumstead.base.integers import has_more_digits
 from sumstead.base.ordered import by_keys
-from sumstead.base.reckoning import added, multiplied, opposite, summed
+from sumstead.base.reckoning import opposite
 from sumstead.base.worths import ONE, ZERO, is_worth
 from sumstead.errors import InvalidCells, InvalidPlace, TooMany
 from sumstead.kept.solving import first_column, reduced, solved_rows
 from sumstead.outline.outlines import check_outline, check_place
 from sumstead.outline.trees import is_pair
-from sumstead.plain.weights import leaf_weights
+from sumstead.plain.weights import leaf_weights, mixed_weights, told_by_leaves
 
 _MOST_SEEN = 12
 _MOST_LEAF_PLACES = 300
@@ -35,18 +35,13 @@ def _is_filling(outline, value):
     return all([outline.is_leaf_place(key) and _is_filling_worth(value[key]) for key in value])
 
 
-def _told(outline, place, filling):
-    weights = leaf_weights(outline, place)
-    return summed([(weights[leaf_place], filling[leaf_place]) for leaf_place in weights])
-
-
 def told(outline, place, filling):
     """What a place is told with a filling."""
     check_outline(outline)
     check_place(outline, place)
     if not _is_filling(outline, filling):
         raise InvalidCells(filling)
-    return _told(outline, place, filling)
+    return told_by_leaves(outline, place, filling)
 
 
 def _are_seen(outline, value):
@@ -96,17 +91,6 @@ def mixture(outline, place, seen):
     return by_keys({one: opposite(factor) for one, factor in zip(seen, rest[many:])})
 
 
-def _mixed_weights(outline, factors):
-    """The sums of the factors times the leaf weights of their places, where these are not 0."""
-    sums = {}
-    for place in factors:
-        weights = leaf_weights(outline, place)
-        for leaf_place in weights:
-            more = multiplied(factors[place], weights[leaf_place])
-            sums[leaf_place] = added(sums.get(leaf_place, None), more)
-    return {leaf_place: sums[leaf_place] for leaf_place in sums if sums[leaf_place] != ZERO}
-
-
 def is_mixture(outline, place, seen, value):
     """Whether the value is a mixture of a place from just the seen places."""
     _check_seen(outline, place, seen)
@@ -114,7 +98,7 @@ def is_mixture(outline, place, seen, value):
         return False
     if not all([one in value and is_worth(value[one]) for one in seen]):
         return False
-    return _mixed_weights(outline, value) == leaf_weights(outline, place)
+    return mixed_weights(outline, value) == leaf_weights(outline, place)
 
 
 def unlike_fillings(outline, place, seen):
@@ -138,6 +122,6 @@ def are_unlike_fillings(outline, place, seen, value):
     _check_seen(outline, place, seen)
     if not is_pair(value) or not _is_filling(outline, value[0]) or not _is_filling(outline, value[1]):
         return False
-    if not all([_told(outline, one, value[0]) == _told(outline, one, value[1]) for one in seen]):
+    if not all([told_by_leaves(outline, one, value[0]) == told_by_leaves(outline, one, value[1]) for one in seen]):
         return False
-    return _told(outline, place, value[0]) != _told(outline, place, value[1])
+    return told_by_leaves(outline, place, value[0]) != told_by_leaves(outline, place, value[1])

@@ -6,8 +6,8 @@ from sumstead.errors import InvalidCells, InvalidOperation, InvalidRule
 from sumstead.outline.outlines import MAX_PLACES, MAX_SIDES
 from sumstead.plain.cubes import MAX_CELLS, check_cube_place
 from sumstead.plain.formulas import is_formula
-from sumstead.plain.linear import is_linear_node
 from sumstead.plain.mixes import MixWays, factors_of
+from sumstead.plain.nodes import is_linear_node
 from sumstead.plain.reading import Reader
 from sumstead.plain.weights import is_order
 

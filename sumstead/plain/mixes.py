@@ -10,7 +10,7 @@ from sumstead.base.integers import has_more_digits
 from sumstead.base.reckoning import added, divided, multiplied, summed
 from sumstead.base.worths import MOST_DIGITS, ONE, ZERO, is_over_great
 from sumstead.errors import Refused
-from sumstead.plain.linear import is_linear_node
+from sumstead.plain.nodes import is_linear_node
 
 _MINUS_ONE = (-1, 1)
 

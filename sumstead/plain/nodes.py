@@ -1,7 +1,7 @@
-"""Formulas and tests as trees of nodes: their form, their bounds, and the names in them."""
+"""Formulas and tests as trees of nodes: their form, their bounds, the names in them, and others made of them."""
 
 from sumstead.base.integers import is_passed_integer
-from sumstead.base.worths import is_name, is_worth
+from sumstead.base.worths import ZERO, is_name, is_worth
 from sumstead.plain.moves import are_moves, is_span, move_suits, span_suits
 
 FORMULA = "f"
@@ -13,6 +13,8 @@ _MOST_FOLDS = 2
 _FORMULAS = {"plus": "ff", "minus": "ff", "times": "ff", "over": "ff", "if": "tff"}
 _TESTS = {"below": "ff", "same": "ff", "there": "f", "not": "t", "both": "tt", "either": "tt"}
 _FOLDS = ("sum", "first", "last")
+
+_NOTHING = ("nothing",)
 
 
 def is_fold(node):
@@ -108,3 +110,34 @@ def node_suits(outline, node):
     if not all([name in outline.names for name in side_names(node)]):
         return False
     return all([_suits(outline, one) for one in nodes_of(node)])
+
+
+def is_linear_node(node):
+    """Whether a formula is linear."""
+    word = node[0]
+    if word == "worth" or word == "nothing" or word == "at":
+        return True
+    if word == "plus" or word == "minus":
+        return is_linear_node(node[1]) and is_linear_node(node[2])
+    if word == "times":
+        if node[1][0] != "worth" and node[2][0] != "worth":
+            return False
+        return is_linear_node(node[1]) and is_linear_node(node[2])
+    if word == "over":
+        return node[2][0] == "worth" and node[2][1] != ZERO and is_linear_node(node[1])
+    return word == "sum" and is_linear_node(node[3])
+
+
+def rebuilt(node, change):
+    """A formula, or a test, with the moves and the spans that a change tells.
+
+    The change has the methods `moves_for` and `span_for`, which tell None where the formula becomes nothing.
+    """
+    if node[0] == "at":
+        moves = change.moves_for(node[1])
+        return _NOTHING if moves is None else ("at", moves)
+    if is_fold(node):
+        span = change.span_for(node[1], node[2])
+        return _NOTHING if span is None else (node[0], node[1], span, rebuilt(node[3], change))
+    parts = [rebuilt(part, change) for part, _ in parts_of(node)]
+    return node if len(parts) == 0 else (node[0], *parts)

@@ -1,7 +1,7 @@
 """Weights of leaves: what a place is told of, and in which orders of sides."""
 
-from sumstead.base.reckoning import multiplied, summed
-from sumstead.base.worths import ONE
+from sumstead.base.reckoning import added, multiplied, summed
+from sumstead.base.worths import ONE, ZERO
 from sumstead.errors import InvalidOperation, InvalidPlace
 from sumstead.outline.outlines import check_outline, check_place, is_cells, same_places
 from sumstead.plain.boxes import Box, weight_in
@@ -22,6 +22,23 @@ def leaf_weights(outline, place):
         below = sorted(side.under(member))
         found = [(begun + (leaf,), multiplied(weight, part)) for begun, weight in found for leaf, part in below]
     return {leaf_place: weight for leaf_place, weight in found}
+
+
+def mixed_weights(outline, factors):
+    """The sums of the factors of places times their leaf weights, where these are not 0."""
+    sums = {}
+    for place in factors:
+        weights = leaf_weights(outline, place)
+        for leaf_place in weights:
+            more = multiplied(factors[place], weights[leaf_place])
+            sums[leaf_place] = added(sums.get(leaf_place, None), more)
+    return {leaf_place: sums[leaf_place] for leaf_place in sums if sums[leaf_place] != ZERO}
+
+
+def told_by_leaves(outline, place, filling):
+    """What a place is told by its leaf weights and the worths of all leaf places."""
+    weights = leaf_weights(outline, place)
+    return summed([(weights[leaf_place], filling[leaf_place]) for leaf_place in weights])
 
 
 def _members_beneath(side, member):

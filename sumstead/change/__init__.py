@@ -1,0 +1,1 @@
+"""Edits of outlines."""

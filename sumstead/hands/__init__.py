@@ -1,0 +1,1 @@
+"""The line of commits, and sandboxes that stand on it."""

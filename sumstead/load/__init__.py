@@ -1,0 +1,1 @@
+"""Loads of rows, and the way down to them."""

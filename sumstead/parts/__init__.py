@@ -1,0 +1,1 @@
+"""A cube in several parts."""

@@ -1,0 +1,1 @@
+"""What a viewer may see."""

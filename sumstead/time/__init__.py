@@ -1,0 +1,1 @@
+"""Rules along a side of time."""

@@ -54,6 +54,26 @@ FUNCTIONS = {
         "parts_of": "(cube, place, way)", "exact_shares": "(cube, place, total, way)",
         "spread": "(cube, place, total, way, *, unit=(1, 1))",
         "is_spread": "(cube, place, total, way, value, *, unit=(1, 1))"},
+    "sumstead.hands.line": {"is_deed": "(cube, value)", "cube_behind": "(cube, deed)"},
+    "sumstead.hands.sandboxes": {"parting_write": "(one, other)", "are_free": "(one, other)"},
+    "sumstead.change.edits": {
+        "is_script": "(value)", "edited": "(outline, script)", "carried": "(cube, script)", "table_of": "(outline, script)",
+        "are_alike": "(outline, one, other)", "unlike_cells": "(outline, one, other)",
+        "is_unlike": "(outline, one, other, value)"},
+    "sumstead.right.views": {"cut_outline": "(outline, right)", "cut_cube": "(cube, right)"},
+    "sumstead.right.hidden": {
+        "told_cell": "(outline, right, leaf_place)", "is_told_cell": "(outline, right, leaf_place, value)",
+        "hidden_fillings": "(outline, right, leaf_place)",
+        "are_hidden_fillings": "(outline, right, leaf_place, value)", "leaks": "(outline, right)"},
+    "sumstead.time.rules": {
+        "span_of": "(side, member, span)",
+        "to_date": "(outline, time, hierarchy, kind, goal, source, *, rank=50)",
+        "over_window": "(outline, time, count, kind, goal, source, *, rank=50)",
+        "opening": "(outline, time, kind, goal, source, *, rank=50)",
+        "closing": "(outline, time, kind, goal, source, *, rank=50)",
+        "rise": "(outline, time, kind, goal, source, *, rank=50)", "with_more": "(cube, rules)"},
+    "sumstead.disk.log": {
+        "write_plain": "(value)", "read_plain": "(text)", "log_text": "(cube, number, commits)", "read_log": "(text)"},
 }
 
 CLASSES = {
@@ -108,6 +128,48 @@ CLASSES = {
                    {"pair_at": "(self, leaf_place)", "filling": "(self)", "cut": "(self)",
                     "is_filling": "(self, value)", "is_cut": "(self, value)", "__contains__": "(self, value)",
                     "__len__": "(self)", "__eq__": "(self, other)", "__str__": "(self)"})},
+    "sumstead.hands.line": {
+        "Line": ("(cube)", ("present", "cube", "commits", "ahead"),
+                 {"commit": "(self, author, deeds)", "at": "(self, number)", "changed": "(self, number)",
+                  "back": "(self, count=1)", "forward": "(self, count=1)", "compared": "(self, one, other)",
+                  "__contains__": "(self, value)", "__len__": "(self)", "__eq__": "(self, other)", "__str__": "(self)"})},
+    "sumstead.hands.sandboxes": {
+        "Sandbox": ("(line, author)", ("author", "base", "cube", "writes", "rules", "has_read", "has_asked"),
+                    {"write": "(self, changes)", "put_rules": "(self, rules)", "answer": "(self, place)",
+                     "commit": "(self)", "renew": "(self)", "__len__": "(self)", "__eq__": "(self, other)",
+                     "__str__": "(self)"})},
+    "sumstead.right.views": {
+        "Right": ("(hidden, granted=())", ("hidden", "granted"),
+                  {"suits": "(self, outline)", "__eq__": "(self, other)", "__str__": "(self)"}),
+        "View": ("(cube, right)", ("cube", "right", "seen"),
+                 {"answer": "(self, place)", "__contains__": "(self, value)", "__len__": "(self)",
+                  "__eq__": "(self, other)", "__str__": "(self)"})},
+    "sumstead.load.loads": {
+        "Load": ("(outline, fields, worth_field, rows)",
+                 ("outline", "fields", "worth_field", "rows", "refused", "entries", "totals"), {"__eq__": "(self, other)"}),
+        "Ledger": ("(cube)", ("first", "cube", "loads", "kept"),
+                   {"lay": "(self, load, way='add')", "take_back": "(self, number)", "again": "(self, number)",
+                    "down": "(self, place)"})},
+    "sumstead.parts.parts": {
+        "Parts": ("(cube, name, cuts=())", ("name", "cuts", "stretches", "sent", "oldest", "sure", "rows"),
+                  {"send": "(self, changes)", "fetch": "(self, index, count=1)", "follow": "(self, index, count=1)",
+                   "fall": "(self, index)", "shift": "(self, index, cut)", "forget": "(self, moment)",
+                   "cells_in": "(self, index, moment=None)", "answer": "(self, place, moment=None)", "__len__": "(self)",
+                   "__eq__": "(self, other)", "__str__": "(self)"})},
+    "sumstead.disk.disk": {
+        "Disk": ("(*, power=None)", ("names", "steps"),
+                 {"append": "(self, name, text)", "sync": "(self, name)", "remove": "(self, name)",
+                  "rename": "(self, old, new)", "sync_names": "(self)", "read": "(self, name)",
+                  "lost": "(self, choices=(), *, power=None)", "__contains__": "(self, value)", "__len__": "(self)",
+                  "__str__": "(self)"})},
+    "sumstead.disk.keeper": {
+        "Keeper": ("(disk, cube)", ("cube", "number", "base", "commits"),
+                   {"commit": "(self, author, deeds)", "squeeze": "(self)", "__len__": "(self)", "__eq__": "(self, other)",
+                    "__str__": "(self)"})},
+    "sumstead.text.shell": {
+        "Shell": ("(line)", ("author", "authors", "cube", "said"),
+                  {"say": "(self, text)", "run": "(self, texts)", "__contains__": "(self, value)", "__len__": "(self)",
+                   "__str__": "(self)"})},
 }
 
 CONSTANTS = {
@@ -124,6 +186,15 @@ CONSTANTS = {
     "sumstead.kept.sums": {"MAX_KEPT": 12},
     "sumstead.store.codings": {"MAX_ROW": 1000, "KINDS": ("plain", "runs", "sparse", "steps")},
     "sumstead.store.blocks": {"MAX_DENSE": 1000, "FREE": "_"},
+    "sumstead.hands.line": {"MAX_COMMITS": 100, "MAX_DEEDS": 5},
+    "sumstead.change.edits": {"MAX_EDITS": 30, "MAX_TABLE": 20000},
+    "sumstead.right.views": {"MAX_GRANTED": 20},
+    "sumstead.load.loads": {"MAX_FIELDS": 12, "MAX_ROWS": 200, "MAX_LOADS": 20},
+    "sumstead.parts.parts": {"MAX_PARTS": 8, "MAX_SENT": 100},
+    "sumstead.disk.disk": {"MAX_FILES": 8, "MAX_TEXT": 200000},
+    "sumstead.disk.keeper": {"MAX_KEPT": 100},
+    "sumstead.text.shell": {"MAX_LINE": 2000, "SHELL_WORDS": (
+        "as", "back", "commit", "drop", "forward", "norule", "put", "renew", "rule", "sheet", "spread", "tell", "who")},
 }
 
 ERRORS = ("CubeError", "InvalidName", "InvalidWorth", "InvalidOutline", "InvalidPlace", "InvalidCells", "InvalidRule",
@@ -157,6 +228,11 @@ class Interface(unittest.TestCase):
                     self.assertIsInstance(vars(kind)[one], property)
                 for method, takes in methods.items():
                     self.assertEqual(str(inspect.signature(vars(kind)[method])), takes, method)
+
+    def test_the_class_method(self):
+        kind = importlib.import_module("sumstead.disk.keeper").Keeper
+        self.assertIsInstance(vars(kind)["up"], classmethod)
+        self.assertEqual(str(inspect.signature(kind.up)), "(disk)")
 
     def test_constants(self):
         for name, told in CONSTANTS.items():

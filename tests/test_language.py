@@ -147,6 +147,53 @@ def may_be_one(target, walked, known):
     return True
 
 
+def stored_in(function):
+    """What a function changes that it did not plainly create itself, as texts."""
+    known = assigned_in(function)
+    found = []
+    for node in ast.walk(function):
+        if isinstance(node, ast.Attribute) and isinstance(node.ctx, (ast.Store, ast.Del)):
+            found.append(ast.unparse(node))
+    for _, target in changes_in(function.body):
+        while isinstance(target, ast.Subscript):
+            target = target.value
+        if not isinstance(target, ast.Name) or not all(value is not None and is_new(value) for value in known.get(target.id, [None])):
+            found.append(ast.unparse(target))
+    return found
+
+
+def functions_at(path):
+    """The functions that a file's names stand for, its own and imported ones."""
+    found = {node.name: (path, node) for node in TREES[path].body if isinstance(node, ast.FunctionDef)}
+    for node in TREES[path].body:
+        if isinstance(node, ast.ImportFrom) and node.module in MODULES:
+            for one in TREES[MODULES[node.module]].body:
+                if isinstance(one, ast.FunctionDef) and one.name in [name.name for name in node.names]:
+                    found[one.name] = (MODULES[node.module], one)
+    return found
+
+
+def all_methods():
+    """The dict from the names of methods to all methods of this name."""
+    found = {}
+    for path, kind in all_nodes(ast.ClassDef):
+        for one in kind.body:
+            if isinstance(one, ast.FunctionDef):
+                found.setdefault(one.name, []).append((path, one))
+    return found
+
+
+def called_by(function, known, methods):
+    """The functions and methods that a function may call: functions by its file's names, methods by any class."""
+    found = []
+    for node in ast.walk(function):
+        if isinstance(node, ast.Call) and isinstance(node.func, ast.Name) and node.func.id in known:
+            found.append(known[node.func.id])
+        if isinstance(node, ast.Call) and isinstance(node.func, ast.Attribute) and node.func.attr not in METHODS:
+            found.extend(methods.get(node.func.attr, []))
+    return found
+
+
 class Language(unittest.TestCase):
     def assert_none(self, found):
         self.assertEqual([f"{os.path.relpath(path, ROOT)}:{getattr(node, 'lineno', node)} {why}"
@@ -351,6 +398,23 @@ class Language(unittest.TestCase):
                 found.append((path, node, "__str__"))
             if node.name in ("__len__", "__str__") and not isinstance(node.body[-1], ast.Return):
                 found.append((path, node, "no return at the end"))
+        self.assert_none(found)
+
+    def test_operators_and_properties_change_nothing_l5_l28(self):
+        found, seen, left = [], {}, []
+        known, methods = {path: functions_at(path) for path in FILES}, all_methods()
+        for path, node in all_nodes(ast.ClassDef):
+            for one in node.body:
+                marks = [ast.unparse(mark) for mark in one.decorator_list] if isinstance(one, ast.FunctionDef) else []
+                if isinstance(one, ast.FunctionDef) and ("property" in marks or one.name in DUNDERS - {"__init__", "__iter__", "__call__"}):
+                    left.append((path, one))
+        while left:
+            path, node = left.pop()
+            if id(node) not in seen:
+                seen[id(node)] = True
+                found.extend((path, node, f"changes {text}") for text in stored_in(node))
+                left.extend(called_by(node, known[path], methods))
+        self.assertGreater(len(seen), 150)
         self.assert_none(found)
 
     def test_expressions_l7_l20_l22(self):

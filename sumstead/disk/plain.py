@@ -98,7 +98,7 @@ def _read_word(reader):
     return reader.plain_signs[begin:reader.at_sign]
 
 
-def _read_digits(reader, firsts):
+def _pass_digits(reader, firsts):
     """Takes the digits of a number whose first one is one of some."""
     first = reader.take(firsts)
     many = 1
@@ -111,7 +111,7 @@ def _read_digits(reader, firsts):
 
 def _read_integer(reader):
     begin = reader.at_sign
-    _read_digits(reader, DIGITS)
+    _pass_digits(reader, DIGITS)
     return int(reader.plain_signs[begin:reader.at_sign])
 
 
@@ -121,7 +121,7 @@ def _read_minus(reader):
     reader.take("-")
     if reader.sign() == "" or reader.sign() in " )}":
         return None
-    _read_digits(reader, DIGITS[1:])
+    _pass_digits(reader, DIGITS[1:])
     return int(reader.plain_signs[begin:reader.at_sign])
 
 

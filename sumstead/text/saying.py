@@ -103,7 +103,7 @@ def _parsed_question(text, begin):
         raise ParseError(begin + wrong.spot)
 
 
-def _take_axis(pieces):
+def _axis_said(pieces):
     """Takes the name of a side, and a question for it."""
     side = pieces.take_name()
     text, begin = pieces.take_up_to("/")
@@ -112,52 +112,52 @@ def _take_axis(pieces):
     return (side, question)
 
 
-def _take_nothing(pieces, many):
+def _nothing_said(pieces, many):
     return ()
 
 
-def _take_author(pieces, many):
+def _author_said(pieces, many):
     return (pieces.take_name(),)
 
 
-def _take_place(pieces, many):
+def _place_said(pieces, many):
     return (pieces.take_place(many),)
 
 
-def _take_put(pieces, many):
+def _put_said(pieces, many):
     place = pieces.take_place(many)
     pieces.take_one_of(("=",))
     return (place, pieces.take_worth())
 
 
-def _take_spread(pieces, many):
-    return _take_put(pieces, many) + (pieces.take_one_of(("even", "own")),)
+def _spread_said(pieces, many):
+    return _put_said(pieces, many) + (pieces.take_one_of(("even", "own")),)
 
 
-def _take_number(pieces, many):
+def _number_said(pieces, many):
     return (pieces.take_number(),)
 
 
-def _take_sheet(pieces, many):
-    rows = _take_axis(pieces)
-    columns = _take_axis(pieces)
+def _sheet_said(pieces, many):
+    rows = _axis_said(pieces)
+    columns = _axis_said(pieces)
     return (rows, columns, pieces.take_place(many))
 
 
-def _take_rest(pieces, many):
+def _rest_said(pieces, many):
     return pieces.take_rest()
 
 
-_TAKERS = {
-    "as": _take_author, "tell": _take_place, "put": _take_put, "spread": _take_spread, "rule": _take_rest,
-    "norule": _take_number, "sheet": _take_sheet, "commit": _take_nothing, "renew": _take_nothing,
-    "drop": _take_nothing, "back": _take_nothing, "forward": _take_nothing, "who": _take_nothing,
+_SAID = {
+    "as": _author_said, "tell": _place_said, "put": _put_said, "spread": _spread_said, "rule": _rest_said,
+    "norule": _number_said, "sheet": _sheet_said, "commit": _nothing_said, "renew": _nothing_said,
+    "drop": _nothing_said, "back": _nothing_said, "forward": _nothing_said, "who": _nothing_said,
 }
 
 
 def parts_said(word, pieces, many):
     """The parts behind a word, for places with so many members; ParseError at the first piece that cannot stand."""
-    take = _TAKERS[word]
+    take = _SAID[word]
     parts = take(pieces, many)
     pieces.end()
     return parts

@@ -84,12 +84,13 @@ class Disk:
             raise InvalidOperation("no text of a file")
         if name not in self and len(self) == MAX_FILES:
             raise TooMany(MAX_FILES)
-        before = self._tables[-1][name].text if name in self else ""
+        before = self.read(name) if name in self else ""
         if len(before) + len(text) > MAX_TEXT:
             raise TooMany(MAX_TEXT)
         self._step()
         if name in self:
-            self._tables[-1][name].text = before + text
+            file = self._tables[-1][name]
+            file.text = before + text
         else:
             table = self._other_names(name)
             table[name] = DiskFile(text, 0)

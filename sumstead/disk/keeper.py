@@ -98,7 +98,7 @@ class Keeper:
         """Does deeds, and keeps them; the number."""
         check_author(author)
         check_deeds(deeds)
-        if len(self._commits) == MAX_KEPT:
+        if len(self._commits) >= MAX_KEPT:
             raise TooMany(MAX_KEPT)
         behind = cube_behind_all(self._cube, deeds)
         commit = (self.number + 1, author, copied_deeds(deeds))

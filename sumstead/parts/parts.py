@@ -25,6 +25,11 @@ def _stretches(leaves, cuts):
     return tuple([leaves[begin:end] for begin, end in zip(begins, ends)])
 
 
+def _cut_at(stocks, index, stretches):
+    """The stocks, with two of them side by side cut anew."""
+    return stocks[:index] + cut_anew(stocks[index], stocks[index + 1], stretches) + stocks[index + 2:]
+
+
 class Parts:
     """Changes that are sent, and the parts and copies that fetch them."""
 
@@ -133,8 +138,8 @@ class Parts:
             raise Refused(("uneven", index))
         self._cuts = self._cuts[:index] + (cut,) + self._cuts[index + 1:]
         stretches = self.stretches[index:index + 2]
-        self._parts[index:index + 2] = cut_anew(self._parts[index], self._parts[index + 1], stretches)
-        self._copies[index:index + 2] = cut_anew(self._copies[index], self._copies[index + 1], stretches)
+        self._parts = _cut_at(self._parts, index, stretches)
+        self._copies = _cut_at(self._copies, index, stretches)
 
     def forget(self, moment):
         """Makes a moment the oldest one that is kept."""

@@ -51,9 +51,8 @@ def first_stock(at, stretch, cells):
 def cut_anew(one, other, stretches):
     """Two stocks side by side, of one moment, with their cells parted into other stretches."""
     wholes = [joined_cells([one, other], one.begin + count) for count in range(len(one.moment_rows))]
-    made = [Stock(one.side_at, stretch, one.begin, [_cells_in(one.side_at, stretch, cells) for cells in wholes])
+    return [Stock(one.side_at, stretch, one.begin, [_cells_in(one.side_at, stretch, cells) for cells in wholes])
             for stretch in stretches]
-    return (made[0], made[1])
 
 
 def joined_cells(stocks, moment):

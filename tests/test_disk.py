@@ -34,7 +34,8 @@ class Disks(unittest.TestCase, Checks):
         self.assertIsNone(disk.rename("b", "c"))
         self.assertIsNone(disk.remove("a"))
         self.assertIsNone(disk.sync_names())
-        self.assertEqual((texts(disk), disk.steps, "c" in disk, "b" in disk, str(disk)), ({"c": "one\ntwo~ "}, 7, True, False, "disk of 1 files, 7 steps"))
+        self.assertEqual((texts(disk), disk.steps, "c" in disk, "b" in disk, str(disk)),
+                         ({"c": "one\ntwo~ "}, 7, True, False, "disk of 1 files, 7 steps"))
         self.assertRaises(TypeError, iter, disk)
         for value in odd_values():
             self.assertFalse(value in disk)
@@ -132,13 +133,15 @@ class Disks(unittest.TestCase, Checks):
         self.assertEqual((texts(left.lost()), texts(disk)["a"]), ({"a": "onemore", "b": "?"}, "onemore"))
 
     def test_changes_of_names_stay_in_order(self):
-        disk = made(("append", "a", "x"), ("sync", "a"), ("sync_names",), ("rename", "a", "b"), ("append", "a", "y"), ("sync", "a"), ("remove", "b"))
+        disk = made(("append", "a", "x"), ("sync", "a"), ("sync_names",), ("rename", "a", "b"), ("append", "a", "y"), ("sync", "a"),
+                    ("remove", "b"))
         self.assertEqual([texts(disk.lost((many,))) for many in range(4)], [{"a": "x"}, {"b": "x"}, {"a": "y", "b": "x"}, {"a": "y"}])
         # a file that is removed and made anew is another file
         disk = made(("append", "a", "x"), ("sync", "a"), ("sync_names",), ("remove", "a"), ("append", "a", "yz"))
         self.assertEqual([texts(disk.lost((many, 1))) for many in range(3)], [{"a": "x"}, {}, {"a": "y"}])
         # onto another file, and onto itself
-        disk = made(("append", "a", "x"), ("sync", "a"), ("append", "b", "y"), ("sync", "b"), ("sync_names",), ("rename", "a", "b"), ("rename", "b", "b"), ("remove", "b"))
+        disk = made(("append", "a", "x"), ("sync", "a"), ("append", "b", "y"), ("sync", "b"), ("sync_names",), ("rename", "a", "b"),
+                    ("rename", "b", "b"), ("remove", "b"))
         self.assertEqual([texts(disk.lost((many,))) for many in range(4)], [{"a": "x", "b": "y"}, {"b": "x"}, {"b": "x"}, {}])
 
     def test_firm_names_do_not_make_texts_firm(self):

@@ -129,7 +129,8 @@ class EachEdit(unittest.TestCase, Checks):
 
     def test_group_and_ungroup(self):
         rows = rows_behind(WIDE, ("group", "deep", "one", ("g", "h"), "new"))
-        self.assertEqual(rows, (("top", (("new", ONE), ("e", ONE))), ("new", (("g", ONE), ("h", (2, 1)))), ("g", (("a", ONE), ("b", (3, 1)))),
+        self.assertEqual(rows, (("top", (("new", ONE), ("e", ONE))), ("new", (("g", ONE), ("h", (2, 1)))),
+                                ("g", (("a", ONE), ("b", (3, 1)))),
                                 ("h", (("c", HALF), ("d", HALF)))))
         rows = rows_behind(WIDE, ("group", "deep", "one", ("d",), "new"))
         self.assertEqual(rows[2:], (("h", (("c", HALF), ("new", ONE))), ("new", (("d", HALF),))))
@@ -139,7 +140,8 @@ class EachEdit(unittest.TestCase, Checks):
 
     def test_rows_stand_in_the_order_of_the_tree(self):
         rows = (("t", (("p", ONE), ("q", ONE))), ("q", (("c", ONE), ("d", ONE))), ("p", (("r", ONE), ("a", ONE))), ("r", (("b", ONE),)))
-        outline = one_side(("a", "b", "c", "d"), ("h", rows), ("k", (("u", (("v", ONE), ("w", ONE))), ("w", (("a", ONE),)), ("v", (("b", ONE),)))))
+        outline = one_side(("a", "b", "c", "d"), ("h", rows), ("k", (("u", (("v", ONE), ("w", ONE))), ("w", (("a", ONE),)),
+                                                                     ("v", (("b", ONE),)))))
 
         def order(edit, at=0):
             return [row[0] for row in edited(outline, (edit,)).sides[0].hierarchies[at][1]]
@@ -199,22 +201,30 @@ class Words(unittest.TestCase, Checks):
         return error.reason[2]
 
     def test_unknown(self):
-        edits_of = [("add", "x", "n"), ("add", "x", "a"), ("drop", "deep", "x"), ("drop", "deep", "g"), ("drop", "x", "a"), ("rename", "deep", "x", "a"),
-                    ("move", "deep", "x", "a", "g", 0, ONE), ("move", "deep", "one", "x", "g", 0, ONE), ("move", "deep", "one", "a", "x", 0, ONE),
-                    ("move", "deep", "one", "a", "b", 0, ONE), ("move", "deep", "one", "a", "all", 0, ONE), ("move", "deep", "two", "g", "all", 0, ONE),
+        edits_of = [("add", "x", "n"), ("add", "x", "a"), ("drop", "deep", "x"), ("drop", "deep", "g"), ("drop", "x", "a"),
+                    ("rename", "deep", "x", "a"),
+                    ("move", "deep", "x", "a", "g", 0, ONE), ("move", "deep", "one", "x", "g", 0, ONE),
+                    ("move", "deep", "one", "a", "x", 0, ONE),
+                    ("move", "deep", "one", "a", "b", 0, ONE), ("move", "deep", "one", "a", "all", 0, ONE),
+                    ("move", "deep", "two", "g", "all", 0, ONE),
                     ("move", "deep", "one", "top", "g", 0, ONE), ("group", "deep", "x", ("a",), "n"), ("group", "deep", "one", ("x",), "n"),
-                    ("group", "deep", "one", ("a", "x"), "a"), ("group", "deep", "one", ("top",), "n"), ("group", "deep", "one", ("all",), "n"),
+                    ("group", "deep", "one", ("a", "x"), "a"), ("group", "deep", "one", ("top",), "n"),
+                    ("group", "deep", "one", ("all",), "n"),
                     ("ungroup", "deep", "top"), ("ungroup", "deep", "a"), ("ungroup", "deep", "x"), ("ungroup", "deep", "one"),
                     ("split", "deep", "g", (("n", HALF), ("m", HALF))), ("split", "deep", "x", (("a", HALF), ("b", HALF))),
-                    ("join", "deep", ("a", "g"), "n"), ("join", "deep", ("a", "x"), "c"), ("weight", "deep", "x", "a", ONE), ("weight", "deep", "one", "x", ONE),
+                    ("join", "deep", ("a", "g"), "n"), ("join", "deep", ("a", "x"), "c"), ("weight", "deep", "x", "a", ONE),
+                    ("weight", "deep", "one", "x", ONE),
                     ("weight", "deep", "one", "top", ONE), ("weight", "deep", "two", "d", ONE), ("weight", "deep", "two", "g", ONE)]
         for edit in edits_of:
             self.assertEqual(self.word(WIDE, edit), "unknown", edit)
 
     def test_taken(self):
-        for edit in (("add", "deep", "a"), ("add", "deep", "g"), ("rename", "deep", "a", "b"), ("rename", "deep", "g", "h"), ("rename", "deep", "a", "all"),
-                     ("group", "deep", "one", ("a",), "a"), ("group", "deep", "one", ("a", "b"), "all"), ("group", "deep", "one", ("b", "a"), "e"),
-                     ("split", "deep", "a", (("a", HALF), ("b", HALF))), ("join", "deep", ("c", "d"), "e"), ("join", "deep", ("a", "e"), "top")):
+        for edit in (("add", "deep", "a"), ("add", "deep", "g"), ("rename", "deep", "a", "b"), ("rename", "deep", "g", "h"),
+                     ("rename", "deep", "a", "all"),
+                     ("group", "deep", "one", ("a",), "a"), ("group", "deep", "one", ("a", "b"), "all"),
+                     ("group", "deep", "one", ("b", "a"), "e"),
+                     ("split", "deep", "a", (("a", HALF), ("b", HALF))), ("join", "deep", ("c", "d"), "e"),
+                     ("join", "deep", ("a", "e"), "top")):
             self.assertEqual(self.word(WIDE, edit), "taken", edit)
         for edit in (("add", "deep", "one"), ("add", "deep", "jan"), ("add", "deep", "deep"), ("rename", "deep", "a", "a")):
             self.assertIsInstance(edited(WIDE, (edit,)), Outline)
@@ -225,8 +235,10 @@ class Words(unittest.TestCase, Checks):
         self.assertEqual(self.word(WIDE, *script), "ring")
 
     def test_apart(self):
-        for edit in (("group", "deep", "one", ("a", "c"), "n"), ("group", "deep", "one", ("b", "a"), "n"), ("group", "deep", "one", ("g", "e"), "n"),
-                     ("group", "deep", "two", ("d",), "n"), ("group", "deep", "two", ("g",), "n"), ("group", "deep", "one", ("a", "a"), "n"),
+        for edit in (("group", "deep", "one", ("a", "c"), "n"), ("group", "deep", "one", ("b", "a"), "n"),
+                     ("group", "deep", "one", ("g", "e"), "n"),
+                     ("group", "deep", "two", ("d",), "n"), ("group", "deep", "two", ("g",), "n"),
+                     ("group", "deep", "one", ("a", "a"), "n"),
                      ("group", "deep", "one", ("a", "b", "c"), "n"), ("join", "deep", ("a", "b"), "n"), ("join", "deep", ("a", "c"), "n"),
                      ("join", "deep", ("c", "d"), "n"), ("join", "deep", ("d", "e"), "d")):
             self.assertEqual(self.word(WIDE, edit), "apart", edit)
@@ -312,7 +324,8 @@ class Carrying(unittest.TestCase, Checks):
         by_span = Rule((None, None), ("sum", "deep", ("members", ("e", "d")), HERE))
         fine = Rule((("a",), None), NOTHING)
         cube = CUBE.with_rules((fine, by_move, by_span, by_area))
-        for script, reason in (((("drop", "deep", "d"),), ("rule", 0, 2)), ((("add", "deep", "n"), ("ungroup", "deep", "h")), ("rule", 1, 1)),
+        for script, reason in (((("drop", "deep", "d"),), ("rule", 0, 2)), ((("add", "deep", "n"), ("ungroup", "deep", "h")),
+                ("rule", 1, 1)),
                                ((("split", "deep", "d", (("x", HALF), ("y", HALF))),), ("rule", 0, 2)),
                                ((("rename", "deep", "d", "z"), ("drop", "deep", "z")), ("rule", 1, 2)),
                                ((("drop", "deep", "d"), ("drop", "deep", "x")), ("rule", 0, 2)),
@@ -405,14 +418,16 @@ class Tables(unittest.TestCase, Checks):
         other = (("split", "shop", "a", (("n", HALF), ("s", HALF))),)
         self.assertFalse(is_unlike(FLAT, SPLIT, other, {("feb", "a"): (0, 1)}))
         self.assertTrue(is_unlike(FLAT, SPLIT, other, {("feb", "a"): ONE}))
-        for value in ({("feb", "n"): ONE}, {("feb", "both"): ONE}, {("feb", "a"): (10 ** 18, 1)}, {("feb", "a"): None}, {("feb", "a"): (True, 1)},
+        for value in ({("feb", "n"): ONE}, {("feb", "both"): ONE}, {("feb", "a"): (10 ** 18, 1)}, {("feb", "a"): None},
+                      {("feb", "a"): (True, 1)},
                       [("feb", "a")], {"feb": ONE}):
             self.assertFalse(is_unlike(FLAT, SPLIT, (), value))
 
     def test_cells_that_cancel_are_alike(self):
         outline = one_side(("a", "b"))
         join = (("join", "s", ("a", "b"), "c"),)
-        twice = (("split", "s", "a", (("a", (2, 1)), ("x", MINUS))), ("drop", "s", "x"), ("split", "s", "b", (("b", HALF), ("y", HALF))), ("drop", "s", "y"),
+        twice = (("split", "s", "a", (("a", (2, 1)), ("x", MINUS))), ("drop", "s", "x"),
+                 ("split", "s", "b", (("b", HALF), ("y", HALF))), ("drop", "s", "y"),
                  ("join", "s", ("a", "b"), "c"))
         self.assertEqual(table_of(outline, twice), {("a",): ((("c",), (2, 1)),), ("b",): ((("c",), HALF),)})
         self.assertTrue(is_unlike(outline, join, twice, {("a",): ONE}))

@@ -92,7 +92,8 @@ class Hidden(unittest.TestCase, Checks):
 
     def test_cells_told_by_several_granted_places(self):
         # b of January by the sum and the difference, though both its leaves are hidden
-        side = Side("shop", ("a", "b", "c"), (("sums", (("both", (("a", ONE), ("b", ONE))),)), ("less", (("diff", (("a", ONE), ("b", (-1, 1)))),))))
+        side = Side("shop", ("a", "b", "c"), (("sums", (("both", (("a", ONE), ("b", ONE))),)),
+                                              ("less", (("diff", (("a", ONE), ("b", (-1, 1)))),))))
         outline = Outline((FLAT.sides[0], side))
         right = Right({"shop": ("a", "b")}, (("jan", "both"), ("jan", "diff")))
         self.assertEqual(told_cell(outline, right, JAN_B), {("jan", "both"): (1, 2), ("jan", "diff"): (-1, 2)})
@@ -116,15 +117,19 @@ class Hidden(unittest.TestCase, Checks):
         self.assertEqual((told_cell(FLAT, right, JAN_B), leaks(FLAT, right)), ({JAN_B: ONE}, (JAN_B,)))
         # one mixture of several
         right = Right({"shop": ("b",)}, (("jan", "both"), ("jan", "diff")))
-        for mixture in ({JAN_A: (-1, 1), ("jan", "both"): ONE}, {JAN_A: ONE, ("jan", "diff"): (-1, 1)}, {("jan", "both"): (1, 2), ("jan", "diff"): (-1, 2)}):
+        for mixture in ({JAN_A: (-1, 1), ("jan", "both"): ONE}, {JAN_A: ONE, ("jan", "diff"): (-1, 1)},
+                        {("jan", "both"): (1, 2), ("jan", "diff"): (-1, 2)}):
             self.assertTrue(is_told_cell(FLAT, right, JAN_B, mixture))
         self.assertTrue(is_told_cell(FLAT, right, JAN_A, {("jan", "both"): (1, 2), ("jan", "diff"): (1, 2)}))
 
     def test_judging_mixtures(self):
         good = {JAN_A: (-1, 1), ("jan", "both"): ONE}
-        wrong = [{JAN_A: ONE, ("jan", "both"): ONE}, {("jan", "both"): ONE}, {**good, ("feb", "a"): ZERO}, {**good, ("feb", "a"): ONE}, {JAN_B: ONE}, {},
-                 {JAN_A: (-2, 2), ("jan", "both"): ONE}, {JAN_A: (-1, 1), ("jan", "both"): (True, 1)}, {JAN_A: -1, ("jan", "both"): 1}, list(good.items()),
-                 {**good, ("mar", "both"): ZERO}, {**good, ("jan", "c"): ZERO}, {**good, 3: ONE}, {**good, ("feb", "b"): ONE}, {JAN_A: None, ("jan", "both"): ONE},
+        wrong = [{JAN_A: ONE, ("jan", "both"): ONE}, {("jan", "both"): ONE}, {**good, ("feb", "a"): ZERO},
+                 {**good, ("feb", "a"): ONE}, {JAN_B: ONE}, {},
+                 {JAN_A: (-2, 2), ("jan", "both"): ONE}, {JAN_A: (-1, 1), ("jan", "both"): (True, 1)},
+                 {JAN_A: -1, ("jan", "both"): 1}, list(good.items()),
+                 {**good, ("mar", "both"): ZERO}, {**good, ("jan", "c"): ZERO}, {**good, 3: ONE}, {**good, ("feb", "b"): ONE},
+                 {JAN_A: None, ("jan", "both"): ONE},
                  # places of the cut outline that are groups are no seen places here
                  {("jan", "diff"): (-1, 1), JAN_A: ONE}]
         for value in wrong + odd_values():
@@ -135,13 +140,16 @@ class Hidden(unittest.TestCase, Checks):
     def test_judging_fillings(self):
         zeros = {place: ZERO for place in FLAT.leaf_places()}
         ones = {**zeros, ("feb", "b"): ONE}
-        for good in ((zeros, ones), (ones, zeros), ({**zeros, JAN_A: (3, 7)}, {**ones, JAN_A: (3, 7)}), ({**zeros, ("mar", "b"): ONE}, ones),
+        for good in ((zeros, ones), (ones, zeros), ({**zeros, JAN_A: (3, 7)}, {**ones, JAN_A: (3, 7)}),
+                     ({**zeros, ("mar", "b"): ONE}, ones),
                      ({**zeros, ("feb", "b"): (10 ** 59, 7)}, ones)):
             self.assertTrue(are_hidden_fillings(FLAT, RIGHT, ("feb", "b"), good))
         lacking = {place: worth_at for place, worth_at in ones.items() if place != JAN_B}
-        for value in [(zeros, zeros), (zeros, {**ones, JAN_A: ONE}), (zeros, {**ones, JAN_B: ONE}), (zeros, lacking), (zeros, {**ones, ("jan", "both"): ONE}),
+        for value in [(zeros, zeros), (zeros, {**ones, JAN_A: ONE}), (zeros, {**ones, JAN_B: ONE}), (zeros, lacking),
+                      (zeros, {**ones, ("jan", "both"): ONE}),
                       [zeros, ones], (zeros,), (zeros, ones, ones), (zeros, {**ones, JAN_A: None}), (zeros, {**ones, ("feb", "b"): (2, 2)}),
-                      (zeros, {**ones, ("feb", "b"): (True, 1)}), (zeros, None), (lacking, ones), (zeros, {**lacking, ("jan", "c"): ZERO})] + odd_values():
+                      (zeros, {**ones, ("feb", "b"): (True, 1)}), (zeros, None), (lacking, ones),
+                      (zeros, {**lacking, ("jan", "c"): ZERO})] + odd_values():
             self.assertFalse(are_hidden_fillings(FLAT, RIGHT, ("feb", "b"), value), value)
         self.assertFalse(are_hidden_fillings(FLAT, RIGHT, JAN_A, (zeros, ones)))
 
@@ -168,7 +176,8 @@ class Hidden(unittest.TestCase, Checks):
         fillings = hidden_fillings(outline, right, ("n3", "n5"))
         self.assertTrue(are_hidden_fillings(outline, right, ("n3", "n5"), fillings))
         wider = Outline((Side("p", names, tree), Side("q", names[:11])))
-        for function, more in ((told_cell, (("n3", "n4"),)), (hidden_fillings, (("n3", "n4"),)), (is_told_cell, (("n3", "n4"), {})), (leaks, ()),
+        for function, more in ((told_cell, (("n3", "n4"),)), (hidden_fillings, (("n3", "n4"),)), (is_told_cell, (("n3", "n4"), {})),
+                               (leaks, ()),
                                (are_hidden_fillings, (("n3", "n4"), None))):
             self.assertEqual(self.assert_raises(TooMany, function, wider, right, *more).limit, 300)
         self.assert_raises(InvalidPlace, told_cell, wider, right, ("n3", "all"))

@@ -37,7 +37,8 @@ class Keepers(unittest.TestCase, Checks):
     def test_commits_and_squeezes(self):
         disk = Disk()
         keeper = Keeper(disk, SOME)
-        self.assertEqual((keeper.cube, keeper.number, keeper.base, keeper.commits, len(keeper), str(keeper)), (SOME, 0, 0, (), 0, "keeper at 0, 0 behind the base"))
+        self.assertEqual((keeper.cube, keeper.number, keeper.base, keeper.commits, len(keeper), str(keeper)),
+                         (SOME, 0, 0, (), 0, "keeper at 0, 0 behind the base"))
         self.assertEqual((disk.names, disk.read("log")), (("log",), log_text(SOME, 0, ())))
         self.assertEqual((keeper.commit("ann", (PUT,)), keeper.commit("bob", (RENAME, ("rules", ())))), (1, 2))
         self.assertEqual(keeper.commits, ((1, "ann", (PUT,)), (2, "bob", (RENAME, ("rules", ())))))
@@ -47,7 +48,8 @@ class Keepers(unittest.TestCase, Checks):
         line.commit("ann", (PUT,)), line.commit("bob", (RENAME, ("rules", ())))
         self.assertEqual(keeper.cube, line.cube)
         self.assertIsNone(keeper.squeeze())
-        self.assertEqual((keeper.cube, keeper.number, keeper.base, keeper.commits, str(keeper)), (line.cube, 2, 2, (), "keeper at 2, 0 behind the base"))
+        self.assertEqual((keeper.cube, keeper.number, keeper.base, keeper.commits, str(keeper)),
+                         (line.cube, 2, 2, (), "keeper at 2, 0 behind the base"))
         self.assertEqual((disk.names, disk.read("log")), (("log",), log_text(line.cube, 2, ())))
         self.assertEqual((keeper.commit("ann", (("cells", {}),)), keeper.base, str(keeper)), (3, 2, "keeper at 3, 1 behind the base"))
         self.assertRaises(TypeError, iter, keeper)
@@ -142,7 +144,8 @@ class Keepers(unittest.TestCase, Checks):
         for deeds in ((), None, [PUT], (PUT,) * 6):
             self.assert_raises(InvalidOperation, keeper.commit, "ann", deeds)
         self.assert_raises(InvalidOperation, keeper.commit, "ann", (PUT, None))
-        self.assertEqual(self.assert_raises(Refused, keeper.commit, "ann", (PUT, ("edits", (("drop", "shop", "x"),)))).reason, ("edit", 0, "unknown"))
+        self.assertEqual(self.assert_raises(Refused, keeper.commit, "ann", (PUT, ("edits", (("drop", "shop", "x"),)))).reason,
+                         ("edit", 0, "unknown"))
         self.assertEqual((keeper.cube, keeper.number, keeper.commits), before)
         # the power is lost at its second step
         self.assertEqual(self.assert_raises(PowerLost, keeper.commit, "ann", (PUT,)).taken, 7)

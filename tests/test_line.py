@@ -33,9 +33,12 @@ class Deeds(unittest.TestCase, Checks):
             self.assertTrue(is_deed(SOME, deed), deed)
         rule = Rule((None, ("z",)), HERE)
         for deed in odd_values() + [
-                ("cells", {MAR_A: (10 ** 18, 1)}), ("cells", {("mar", "both"): ONE}), ("cells", {MAR_A: (True, 1)}), ("cells", [MAR_A]), ["cells", {}],
-                ("cells",), ("cells", {}, {}), ("rules", (rule,)), ("rules", [GROWTH]), ("rules", (GROWTH,) * 31), ("rules", None), ("edits", None),
-                ("edits", [("drop", "shop", "a")]), ("edits", (("add", "s", "n"),) * 31), ("Cells", {}), (True, {}), ("cell", {}), ({}, {}), ([], ())]:
+                ("cells", {MAR_A: (10 ** 18, 1)}), ("cells", {("mar", "both"): ONE}), ("cells", {MAR_A: (True, 1)}),
+                                    ("cells", [MAR_A]), ["cells", {}],
+                ("cells",), ("cells", {}, {}), ("rules", (rule,)), ("rules", [GROWTH]), ("rules", (GROWTH,) * 31), ("rules", None),
+                                    ("edits", None),
+                ("edits", [("drop", "shop", "a")]), ("edits", (("add", "s", "n"),) * 31), ("Cells", {}), (True, {}), ("cell", {}),
+                                    ({}, {}), ([], ())]:
             self.assertFalse(is_deed(SOME, deed), deed)
             self.assert_raises(InvalidOperation, cube_behind, SOME, deed)
         self.assertFalse(is_deed(wide(0)[0], PUT))
@@ -106,19 +109,24 @@ class Lines(unittest.TestCase, Checks):
         line = Line(SOME)
         line.commit("me", (PUT,))
         before = (line.commits, line.ahead, line.cube, line.present)
-        for deeds, kind in (((RENAME, PUT), InvalidOperation), ((PUT, ("edits", (("drop", "shop", "c"),)), None), Refused), ((PUT, None), InvalidOperation),
-                            ((RULES, ("edits", (("drop", "shop", "a"),))), Refused), (("x",), InvalidOperation), ((PUT, PUT, PUT, PUT, 3), InvalidOperation)):
+        for deeds, kind in (((RENAME, PUT), InvalidOperation), ((PUT, ("edits", (("drop", "shop", "c"),)), None), Refused),
+                            ((PUT, None), InvalidOperation),
+                            ((RULES, ("edits", (("drop", "shop", "a"),))), Refused), (("x",), InvalidOperation),
+                            ((PUT, PUT, PUT, PUT, 3), InvalidOperation)):
             self.assert_raises(kind, line.commit, "me", deeds)
             self.assertEqual((line.commits, line.ahead, line.cube, line.present), before)
         # the first error, deed by deed
         bad = ("edits", (("drop", "shop", "c"),))
         self.assertEqual(self.assert_raises(Refused, line.commit, "me", (bad, None)).reason, ("edit", 0, "unknown"))
-        self.assertEqual(self.assert_raises(Refused, line.commit, "me", (RULES, ("edits", (("rename", "shop", "b", "c"), ("drop", "shop", "diff"))))).reason,
+        self.assertEqual(self.assert_raises(Refused, line.commit, "me", (RULES, ("edits",
+                (("rename", "shop", "b", "c"), ("drop", "shop", "diff"))))).reason,
                          ("edit", 1, "unknown"))
-        self.assertEqual(self.assert_raises(Refused, line.commit, "me", (RULES, ("edits", (("drop", "shop", "a"),)))).reason, ("rule", 0, 0))
+        self.assertEqual(self.assert_raises(Refused, line.commit, "me", (RULES, ("edits", (("drop", "shop", "a"),)))).reason,
+                         ("rule", 0, 0))
         cube, places = wide(300)
         line = Line(cube)
-        self.assertEqual(self.assert_raises(TooMany, line.commit, "me", (("cells", {places[300]: ONE}), ("cells", {places[0]: None}))).limit, 300)
+        self.assertEqual(self.assert_raises(TooMany, line.commit, "me", (("cells", {places[300]: ONE}),
+                ("cells", {places[0]: None}))).limit, 300)
         self.assertEqual(line.commit("me", (("cells", {places[0]: None}), ("cells", {places[300]: ONE}))), 1)
         # A deed is asked of the cube behind those ahead of it.
         self.assertEqual(Line(SOME).commit("me", (RENAME, ("cells", {("jan", "z"): None}))), 1)
@@ -210,9 +218,12 @@ class Lines(unittest.TestCase, Checks):
         line.commit("ann", (PUT, RULES))
         line.commit("bob", (("cells", {JAN_A: ONE}),))
         line.back()
-        self.assertTrue((1, "ann", (("cells", {("jan", "b"): None, MAR_A: (1, 1)}), ("rules", (Rule(GROWTH.area, GROWTH.formula, 2),)))) in line)
-        for value in ((2, "bob", (("cells", {JAN_A: ONE}),)), (True, "ann", (PUT, RULES)), (1, "ann", [PUT, RULES]), (1, "ann", (PUT,)), [1, "ann", (PUT, RULES)],
-                      (1, "ann", (("cells", {MAR_A: (True, 1), ("jan", "b"): None}), RULES)), (1, "bob", (PUT, RULES)), (1, "ann", (PUT, RULES), ())):
+        self.assertTrue((1, "ann", (("cells", {("jan", "b"): None, MAR_A: (1, 1)}),
+                                    ("rules", (Rule(GROWTH.area, GROWTH.formula, 2),)))) in line)
+        for value in ((2, "bob", (("cells", {JAN_A: ONE}),)), (True, "ann", (PUT, RULES)), (1, "ann", [PUT, RULES]),
+                      (1, "ann", (PUT,)), [1, "ann", (PUT, RULES)],
+                      (1, "ann", (("cells", {MAR_A: (True, 1), ("jan", "b"): None}), RULES)), (1, "bob", (PUT, RULES)),
+                      (1, "ann", (PUT, RULES), ())):
             self.assertFalse(value in line, value)
         line.forward()
         self.assertTrue((2, "bob", (("cells", {JAN_A: ONE}),)) in line)
@@ -226,7 +237,8 @@ class Lines(unittest.TestCase, Checks):
                 line.back(back)
             return line
         self.assertEqual(made(SOME, ("ann", "bob"), 1), made(SOME, ("ann", "bob"), 1))
-        for other in (made(SOME, ("ann", "bob")), made(SOME, ("ann",)), made(SOME, ("ann", "eve"), 1), made(RULED, ("ann", "bob"), 1), made(SOME, ("ann", "bob"), 2)):
+        for other in (made(SOME, ("ann", "bob")), made(SOME, ("ann",)), made(SOME, ("ann", "eve"), 1),
+                      made(RULED, ("ann", "bob"), 1), made(SOME, ("ann", "bob"), 2)):
             self.assertNotEqual(made(SOME, ("ann", "bob"), 1), other)
 
     def test_nothing_is_shared(self):

@@ -58,23 +58,31 @@ class Loads(unittest.TestCase, Checks):
 
     def test_reasons(self):
         nines = "9" * 18
-        for row, reason in (((), ("short", 0)), (("jan",), ("short", 1)), (("jan", "a"), ("short", 2)), (("x",), ("unknown", "time", "x")), (("all",), ("group", "time", "all")),
-                            (("Jan", "a", "1"), ("unknown", "time", "Jan")), (("a", "jan", "1"), ("unknown", "time", "a")), (("jan", "c", "x"), ("unknown", "shop", "c")),
-                            (("jan", "diff", "x"), ("group", "shop", "diff")), (("jan", "both"), ("group", "shop", "both")), (("x", "y", "z"), ("unknown", "time", "x")),
-                            (("all", "y", "z"), ("group", "time", "all")), (("jan", "a", ""), ("worth", "")), (("jan", "a", "nothing"), ("worth", "nothing")),
-                            (("jan", "a", "01"), ("worth", "01")), (("jan", "a", "1.5"), ("worth", "1.5")), (("jan", "a", "1/0"), ("worth", "1/0")), (("jan", "a", "-0"), ("worth", "-0")),
-                            (("jan", "a", nines + "0"), ("worth", nines + "0")), (("jan", "a", "1/1001"), ("worth", "1/1001")), (("jan", "a", "1" * 61), ("worth", "1" * 61)),
+        for row, reason in (((), ("short", 0)), (("jan",), ("short", 1)), (("jan", "a"), ("short", 2)),
+                            (("x",), ("unknown", "time", "x")), (("all",), ("group", "time", "all")),
+                            (("Jan", "a", "1"), ("unknown", "time", "Jan")), (("a", "jan", "1"), ("unknown", "time", "a")),
+                            (("jan", "c", "x"), ("unknown", "shop", "c")),
+                            (("jan", "diff", "x"), ("group", "shop", "diff")), (("jan", "both"), ("group", "shop", "both")),
+                            (("x", "y", "z"), ("unknown", "time", "x")),
+                            (("all", "y", "z"), ("group", "time", "all")), (("jan", "a", ""), ("worth", "")),
+                            (("jan", "a", "nothing"), ("worth", "nothing")),
+                            (("jan", "a", "01"), ("worth", "01")), (("jan", "a", "1.5"), ("worth", "1.5")),
+                            (("jan", "a", "1/0"), ("worth", "1/0")), (("jan", "a", "-0"), ("worth", "-0")),
+                            (("jan", "a", nines + "0"), ("worth", nines + "0")), (("jan", "a", "1/1001"), ("worth", "1/1001")),
+                            (("jan", "a", "1" * 61), ("worth", "1" * 61)),
                             (("jan", "year", "1"), ("unknown", "shop", "year"))):
             self.assertEqual(load(row).refused, ((0, reason),), row)
             self.assertEqual(load(row).entries, ())
-        for text, worth in ((nines, (10 ** 18 - 1, 1)), ("-" + nines + "/1000", (1 - 10 ** 18, 1000)), ("0", (0, 1)), ("2/2002", (1, 1001)), ("4/2002", (2, 1001)), ("3/6", (1, 2))):
+        for text, worth in ((nines, (10 ** 18 - 1, 1)), ("-" + nines + "/1000", (1 - 10 ** 18, 1000)), ("0", (0, 1)),
+                            ("2/2002", (1, 1001)), ("4/2002", (2, 1001)), ("3/6", (1, 2))):
             self.assertEqual(load(("jan", "a", text)).entries, ((0, JAN_A, worth),) if is_cell_worth(worth) else ())
         # sides with a told leaf are not looked at; a worth is looked at last
         self.assertEqual(load(("z", "1"), fields=("jan", 0), worth_field=1).refused, ((0, ("unknown", "shop", "z")),))
         self.assertEqual(load(("z", "1"), fields=("jan", 5), worth_field=9).refused, ((0, ("short", 5)),))
         self.assertEqual(load(("a", "1"), fields=("jan", 0), worth_field=9).refused, ((0, ("short", 9)),))
         many = load(("jan", "a", "1"), ("x",), ("jan", "a", "2"), ())
-        self.assertEqual((many.refused, [index for index, _, _ in many.entries]), (((1, ("unknown", "time", "x")), (3, ("short", 0))), [0, 2]))
+        self.assertEqual((many.refused, [index for index, _, _ in many.entries]),
+                         (((1, ("unknown", "time", "x")), (3, ("short", 0))), [0, 2]))
 
     def test_totals_that_are_no_cell_worths(self):
         one = load(("jan", "a", "9" * 18), ("jan", "a", "1"))
@@ -100,7 +108,8 @@ class Loads(unittest.TestCase, Checks):
             self.assert_raises(InvalidNumber, Load, FLAT, (0, 1), number, ())
         self.assertEqual(load(worth_field=11, fields=(11, 11)).fields, (11, 11))
         row = ("jan", "a", "1")
-        for rows in ([row], (list(row),), ("jan",), ((1, 2, 3),), (("jan", None),), (("jan\n", "a", "1"),), (("jan", "a", "1\t"),), (("x" * 101,),), (("x",) * 13,), (row,) * 201):
+        for rows in ([row], (list(row),), ("jan",), ((1, 2, 3),), (("jan", None),), (("jan\n", "a", "1"),), (("jan", "a", "1\t"),),
+                     (("x" * 101,),), (("x",) * 13,), (row,) * 201):
             self.assert_raises(InvalidOperation, Load, FLAT, (0, 1), 2, rows)
         self.assertEqual(len(Load(FLAT, (0, 1), 2, (row,) * 200).entries), 200)
         self.assertEqual(load(("~" * 100,) * 12).refused, ((0, ("unknown", "time", "~" * 100)),))
@@ -145,7 +154,8 @@ class Ledgers(unittest.TestCase, Checks):
         ledger = Ledger(SOME)
         ledger.lay(load(("jan", "a", "1"), ("mar", "a", "2"), ("x",), ("jan", "a", "1/2")))
         self.assertEqual(ledger.down(JAN_A), ((("cell", JAN_A), ONE, (4, 1)), (("row", 0, 0), ONE, (1, 1)), (("row", 0, 3), ONE, (1, 2))))
-        self.assertEqual(ledger.down(("jan", "diff")), ((("cell", JAN_A), ONE, (4, 1)), (("row", 0, 0), ONE, (1, 1)), (("row", 0, 3), ONE, (1, 2)),
+        self.assertEqual(ledger.down(("jan", "diff")), ((("cell", JAN_A), ONE, (4, 1)), (("row", 0, 0), ONE, (1, 1)),
+                                                        (("row", 0, 3), ONE, (1, 2)),
                                                        (("cell", JAN_B), (-1, 1), (1, 2))))
         self.assertEqual(ledger.down(("mar", "both")), ((("row", 0, 1), ONE, (2, 1)),))
         self.assertEqual(ledger.down(("mar", "b")), ())
@@ -155,7 +165,8 @@ class Ledgers(unittest.TestCase, Checks):
         self.assertEqual(ledger.down(JAN_A), ((("row", 1, 0), ONE, (7, 1)), (("row", 1, 1), ONE, (8, 1)), (("row", 2, 0), ONE, (9, 1))))
         ledger.take_back(1)
         self.assertEqual([source for source, _, _ in ledger.down(JAN_A)], [("cell", JAN_A), ("row", 0, 0), ("row", 0, 3), ("row", 2, 0)])
-        self.assertEqual([source for source, _, _ in ledger.down(TOP)], [("cell", FEB_A), ("cell", JAN_A), ("row", 0, 0), ("row", 0, 3), ("row", 2, 0), ("cell", JAN_B), ("row", 0, 1)])
+        self.assertEqual([source for source, _, _ in ledger.down(TOP)], [("cell", FEB_A), ("cell", JAN_A), ("row", 0, 0),
+                ("row", 0, 3), ("row", 2, 0), ("cell", JAN_B), ("row", 0, 1)])
 
     def test_a_load_that_refuses_all_rows_sets_nothing(self):
         ledger = Ledger(SOME)
@@ -173,11 +184,14 @@ class Ledgers(unittest.TestCase, Checks):
     def test_cells_that_would_be_none(self):
         nines = "9" * 18
         ledger = Ledger(SOME)
-        error = self.assert_raises(Refused, ledger.lay, load(("mar", "b", nines), ("mar", "b", "1"), ("feb", "b", nines), ("feb", "b", "1")))
+        error = self.assert_raises(Refused, ledger.lay, load(("mar", "b", nines), ("mar", "b", "1"), ("feb", "b", nines),
+                                                             ("feb", "b", "1")))
         self.assertEqual(error.reason, ("great", ("feb", "b")))
         self.assertEqual((ledger.loads, ledger.kept, ledger.cube), ((), (), SOME))
-        self.assertEqual(self.assert_raises(Refused, ledger.lay, load(("feb", "a", nines), ("jan", "a", "1/997"), ("mar", "a", "1"))).reason, ("great", FEB_A))
-        self.assertEqual(self.assert_raises(Refused, ledger.lay, load(("jan", "a", "1/997"), ("jan", "a", "1/991"))).reason, ("great", JAN_A))
+        self.assertEqual(self.assert_raises(Refused, ledger.lay, load(("feb", "a", nines), ("jan", "a", "1/997"),
+                                                                      ("mar", "a", "1"))).reason, ("great", FEB_A))
+        self.assertEqual(self.assert_raises(Refused, ledger.lay, load(("jan", "a", "1/997"), ("jan", "a", "1/991"))).reason,
+                         ("great", JAN_A))
         self.assertEqual(ledger.lay(load(("jan", "a", nines)), "set"), 0)
         # what is right by itself can be too much beside a load that is kept again
         ledger.take_back(0)
@@ -298,7 +312,8 @@ class Drawn(unittest.TestCase, Checks):
                 continue
             weights = leaf_weights(model.cube.outline, place)
             told = ledger.down(place)
-            self.assertEqual(told, tuple((source, weights[leaf], pair(worth)) for leaf in sorted(weights) for source, worth in stacks.get(leaf, [])))
+            self.assertEqual(told, tuple((source, weights[leaf], pair(worth)) for leaf in sorted(weights) for source,
+                                         worth in stacks.get(leaf, [])))
             # [22.4]
             total = sum((fraction(weight) * fraction(worth) for _, weight, worth in told), Fraction(0))
             answer = ledger.cube.answer(place)

@@ -26,22 +26,27 @@ class PlainValues(unittest.TestCase, Checks):
         self.assertEqual([write_plain(("a", 3, None, {("b",): (1, 2)})), read_plain("(x () -4)")], ["(a 3 - {(b) (1 2)})", ("x", (), -4)])
 
     def test_texts(self):
-        for value, text in ((None, "-"), (0, "0"), (-7, "-7"), (nines(60), "9" * 60), (-nines(60), "-" + "9" * 60), ("a", "a"), ("z" * 19 + "9", "z" * 19 + "9"), ((), "()"),
-                            ({}, "{}"), ((1, "b", ()), "(1 b ())"), ({("b",): 1, ("a", "c"): None, (): {}}, "{() {} (a c) - (b) 1}"), ((None, None), "(- -)"),
+        for value, text in ((None, "-"), (0, "0"), (-7, "-7"), (nines(60), "9" * 60), (-nines(60), "-" + "9" * 60), ("a", "a"),
+                            ("z" * 19 + "9", "z" * 19 + "9"), ((), "()"),
+                            ({}, "{}"), ((1, "b", ()), "(1 b ())"), ({("b",): 1, ("a", "c"): None, (): {}},
+                                                                     "{() {} (a c) - (b) 1}"), ((None, None), "(- -)"),
                             ((None, -1, {(): ()}), "(- -1 {() ()})"), ({("a",): {("b", "c"): ("d",)}}, "{(a) {(b c) (d)}}")):
             self.assertEqual(write_plain(value), text)
             self.assertEqual(read_plain(text), value)
         self.assertEqual(list(read_plain("{(a) 1 (a b) 2 (b) 3}")), [("a",), ("a", "b"), ("b",)])
 
     def test_values_that_are_not_plain(self):
-        for value in (True, False, 10 ** 60, -10 ** 60, "", "A", "1a", "a b", "a" * 21, "a_", [], [1], {1: 2}, {"a": 1}, {("A",): 1}, {(1,): 1}, {("a" * 21,): 1}, {("a", ()): 1},
+        for value in (True, False, 10 ** 60, -10 ** 60, "", "A", "1a", "a b", "a" * 21, "a_", [], [1], {1: 2}, {"a": 1},
+                      {("A",): 1}, {(1,): 1}, {("a" * 21,): 1}, {("a", ()): 1},
                       (1, True), ((("x", [""]),),), {("a",): {"b": 1}}, {("a",): 10 ** 60}, SOME, FLAT, (GROWTH,), "a\n", {(True,): 1}):
             self.assert_raises(InvalidOperation, write_plain, value)
 
     def test_forty_levels_and_one_more(self):
-        for value in (nested(39), nested(40, 1), nested(39, {}), nested(38, {("a",): 1}), nested(37, {("a",): ()}), nested(38, {("a",): ()}), nested(38, {(): -1})):
+        for value in (nested(39), nested(40, 1), nested(39, {}), nested(38, {("a",): 1}), nested(37, {("a",): ()}),
+                      nested(38, {("a",): ()}), nested(38, {(): -1})):
             self.assertEqual(read_plain(write_plain(value)), value)
-        for value in (nested(40), nested(41, "a"), nested(40, {}), nested(39, {("a",): 1}), nested(39, {(): 1}), nested(38, {("a",): ((),)}), nested(38, {("a",): {("b",): 1}}), nested(100)):
+        for value in (nested(40), nested(41, "a"), nested(40, {}), nested(39, {("a",): 1}), nested(39, {(): 1}),
+                      nested(38, {("a",): ((),)}), nested(38, {("a",): {("b",): 1}}), nested(100)):
             self.assert_raises(InvalidOperation, write_plain, value)
         self.assertEqual(read_plain("(" * 40 + ")" * 40), nested(39))
         self.assertEqual(self.assert_raises(ParseError, read_plain, "(" * 41 + ")" * 41).spot, 40)
@@ -55,15 +60,20 @@ class PlainValues(unittest.TestCase, Checks):
         for value in odd_values():
             if type(value) is not str:
                 self.assertIsNone(self.assert_raises(ParseError, read_plain, value).spot)
-        for text, spot in (("", 0), (" ", 0), ("a ", 1), ("a b", 1), (" a", 0), ("A", 0), ("aB", 1), ("a_", 1), ("a" * 21, 20), ("-0", 1), ("-a", 1), ("--", 1), ("- ", 1), ("01", 1),
-                           ("00", 1), ("1a", 1), ("1-", 1), ("9" * 61, 60), ("-" + "9" * 61, 61), ("(", 1), (")", 0), ("( )", 1), ("(a )", 3), ("(a  b)", 3), ("(a", 2), ("(a b", 4), ("(a}", 2),
-                           ("(a)b", 3), ("()()", 2), ("{", 1), ("{a 1}", 1), ("{1 1}", 1), ("{() }", 4), ("{()}", 3), ("{()1}", 3), ("{() 1 }", 6), ("{() 1 (a)}", 9), ("{(1) 1}", 2), ("{(-) 1}", 2),
-                           ("{(a (b)) 1}", 4), ("{(a 1) 2}", 4), ("{(a b) 1", 8), ("{ }", 1), ("{(a" + "b" * 20 + ") 1}", 22), ("(1 2\n)", 4), ("a\n", 1), ("\t", 0), ("{(a) 1)", 6), ("(-)-", 3),
+        for text, spot in (("", 0), (" ", 0), ("a ", 1), ("a b", 1), (" a", 0), ("A", 0), ("aB", 1), ("a_", 1), ("a" * 21, 20),
+                           ("-0", 1), ("-a", 1), ("--", 1), ("- ", 1), ("01", 1),
+                           ("00", 1), ("1a", 1), ("1-", 1), ("9" * 61, 60), ("-" + "9" * 61, 61), ("(", 1), (")", 0), ("( )", 1),
+                           ("(a )", 3), ("(a  b)", 3), ("(a", 2), ("(a b", 4), ("(a}", 2),
+                           ("(a)b", 3), ("()()", 2), ("{", 1), ("{a 1}", 1), ("{1 1}", 1), ("{() }", 4), ("{()}", 3), ("{()1}", 3),
+                           ("{() 1 }", 6), ("{() 1 (a)}", 9), ("{(1) 1}", 2), ("{(-) 1}", 2),
+                           ("{(a (b)) 1}", 4), ("{(a 1) 2}", 4), ("{(a b) 1", 8), ("{ }", 1), ("{(a" + "b" * 20 + ") 1}", 22),
+                           ("(1 2\n)", 4), ("a\n", 1), ("\t", 0), ("{(a) 1)", 6), ("(-)-", 3),
                            ("(-1-)", 3), ("(0 00)", 4)):
             self.assertEqual(self.assert_raises(ParseError, read_plain, text).spot, spot, text)
 
     def test_keys_that_do_not_ascend(self):
-        for text, spot in (("{(b) 1 (a) 2}", 7), ("{(a) 1 (a) 2}", 7), ("{(a b) 1 (a) 2}", 9), ("{(a) 1 (b) 2 (a) 3}", 13), ("{(a) {(c) 1 (b) 2} (a) 3}", 12), ("({(a) 1} {(c) 1 () 2})", 16),
+        for text, spot in (("{(b) 1 (a) 2}", 7), ("{(a) 1 (a) 2}", 7), ("{(a b) 1 (a) 2}", 9), ("{(a) 1 (b) 2 (a) 3}", 13),
+                           ("{(a) {(c) 1 (b) 2} (a) 3}", 12), ("({(a) 1} {(c) 1 () 2})", 16),
                            ("{(b) 1 (a) 2 (c) 3 (b) 4}", 7), ("{() () () ()}", 7), ("{(b) {(b) () (c) ()} (a) {(d) () (c) ()}}", 21)):
             self.assertEqual(self.assert_raises(ParseError, read_plain, text).spot, spot, text)
         # behind all other faults
@@ -77,7 +87,8 @@ class PlainValues(unittest.TestCase, Checks):
                 return chance.one_of((None, "a", "word9", 0, -12, 10 ** 40, ()))
             if draw < 0.75:
                 return tuple(value(chance, deep - 1) for _ in range(chance.random.randint(0, 4)))
-            return {tuple(chance.one_of("abc") for _ in range(chance.random.randint(0, 2))): value(chance, deep - 1) for _ in range(chance.random.randint(0, 3))}
+            return {tuple(chance.one_of("abc") for _ in range(chance.random.randint(0, 2))): value(chance,
+                    deep - 1) for _ in range(chance.random.randint(0, 3))}
 
         def plainly(one):
             """The text by a second way."""
@@ -116,11 +127,13 @@ class PlainValues(unittest.TestCase, Checks):
 class Logs(unittest.TestCase, Checks):
     def test_texts(self):
         text = log_text(RULED, 0, ())
-        self.assertEqual(text, "(base 0 ((time (jan feb mar) ((year ((all ((jan (1 1)) (feb (1 1)) (mar (1 1)))))))) (shop (a b) ((sums ((both ((a (1 1)) (b (1 1)))))) "
+        self.assertEqual(text,
+                         "(base 0 ((time (jan feb mar) ((year ((all ((jan (1 1)) (feb (1 1)) (mar (1 1)))))))) (shop (a b) ((sums ((both ((a (1 1)) (b (1 1)))))) "
                                "(less ((diff ((a (1 1)) (b (-1 1))))))))) (((- (diff)) (over (at ((shop (to a)))) (at ((shop (to a)) (time (step -1))))) 2)) "
                                "{(feb a) (6 1) (jan a) (4 1) (jan b) (1 2)})\n")
         more = log_text(SOME, 7, ((8, "ann", (PUT, RENAME)), (9, "bob", (("rules", ()),))))
-        self.assertEqual(more.split("\n")[1:], ["(commit 8 ann ((cells {(jan b) - (mar a) (1 1)}) (edits ((rename shop a z)))))", "(commit 9 bob ((rules ())))", ""])
+        self.assertEqual(more.split("\n")[1:], ["(commit 8 ann ((cells {(jan b) - (mar a) (1 1)}) (edits ((rename shop a z)))))",
+                                                "(commit 9 bob ((rules ())))", ""])
         self.assertEqual(read_log(more), (SOME, 7, ((8, "ann", (PUT, RENAME)), (9, "bob", (("rules", ()),))), len(more)))
 
     def test_what_stands_behind_the_last_newline_is_left_out(self):
@@ -160,21 +173,30 @@ class Logs(unittest.TestCase, Checks):
 
     def test_bases_that_are_wrong(self):
         line = log_text(RULED, 4, ())
-        for old, new in (("(base", "(bass"), ("base 4", "base -4"), ("base 4", "base a"), ("base 4", "base -"), ("base 4", "base 4 5"), ("(jan feb mar)", "(jan jan mar)"),
-                         ("(time (jan", "(shop (jan"), ("{(feb a) (6 1)", "{(feb a) (6 6)"), ("{(feb a) (6 1)", "{(feb a) 6"), ("(feb a) (6 1)", "(feb both) (6 1)"), ("(feb a) (6 1)", "(feb) (6 1)"),
-                         ("(diff)) (over", "(diffs)) (over"), ("(step -1)", "(step 0)"), (") 2))", ") 100))"), (") 2))", "))))"), ("{(feb a) (6 1) (jan a) (4 1) (jan b) (1 2)}", "-"),
-                         ("{(feb a) (6 1) (jan a) (4 1) (jan b) (1 2)}", "()"), ("(6 1)", f"({10 ** 18} 1)"), ("(6 1)", "-"), ("(1 1)) (feb", "(0 1)) (feb")):
+        for old, new in (("(base", "(bass"), ("base 4", "base -4"), ("base 4", "base a"), ("base 4", "base -"),
+                         ("base 4", "base 4 5"), ("(jan feb mar)", "(jan jan mar)"),
+                         ("(time (jan", "(shop (jan"), ("{(feb a) (6 1)", "{(feb a) (6 6)"), ("{(feb a) (6 1)", "{(feb a) 6"),
+                         ("(feb a) (6 1)", "(feb both) (6 1)"), ("(feb a) (6 1)", "(feb) (6 1)"),
+                         ("(diff)) (over", "(diffs)) (over"), ("(step -1)", "(step 0)"), (") 2))", ") 100))"), (") 2))", "))))"),
+                         ("{(feb a) (6 1) (jan a) (4 1) (jan b) (1 2)}", "-"),
+                         ("{(feb a) (6 1) (jan a) (4 1) (jan b) (1 2)}", "()"), ("(6 1)", f"({10 ** 18} 1)"), ("(6 1)", "-"),
+                         ("(1 1)) (feb", "(0 1)) (feb")):
             self.assertIn(old, line)
             self.assertEqual(self.assert_raises(ParseError, read_log, line.replace(old, new, 1)).spot, 0, (old, new))
         self.assertEqual(read_log(line.replace("base 4", "base " + "9" * 60))[1], nines(60))
 
     def test_commits_that_are_wrong(self):
         base = log_text(RULED, 0, ())
-        for commit in ("(commit 2 ann ((rules ())))", "(commit 1 Ann ((rules ())))", "(commit 1 ann ())", "(commit 1 ann (rules ()))", "(commit 1 ann ((rules -)))", "(commit 1 ann ((cells ())))",
-                       "(commit 1 ann ((cells {(jan c) (1 1)})))", "(commit 1 ann ((edits ((drop shop c)))))", "(commit 1 ann ((edits ((drop shop a)))))", "(commit 1 ann ((edits (drop shop a))))",
-                       "(commit - ann ((rules ())))", "(commit 1 - ((rules ())))", "(commit 1 ann -)", "(commit 1 ann ((rules ())) 2)", "(commits 1 ann ((rules ())))", "(commit 1 longer9ame ((rules ())))",
-                       "(commit 1 ann ((rules ()) (rules ()) (rules ()) (rules ()) (rules ()) (rules ())))", "(commit 1 ann ((rules (((- -) (at ()) 100)))))", "(commit 1 ann ((rules (((- -) (at ()))))))",
-                       "(commit 1 ann ((rules (((- (c)) (at ()) 1)))))", "(commit 1 ann ((rule ())))", "(commit 1 ann ((cells {(jan a) (2 2)})))", "(1 ann ((rules ())))", "(commit 1 ann {})"):
+        for commit in ("(commit 2 ann ((rules ())))", "(commit 1 Ann ((rules ())))", "(commit 1 ann ())",
+                       "(commit 1 ann (rules ()))", "(commit 1 ann ((rules -)))", "(commit 1 ann ((cells ())))",
+                       "(commit 1 ann ((cells {(jan c) (1 1)})))", "(commit 1 ann ((edits ((drop shop c)))))",
+                       "(commit 1 ann ((edits ((drop shop a)))))", "(commit 1 ann ((edits (drop shop a))))",
+                       "(commit - ann ((rules ())))", "(commit 1 - ((rules ())))", "(commit 1 ann -)",
+                       "(commit 1 ann ((rules ())) 2)", "(commits 1 ann ((rules ())))", "(commit 1 longer9ame ((rules ())))",
+                       "(commit 1 ann ((rules ()) (rules ()) (rules ()) (rules ()) (rules ()) (rules ())))",
+                       "(commit 1 ann ((rules (((- -) (at ()) 100)))))", "(commit 1 ann ((rules (((- -) (at ()))))))",
+                       "(commit 1 ann ((rules (((- (c)) (at ()) 1)))))", "(commit 1 ann ((rule ())))",
+                       "(commit 1 ann ((cells {(jan a) (2 2)})))", "(1 ann ((rules ())))", "(commit 1 ann {})"):
             self.assertEqual(self.assert_raises(ParseError, read_log, base + commit + "\n").spot, 1, commit)
         right = "(commit 1 ann ((rules (((- -) (at ()) 1)))))"
         self.assertEqual(len(read_log(base + right + "\n")[2]), 1)
@@ -197,8 +219,10 @@ class Logs(unittest.TestCase, Checks):
             if value != ():
                 self.assert_raises(InvalidOperation, log_text, SOME, 0, value)
         commit = (1, "ann", (PUT,))
-        for commits in ([commit], ((2, "ann", (PUT,)),), ((0, "ann", (PUT,)),), ((True, "ann", (PUT,)),), ((1, "Ann", (PUT,)),), ((1, "ann", ()),), ((1, "ann", (PUT,) * 6),), (commit, commit),
-                        ((1, "ann", PUT),), ([1, "ann", (PUT,)],), ((1, "ann"),), (commit + (1,),), ((1, "ann", (RENAME, PUT)),), ((1, "ann", (("edits", (("drop", "shop", "x"),)),)),),
+        for commits in ([commit], ((2, "ann", (PUT,)),), ((0, "ann", (PUT,)),), ((True, "ann", (PUT,)),), ((1, "Ann", (PUT,)),),
+                        ((1, "ann", ()),), ((1, "ann", (PUT,) * 6),), (commit, commit),
+                        ((1, "ann", PUT),), ([1, "ann", (PUT,)],), ((1, "ann"),), (commit + (1,),), ((1, "ann", (RENAME, PUT)),),
+                        ((1, "ann", (("edits", (("drop", "shop", "x"),)),)),),
                         (commit, None), (commit, (3, "ann", (PUT,)))):
             self.assert_raises(InvalidOperation, log_text, SOME, 0, commits)
         hundred = tuple((number, "ann", (PUT,)) for number in range(1, 102))
@@ -220,7 +244,8 @@ class Logs(unittest.TestCase, Checks):
             chance = Chance(f"log {seed}")
             line = Line(chance.cube())
             for _ in range(chance.random.randint(0, 6)):
-                raised(line.commit, chance.one_of(("ann", "bob")), tuple(a_deed(chance, line.cube) for _ in range(chance.random.randint(1, 3))))
+                raised(line.commit, chance.one_of(("ann", "bob")), tuple(a_deed(chance,
+                        line.cube) for _ in range(chance.random.randint(1, 3))))
             number = chance.random.randint(0, 1000)
             commits = tuple((number + at, author, deeds) for at, author, deeds in line.commits)
             text = log_text(line.at(0), number, commits)

@@ -21,7 +21,8 @@ class PartsOfCubes(unittest.TestCase, Checks):
 
     def test_the_example(self):
         parts = Parts(SOME, "shop", (1,))
-        self.assertEqual([parts.send({("mar", "a"): (1, 1), ("jan", "b"): None}), parts.fetch(0), parts.sure, parts.answer(TOP), parts.fetch(1), parts.answer(TOP),
+        self.assertEqual([parts.send({("mar", "a"): (1, 1), ("jan", "b"): None}), parts.fetch(0), parts.sure, parts.answer(TOP),
+                          parts.fetch(1), parts.answer(TOP),
                           parts.rows], [1, 1, 0, ("worth", (21, 2)), 1, ("worth", (11, 1)), ((1, 0), (1, 0))])
 
     def test_properties(self):
@@ -177,7 +178,8 @@ class PartsOfCubes(unittest.TestCase, Checks):
         self.assert_raises(InvalidNumber, parts.cells_in, 0, 1)
         self.assert_raises(InvalidNumber, parts.cells_in, 1, 4)
         self.assertEqual((parts.cells_in(0)[JAN_A], parts.cells_in(0, 2)[JAN_A], parts.cells_in(1)[JAN_B]), ((4, 1), (2, 1), (3, 1)))
-        self.assertEqual([parts.answer(("jan", "both"), moment) for moment in (2, 3, None)], [("worth", (4, 1)), ("worth", (6, 1)), ("worth", (6, 1))])
+        self.assertEqual([parts.answer(("jan", "both"), moment) for moment in (2, 3, None)],
+                         [("worth", (4, 1)), ("worth", (6, 1)), ("worth", (6, 1))])
         self.assertEqual((parts.fall(0), parts.sure, parts.fetch(0, 2), parts.answer(("jan", "both"), 3)), (2, 2, 4, ("worth", (6, 1))))
 
     def test_answers(self):
@@ -206,12 +208,14 @@ class PartsOfCubes(unittest.TestCase, Checks):
             return parts
         history = (("send", CHANGES), ("send", {}), ("fetch", 0, 2), ("fetch", 1, 2), ("follow", 0, 2), ("follow", 1))
         one = made(*history)
-        told_otherwise = (("send", {JAN_B: None, MAR_A: (1, 1)}), ("fetch", 1), ("fetch", 0), ("send", {}), ("fetch", 0), ("fetch", 1), ("follow", 0, 2),
+        told_otherwise = (("send", {JAN_B: None, MAR_A: (1, 1)}), ("fetch", 1), ("fetch", 0), ("send", {}), ("fetch", 0),
+                          ("fetch", 1), ("follow", 0, 2),
                           ("fall", 0), ("follow", 1))
         self.assertEqual(one, made(*told_otherwise))
         self.assertEqual(made(*history, ("forget", 1)), made(*told_otherwise, ("forget", 1)))
         self.assertEqual(made(("shift", 0, 2)), made(cuts=(2,)))
-        for other in (made(), made(*history, ("fall", 1)), made(*history, ("forget", 1)), made(*history, cube=RULED), made(*history, cuts=(2,)),
+        for other in (made(), made(*history, ("fall", 1)), made(*history, ("forget", 1)), made(*history, cube=RULED),
+                      made(*history, cuts=(2,)),
                       made(*history, cube=SOME.with_cells({MAR_A: ONE})), made(("send", {}), *history[1:]), made(*history, ("send", {})),
                       made(*history, cube=SOME.with_cells({JAN_A: ONE}))):
             self.assertNotEqual(one, other)
@@ -228,7 +232,8 @@ class Drawn(unittest.TestCase, Checks):
 
     def look(self, parts, cubes, moments, copies, oldest):
         at = cubes[0].outline.index(parts.name)
-        self.assertEqual((parts.sent, parts.oldest, parts.sure, parts.rows), (len(cubes) - 1, oldest, min(moments), tuple(zip(moments, copies))))
+        self.assertEqual((parts.sent, parts.oldest, parts.sure, parts.rows), (len(cubes) - 1, oldest, min(moments),
+                tuple(zip(moments, copies))))
         for index, stretch in enumerate(parts.stretches):
             for moment in range(oldest, moments[index] + 1):
                 expected = {place: worth for place, worth in cubes[moment].cells.items() if place[at] in stretch}

@@ -38,7 +38,8 @@ def power_rules(outline):
     others = (None,) * (len(outline) - 1)
     ahead = ("at", ((side.name, ("step", -1)),))
     square = ("times", ("times", ahead, ahead), ("times", ahead, ahead))
-    return (Rule(((side.leaves[0],),) + others, ("worth", (10 ** 55, 7)), 3), Rule((tuple(sorted(side.leaves[1:])) or (side.leaves[0],),) + others, square, 2))
+    return (Rule(((side.leaves[0],),) + others, ("worth", (10 ** 55, 7)), 3),
+            Rule((tuple(sorted(side.leaves[1:])) or (side.leaves[0],),) + others, square, 2))
 
 
 def a_cube(chance, seed):
@@ -143,7 +144,8 @@ class Roads(unittest.TestCase, Checks):
                 answers = self.expected(line.cube.with_cells(box.writes))
                 self.hold(answers, "sandbox", box.answer)
                 for place, entry in box.writes.items():
-                    self.assertEqual(shell.say(f"put {' '.join(place)} = " + ("nothing" if entry is None else answer_text(("worth", entry)))), "ok")
+                    self.assertEqual(shell.say(f"put {' '.join(place)} = " + ("nothing" if entry is None else answer_text(("worth",
+                            entry)))), "ok")
                 for place, answer in answers.items():
                     self.assertEqual(shell.say("tell " + " ".join(place)), answer_text(answer))
                 line.commit("bob", (("cells", self.changes(chance, cube)), ("rules", chance.rules(cube.outline, 3))))
@@ -247,7 +249,8 @@ class NotTrue(unittest.TestCase, Checks):
     def test_a_rule_at_a_group_tells_the_same_in_every_order_of_opening(self):
         from sumstead.plain.weights import answer_by
         cube = SOME.with_rules((Rule((("all",), ("a",)), number(100)),))
-        self.assertEqual((answer_by(cube, ("all", "both"), (0, 1)), answer_by(cube, ("all", "both"), (1, 0))), (("worth", (21, 2)), ("worth", (201, 2))))
+        self.assertEqual((answer_by(cube, ("all", "both"), (0, 1)), answer_by(cube, ("all", "both"), (1, 0))),
+                         (("worth", (21, 2)), ("worth", (201, 2))))
 
     def test_a_place_whose_worth_is_0_is_nothing(self):
         cube = Cube(FLAT, (), {("jan", "a"): ONE, ("jan", "b"): ONE})

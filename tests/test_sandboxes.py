@@ -25,7 +25,8 @@ class Sandboxes(unittest.TestCase, Checks):
     def test_the_example(self):
         line = Line(SOME)
         ann, bob = Sandbox(line, "ann"), Sandbox(line, "bob")
-        self.assertEqual([ann.answer(("jan", "both")), ann.has_read, ann.write({("mar", "a"): (9, 2)}), bob.write({("jan", "b"): (1, 1), ("mar", "a"): None}),
+        self.assertEqual([ann.answer(("jan", "both")), ann.has_read, ann.write({("mar", "a"): (9, 2)}),
+                          bob.write({("jan", "b"): (1, 1), ("mar", "a"): None}),
                           parting_write(ann, bob)], [("worth", (9, 2)), (("jan", "a"), ("jan", "b")), None, None, ("mar", "a")])
 
     def test_a_new_sandbox(self):
@@ -102,7 +103,8 @@ class Sandboxes(unittest.TestCase, Checks):
         self.assertEqual((box.answer(TOP), box.has_read), (("refused", ("zero", JAN_B)), (JAN_A,)))
 
     def test_choices_and_folds(self):
-        chosen = Rule((("jan",), ("diff",)), ("if", ("there", to(("time", "jan"), ("shop", "a"))), to(("shop", "a"), ("time", "feb")), to(("shop", "b"))))
+        chosen = Rule((("jan",), ("diff",)), ("if", ("there", to(("time", "jan"), ("shop", "a"))),
+                                              to(("shop", "a"), ("time", "feb")), to(("shop", "b"))))
         box = Sandbox(Line(SOME.with_rules((chosen,))), "ann")
         self.assertEqual((box.answer(("jan", "diff")), box.has_read), (("worth", (6, 1)), (FEB_A, JAN_A)))
         box.write({JAN_A: None})
@@ -302,9 +304,12 @@ class Sandboxes(unittest.TestCase, Checks):
         self.assertEqual(one, made(("answer", JAN_A), ("write", {MAR_A: ONE})))
         longer = Line(SOME)
         longer.commit("bob", cells(feb_a=ONE))
-        for other in (made(("write", {MAR_A: ONE})), made(("write", {MAR_A: None}), ("answer", JAN_A)), made(("write", {MAR_A: ONE}), ("answer", JAN_B)),
-                      made(("write", {MAR_A: ONE}), ("answer", JAN_A), ("put_rules", ())), made(("write", {MAR_A: ONE}), ("answer", JAN_A), author="bob"),
-                      made(("write", {MAR_A: ONE}), ("answer", JAN_A), line=longer), made(("write", {MAR_A: ONE}), ("answer", JAN_A), line=Line(RULED))):
+        for other in (made(("write", {MAR_A: ONE})), made(("write", {MAR_A: None}), ("answer", JAN_A)),
+                      made(("write", {MAR_A: ONE}), ("answer", JAN_B)),
+                      made(("write", {MAR_A: ONE}), ("answer", JAN_A), ("put_rules", ())),
+                      made(("write", {MAR_A: ONE}), ("answer", JAN_A), author="bob"),
+                      made(("write", {MAR_A: ONE}), ("answer", JAN_A), line=longer),
+                      made(("write", {MAR_A: ONE}), ("answer", JAN_A), line=Line(RULED))):
             self.assertNotEqual(one, other)
         # a question that reads nothing is asked all the same
         ruled = Line(SOME.with_rules((RULE,)))
@@ -398,7 +403,8 @@ class Model:
 class Drawn(unittest.TestCase, Checks):
     def look(self, box, model):
         self.assertEqual((box.base, box.cube, box.writes, box.rules, box.has_read, box.has_asked, len(box)),
-                         (model.base, model.cube(), model.writes, model.rules, tuple(sorted(model.reads)), bool(model.told), len(model.writes)))
+                         (model.base, model.cube(), model.writes, model.rules, tuple(sorted(model.reads)), bool(model.told),
+                          len(model.writes)))
 
     def commit(self, line, box, model, seen):
         refusal = model.refusal()
@@ -473,7 +479,8 @@ class Drawn(unittest.TestCase, Checks):
             pair = []
             for author in ("ann", "bob"):
                 box = Sandbox(line, author)
-                box.write({place: chance.one_of((None, ONE)) for place in chance.random.sample(places, chance.random.randint(0, min(3, len(places))))})
+                box.write({place: chance.one_of((None, ONE)) for place in chance.random.sample(places,
+                        chance.random.randint(0, min(3, len(places))))})
                 if chance.random.random() < 0.4:
                     box.put_rules(chance.one_of(((), line.cube.rules)))
                 pair.append(box)

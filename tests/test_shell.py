@@ -32,14 +32,16 @@ class Shells(unittest.TestCase, Checks):
 
     def test_the_example(self):
         shell = Shell(Line(SOME))
-        self.assertEqual(shell.run(("tell all both", "put mar b = 5/2", "tell mar both", "as ann", "tell mar both", "as me", "commit", "as ann", "renew", "tell mar both")),
+        self.assertEqual(shell.run(("tell all both", "put mar b = 5/2", "tell mar both", "as ann", "tell mar both", "as me",
+                                    "commit", "as ann", "renew", "tell mar both")),
                          ("21/2", "ok", "5/2", "ann on 0", "nothing", "me on 0", "1", "ann on 0", "1", "5/2"))
 
     def test_properties(self):
         line = Line(SOME)
         line.commit("eve", (("cells", {}),))
         shell = Shell(line)
-        self.assertEqual((shell.author, shell.authors, shell.cube, shell.said, len(shell), str(shell)), ("me", ("me",), SOME, 0, 1, "shell of 1 authors, at 1"))
+        self.assertEqual((shell.author, shell.authors, shell.cube, shell.said, len(shell), str(shell)),
+                         ("me", ("me",), SOME, 0, 1, "shell of 1 authors, at 1"))
         shell.run(("as zoe", "as ann", "put jan a = 1", "", "rubbish"))
         self.assertEqual((shell.author, shell.authors, shell.cube.cells[("jan", "a")], shell.said, len(shell), str(shell)),
                          ("ann", ("ann", "me", "zoe"), ONE, 5, 3, "shell of 3 authors, at 1"))
@@ -78,7 +80,8 @@ class Shells(unittest.TestCase, Checks):
 
     def test_telling(self):
         shell = shell_of(RULED)
-        self.assertEqual(shell.run(("tell feb diff", "tell jan diff", "tell mar both", "tell  all   both  ")), ("3/2", "nothing", "nothing", "21/2"))
+        self.assertEqual(shell.run(("tell feb diff", "tell jan diff", "tell mar both", "tell  all   both  ")),
+                         ("3/2", "nothing", "nothing", "21/2"))
         self.assertEqual(shell_of(LOOP).say("tell jan both"), "#ring of jan b; jan both")
         zero = SOME.with_rules((Rule((("jan",), ("diff",)), ("over", number(1), number(0))),))
         self.assertEqual(shell_of(zero).say("tell all diff"), "#zero at jan diff")
@@ -86,27 +89,38 @@ class Shells(unittest.TestCase, Checks):
 
     def test_great_answers(self):
         names = tuple(f"n{n}" for n in range(30))
-        cube = Cube(Outline((Side("s", names),)), (Rule((None,), ("times", ("at", (("s", ("step", -1)),)), ("worth", (10 ** 59, 1))), 1), Rule((("n0",),), number(10 ** 59), 2)))
+        cube = Cube(Outline((Side("s", names),)), (Rule((None,), ("times", ("at", (("s", ("step", -1)),)),
+                                                                  ("worth", (10 ** 59, 1))), 1), Rule((("n0",),), number(10 ** 59), 2)))
         shell = shell_of(cube)
-        self.assertEqual((shell.say("tell n1"), shell.say("tell n20"), shell.say("tell n15")), ("1" + "0" * 118, "#great at n16", "1" + "0" * 944))
+        self.assertEqual((shell.say("tell n1"), shell.say("tell n20"), shell.say("tell n15")),
+                         ("1" + "0" * 118, "#great at n16", "1" + "0" * 944))
 
     def test_putting(self):
         shell = shell_of()
         self.assertEqual(shell.run(("put jan a = 4/6", "put feb a = nothing", "put mar b = -1/2", "put mar a = 0/5")), ("ok",) * 4)
         self.assertEqual(shell.cube.cells, {("jan", "a"): (2, 3), ("jan", "b"): (1, 2), ("mar", "a"): (0, 1), ("mar", "b"): (-1, 2)})
-        for text, answer in (("put jan a = 1/1001", "invalid"), ("put jan both = 1", "invalid"), ("put jan c = 1", "invalid"), ("put a jan = 1", "invalid"), ("put jan a = " + "9" * 19, "invalid"),
-                             ("put jan a = 01", "wrong at 12"), ("put jan a = 1/0", "wrong at 12"), ("put jan a = x", "wrong at 12"), ("put jan a = -0", "wrong at 12"), ("put jan a = " + "9" * 61, "wrong at 12"),
-                             ("put jan a = nothin", "wrong at 12"), ("put jan a =1", "wrong at 10"), ("put jan a=1", "wrong at 8"), ("put jan a", "wrong at 9"), ("put jan a =", "wrong at 11"),
-                             ("put jan a 1", "wrong at 10"), ("put jan = 1", "wrong at 8"), ("put jan a b = 1", "wrong at 10"), ("put jan a = 1 2", "wrong at 14"), ("put", "wrong at 3"),
+        for text, answer in (("put jan a = 1/1001", "invalid"), ("put jan both = 1", "invalid"), ("put jan c = 1", "invalid"),
+                             ("put a jan = 1", "invalid"), ("put jan a = " + "9" * 19, "invalid"),
+                             ("put jan a = 01", "wrong at 12"), ("put jan a = 1/0", "wrong at 12"),
+                             ("put jan a = x", "wrong at 12"), ("put jan a = -0", "wrong at 12"),
+                             ("put jan a = " + "9" * 61, "wrong at 12"),
+                             ("put jan a = nothin", "wrong at 12"), ("put jan a =1", "wrong at 10"), ("put jan a=1", "wrong at 8"),
+                             ("put jan a", "wrong at 9"), ("put jan a =", "wrong at 11"),
+                             ("put jan a 1", "wrong at 10"), ("put jan = 1", "wrong at 8"), ("put jan a b = 1", "wrong at 10"),
+                             ("put jan a = 1 2", "wrong at 14"), ("put", "wrong at 3"),
                              ("put  ", "wrong at 5"), ("put A a = 1", "wrong at 4"), ("put jan a = 1 ", "ok")):
             self.assertEqual(shell.say(text), answer, text)
 
     def test_spreading(self):
         shell = shell_of()
-        self.assertEqual(shell.run(("spread all a = 7 own", "tell jan a", "tell mar a", "spread all both = 8 even", "tell mar b")), ("3", "3", "nothing", "6", "1"))
-        for text, answer in (("spread all diff = 7 even", "refused weight"), ("spread all a = 1/2 even", "refused unit"), ("spread all a = nothing even", "invalid"), ("spread all x = 1 even", "invalid"),
-                             ("spread all a = 7 like", "wrong at 17"), ("spread all a = 7", "wrong at 16"), ("spread all a = 7 own own", "wrong at 21"), ("spread all a = x own", "wrong at 15"),
-                             ("spread all a = 9999999999999999 own", "invalid"), ("spread all a = 1/1001 own", "invalid"), ("spread all = 1 own", "wrong at 11"), ("spread", "wrong at 6")):
+        self.assertEqual(shell.run(("spread all a = 7 own", "tell jan a", "tell mar a", "spread all both = 8 even", "tell mar b")),
+                         ("3", "3", "nothing", "6", "1"))
+        for text, answer in (("spread all diff = 7 even", "refused weight"), ("spread all a = 1/2 even", "refused unit"),
+                             ("spread all a = nothing even", "invalid"), ("spread all x = 1 even", "invalid"),
+                             ("spread all a = 7 like", "wrong at 17"), ("spread all a = 7", "wrong at 16"),
+                             ("spread all a = 7 own own", "wrong at 21"), ("spread all a = x own", "wrong at 15"),
+                             ("spread all a = 9999999999999999 own", "invalid"), ("spread all a = 1/1001 own", "invalid"),
+                             ("spread all = 1 own", "wrong at 11"), ("spread", "wrong at 6")):
             self.assertEqual(shell.say(text), answer, text)
         self.assertEqual(shell_of(Cube(SOME.outline)).say("spread all a = 7 own"), "refused empty")
         self.assertEqual(shell_of(SOME.with_cells({("jan", "a"): (-1, 1)})).say("spread all a = 7 own"), "refused below")
@@ -124,17 +138,24 @@ class Shells(unittest.TestCase, Checks):
         for _ in range(100):
             line.commit("eve", (("cells", {}),))
         shell = Shell(line)
-        self.assertEqual(shell.run(("put jan a = 1", "commit", "back", "commit", "renew", "commit")), ("ok", "too many 100", "99", "refused adrift", "99", "100"))
+        self.assertEqual(shell.run(("put jan a = 1", "commit", "back", "commit", "renew", "commit")),
+                         ("ok", "too many 100", "99", "refused adrift", "99", "100"))
 
     def test_rules(self):
         shell = shell_of()
-        self.assertEqual(shell.run(("rule 2 (shop: diff) = [shop to a] / [shop to a, time step -1]", "tell feb diff", "rule 0 () = 1/3 ", "tell jan a", "norule 0", "tell feb diff")),
+        self.assertEqual(shell.run(("rule 2 (shop: diff) = [shop to a] / [shop to a, time step -1]", "tell feb diff",
+                                    "rule 0 () = 1/3 ", "tell jan a", "norule 0", "tell feb diff")),
                          ("rule 0", "3/2", "rule 1", "1/3", "ok", "1/3"))
         self.assertEqual(shell.cube.rules, (Rule((None, None), ("worth", (1, 3))),))
-        for text, answer in (("rule", "wrong at 4"), ("rule   ", "wrong at 7"), ("rule 1 (shop: diff) = [shop too a]", "wrong at 28"), ("rule 1 (shop: diff) = ", "wrong at 22"), ("rule x", "wrong at 5"),
-                             ("  rule  1 () = 1 2", "wrong at 17"), ("rule 1 (shop: c) = 1", "invalid"), ("rule 100 () = 1", "invalid"), ("rule 1 () = [shop to c]", "invalid"), ("rule 1 (shop: a, shop: b) = 1", "invalid"),
-                             ("rule 1 () = 1/0", "wrong at 14"), ("norule", "wrong at 6"), ("norule x", "wrong at 7"), ("norule 00", "wrong at 7"), ("norule 01", "wrong at 7"), ("norule 100", "wrong at 7"),
-                             ("norule -1", "wrong at 7"), ("norule 0 0", "wrong at 9"), ("norule 1", "invalid"), ("norule 99", "invalid"), ("norule 0", "ok"), ("norule 0", "invalid")):
+        for text, answer in (("rule", "wrong at 4"), ("rule   ", "wrong at 7"), ("rule 1 (shop: diff) = [shop too a]",
+                "wrong at 28"), ("rule 1 (shop: diff) = ", "wrong at 22"), ("rule x", "wrong at 5"),
+                             ("  rule  1 () = 1 2", "wrong at 17"), ("rule 1 (shop: c) = 1", "invalid"),
+                             ("rule 100 () = 1", "invalid"), ("rule 1 () = [shop to c]", "invalid"),
+                             ("rule 1 (shop: a, shop: b) = 1", "invalid"),
+                             ("rule 1 () = 1/0", "wrong at 14"), ("norule", "wrong at 6"), ("norule x", "wrong at 7"),
+                             ("norule 00", "wrong at 7"), ("norule 01", "wrong at 7"), ("norule 100", "wrong at 7"),
+                             ("norule -1", "wrong at 7"), ("norule 0 0", "wrong at 9"), ("norule 1", "invalid"),
+                             ("norule 99", "invalid"), ("norule 0", "ok"), ("norule 0", "invalid")):
             self.assertEqual(shell.say(text), answer, text)
         for index in range(30):
             self.assertEqual(shell.say("rule 0 (shop: a) = 1"), f"rule {index}")
@@ -146,13 +167,22 @@ class Shells(unittest.TestCase, Checks):
         expected = "\n".join(Sheet(RULED, ("jan", "a"), ("time", ("all",)), ("shop", ("members", ("a", "diff")))).lines)
         self.assertEqual(shell.say("sheet time all / shop members(a, diff) / jan a"), expected)
         self.assertEqual(shell.say("sheet  shop filter(leaves,there([time to mar]))/ / time all / jan a"), "wrong at 47")
-        for text, answer in (("sheet", "wrong at 5"), ("sheet time", "wrong at 10"), ("sheet time / shop all / jan a", "wrong at 11"), ("sheet time all", "wrong at 14"), ("sheet time all shop", "wrong at 15"),
-                             ("sheet time all /", "wrong at 16"), ("sheet time all / shop", "wrong at 21"), ("sheet time all / shop / jan a", "wrong at 22"), ("sheet time all / shop all", "wrong at 25"),
-                             ("sheet time all / shop all /", "wrong at 27"), ("sheet time all / shop all / jan", "wrong at 31"), ("sheet time all / shop all / jan a b", "wrong at 34"),
-                             ("sheet time order(all / shop all / jan a", "wrong at 21"), ("sheet / all / shop all / jan a", "wrong at 6"), ("sheet time all / shop al / jan a", "wrong at 22"),
-                             ("sheet time all/ shop all / jan a", "wrong at 14"), ("sheet months all / shop all / jan a", "invalid"), ("sheet time all / time all / jan a", "invalid"),
-                             ("sheet time all / shop members(c) / jan a", "invalid"), ("sheet time all / shop all / jan c", "invalid"), ("sheet time members(a, a) / shop al / jan a", "wrong at 32"),
-                             ("sheet time members(a, a) / shop all / jan a", "invalid"), ("sheet time first(all, 0) / shop all / jan", "wrong at 41")):
+        for text, answer in (("sheet", "wrong at 5"), ("sheet time", "wrong at 10"),
+                             ("sheet time / shop all / jan a", "wrong at 11"), ("sheet time all", "wrong at 14"),
+                             ("sheet time all shop", "wrong at 15"),
+                             ("sheet time all /", "wrong at 16"), ("sheet time all / shop", "wrong at 21"),
+                             ("sheet time all / shop / jan a", "wrong at 22"), ("sheet time all / shop all", "wrong at 25"),
+                             ("sheet time all / shop all /", "wrong at 27"), ("sheet time all / shop all / jan", "wrong at 31"),
+                             ("sheet time all / shop all / jan a b", "wrong at 34"),
+                             ("sheet time order(all / shop all / jan a", "wrong at 21"),
+                             ("sheet / all / shop all / jan a", "wrong at 6"), ("sheet time all / shop al / jan a", "wrong at 22"),
+                             ("sheet time all/ shop all / jan a", "wrong at 14"),
+                             ("sheet months all / shop all / jan a", "invalid"), ("sheet time all / time all / jan a", "invalid"),
+                             ("sheet time all / shop members(c) / jan a", "invalid"),
+                             ("sheet time all / shop all / jan c", "invalid"), ("sheet time members(a, a) / shop al / jan a",
+                                     "wrong at 32"),
+                             ("sheet time members(a, a) / shop all / jan a", "invalid"),
+                             ("sheet time first(all, 0) / shop all / jan", "wrong at 41")):
             self.assertEqual(shell.say(text), answer, text)
         zero = SOME.with_rules((Rule((("jan",), ("diff",)), ("over", number(1), number(0))),))
         self.assertEqual(shell_of(zero).say("sheet time order(all, [shop to diff], up) / shop all / jan a"), "refused zero")
@@ -164,7 +194,8 @@ class Shells(unittest.TestCase, Checks):
 
     def test_a_sheet_that_is_too_large(self):
         names = tuple(f"n{n}" for n in range(30))
-        trees = tuple((f"h{at}", tuple((f"g{at}{n}", ((f"g{at}{n + 1}", ONE),)) for n in range(5)) + ((f"g{at}5", (("n0", ONE),)),)) for at in range(3))
+        trees = tuple((f"h{at}", tuple((f"g{at}{n}", ((f"g{at}{n + 1}", ONE),)) for n in range(5)) + ((f"g{at}5", (("n0", ONE),)),
+                )) for at in range(3))
         cube = Cube(Outline((Side("p", names, trees), Side("q", names, trees))))
         shell = shell_of(cube)
         self.assertEqual(shell.say("sheet p all / q all / n0 n0"), "too many 2000")
@@ -172,18 +203,23 @@ class Shells(unittest.TestCase, Checks):
 
     def test_authors(self):
         shell = shell_of()
-        self.assertEqual(shell.run(("who", "as bob", "who", "put jan a = 1", "commit", "as ann", "as bob", "as me", "who", "as tell", "as me")),
+        self.assertEqual(shell.run(("who", "as bob", "who", "put jan a = 1", "commit", "as ann", "as bob", "as me", "who",
+                                    "as tell", "as me")),
                          ("me", "bob on 0", "bob me", "ok", "1", "ann on 1", "bob on 1", "me on 0", "ann bob me", "tell on 1", "me on 0"))
-        for text, answer in (("as", "wrong at 2"), ("as Bob", "wrong at 3"), ("as longer9ame", "wrong at 3"), ("as bob bob", "wrong at 7"), ("as 1a", "wrong at 3"), ("as =", "wrong at 3"), ("who me", "wrong at 4")):
+        for text, answer in (("as", "wrong at 2"), ("as Bob", "wrong at 3"), ("as longer9ame", "wrong at 3"),
+                             ("as bob bob", "wrong at 7"), ("as 1a", "wrong at 3"), ("as =", "wrong at 3"), ("who me", "wrong at 4")):
             self.assertEqual((shell.say(text), shell.author), (answer, "me"))
         self.assertEqual(shell.authors, ("ann", "bob", "me", "tell"))
 
     def test_commits_and_the_way_back(self):
         shell = shell_of()
-        self.assertEqual(shell.run(("commit", "back", "forward", "put jan a = 1", "commit", "back", "back", "forward", "forward", "put jan b = 2", "back", "commit", "renew", "commit", "drop", "commit")),
-                         ("refused empty", "no more", "no more", "ok", "1", "0", "no more", "1", "no more", "ok", "0", "refused adrift", "0", "1", "ok", "refused empty"))
+        self.assertEqual(shell.run(("commit", "back", "forward", "put jan a = 1", "commit", "back", "back", "forward", "forward",
+                                    "put jan b = 2", "back", "commit", "renew", "commit", "drop", "commit")),
+                         ("refused empty", "no more", "no more", "ok", "1", "0", "no more", "1", "no more", "ok", "0",
+                          "refused adrift", "0", "1", "ok", "refused empty"))
         shell = shell_of()
-        self.assertEqual(shell.run(("tell jan a", "put jan b = 2", "as ann", "put jan a = 7", "commit", "as me", "commit", "drop", "commit", "tell jan a", "tell jan b")),
+        self.assertEqual(shell.run(("tell jan a", "put jan b = 2", "as ann", "put jan a = 7", "commit", "as me", "commit", "drop",
+                                    "commit", "tell jan a", "tell jan b")),
                          ("4", "ok", "ann on 0", "ok", "1", "me on 0", "refused cell", "ok", "refused empty", "7", "1/2"))
         shell.run(("put mar a = 1", "tell jan a", "as ann", "rule 1 () = 1", "commit", "as me"))
         self.assertEqual(shell.say("commit"), "refused rules")
@@ -194,22 +230,26 @@ class Shells(unittest.TestCase, Checks):
         shell = Shell(line)
         shell.say("put jan a = 1")
         line.commit("eve", (("edits", (("add", "shop", "c"),)),))
-        self.assertEqual(shell.run(("commit", "renew", "drop", "put jan c = 3", "commit")), ("refused outline", "refused outline", "ok", "ok", "2"))
+        self.assertEqual(shell.run(("commit", "renew", "drop", "put jan c = 3", "commit")),
+                         ("refused outline", "refused outline", "ok", "ok", "2"))
 
     def test_what_is_not_done_has_no_effect(self):
         shell = shell_of(RULED)
         shell.run(("put mar a = 1", "rule 0 (shop: b) = 2"))
         twin = shell_of(RULED)
         twin.run(("put mar a = 1", "rule 0 (shop: b) = 2"))
-        for text in ("as", "as Bob", "tell jan", "tell jan c", "put jan a = x", "put jan both = 1", "spread all diff = 1 even", "rule 1 () = ", "rule 1 (shop: c) = 1", "norule 9", "sheet time all", "Tell jan a",
-                     "sheet time all / time all / jan a", "renew 1", "back", "forward", "commit it", "=", "/", "tel jan a", "told", "rule1 () = 1"):
+        for text in ("as", "as Bob", "tell jan", "tell jan c", "put jan a = x", "put jan both = 1", "spread all diff = 1 even",
+                     "rule 1 () = ", "rule 1 (shop: c) = 1", "norule 9", "sheet time all", "Tell jan a",
+                     "sheet time all / time all / jan a", "renew 1", "back", "forward", "commit it", "=", "/", "tel jan a", "told",
+                     "rule1 () = 1"):
             self.assertTrue(shell.say(text).startswith(("wrong at ", "invalid", "refused ", "no more")), text)
             self.assertEqual((shell.author, shell.authors, shell.cube), (twin.author, twin.authors, twin.cube))
         self.assertEqual((shell.say("commit"), shell.cube), ("1", twin.cube))
 
     def test_words(self):
         shell = shell_of()
-        for text, answer in (("x", "wrong at 0"), ("   x tell", "wrong at 3"), ("tells jan a", "wrong at 0"), ("TELL jan a", "wrong at 0"), ("  tell jan a", "4"), ("t ell jan a", "wrong at 0"), ("", ""), ("      ", "")):
+        for text, answer in (("x", "wrong at 0"), ("   x tell", "wrong at 3"), ("tells jan a", "wrong at 0"),
+                             ("TELL jan a", "wrong at 0"), ("  tell jan a", "4"), ("t ell jan a", "wrong at 0"), ("", ""), ("      ", "")):
             self.assertEqual(shell.say(text), answer, text)
 
     def test_names_that_are_words(self):
@@ -217,13 +257,17 @@ class Shells(unittest.TestCase, Checks):
         other = Side("sheet", ("commit", "nothing", "all"))
         cube = Cube(Outline((side, other)), (), {("put", "commit"): (2, 1), ("rule", "commit"): (3, 1)})
         shell = shell_of(cube)
-        self.assertEqual(shell.run(("tell sum commit", "put rule nothing = nothing", "put to nothing = 4", "tell to nothing", "spread sum all = 3 even", "as as", "as nothing", "as me",
-                                    "sheet tell members(put, sum) / sheet leaves / if commit", "rule 3 (tell: if) = [tell to to]", "tell if nothing")),
-                         ("5", "ok", "ok", "4", "2", "as on 0", "nothing on 0", "me on 0", "     commit  nothing  all\nput  2       -        2\nsum  5       -        3", "rule 0", "4"))
+        self.assertEqual(shell.run(("tell sum commit", "put rule nothing = nothing", "put to nothing = 4", "tell to nothing",
+                                    "spread sum all = 3 even", "as as", "as nothing", "as me",
+                                    "sheet tell members(put, sum) / sheet leaves / if commit", "rule 3 (tell: if) = [tell to to]",
+                                    "tell if nothing")),
+                         ("5", "ok", "ok", "4", "2", "as on 0", "nothing on 0", "me on 0",
+                          "     commit  nothing  all\nput  2       -        2\nsum  5       -        3", "rule 0", "4"))
 
     def test_blanks_everywhere(self):
         shell = shell_of()
-        self.assertEqual(shell.run(("   put   jan   a   =   3/6   ", "  tell jan    a ", " rule   1   (  )=1  ", "  norule    0  ", "  sheet   time  leaves   /   shop  leaves  /  jan  a ", "  as   bob  ")),
+        self.assertEqual(shell.run(("   put   jan   a   =   3/6   ", "  tell jan    a ", " rule   1   (  )=1  ", "  norule    0  ",
+                                    "  sheet   time  leaves   /   shop  leaves  /  jan  a ", "  as   bob  ")),
                          ("ok", "1/2", "rule 0", "ok", "     a    b\njan  1/2  1/2\nfeb  6    -\nmar  -    -", "bob on 0"))
 
 
@@ -244,7 +288,8 @@ class Second:
             return pieces[0][0], None
         word = pieces[0][1]
         many = len(self.line.cube.outline)
-        kinds = {"as": "n", "tell": "n" * many, "put": "n" * many + "=w", "spread": "n" * many + "=wy", "rule": "R", "norule": "d", "sheet": "nQ/nQ/" + "n" * many}.get(word, "")
+        kinds = {"as": "n", "tell": "n" * many, "put": "n" * many + "=w", "spread": "n" * many + "=wy", "rule": "R", "norule": "d",
+                 "sheet": "nQ/nQ/" + "n" * many}.get(word, "")
         parts, at = [], 1
         for kind in kinds + "$":
             begin, piece = pieces[at]
@@ -415,7 +460,8 @@ class Drawn(unittest.TestCase, Checks):
                     text = text.replace(" ", "  ") + " "
                 told = shell.say(text)
                 self.assertEqual(told, second.say(text), text)
-                self.assertEqual((shell.author, shell.authors, shell.cube, shell.said), (second.author, tuple(sorted(second.boxes)), second.box().cube, count + 1))
+                self.assertEqual((shell.author, shell.authors, shell.cube, shell.said),
+                                 (second.author, tuple(sorted(second.boxes)), second.box().cube, count + 1))
                 kind = re.sub("[0-9/-]+", "N", told.split(" ")[0])
                 answers[kind] = answers.get(kind, 0) + 1
             self.assertEqual(str(shell), f"shell of {len(second.boxes)} authors, at {second.line.present}")

@@ -20,7 +20,8 @@ OUTLINE = Outline((YEAR, KIND, PLACE))
 S = ("at", (("kind", ("to", "flow")),))
 B = ("at", (("kind", ("to", "flow")), ("time", ("step", -1))))
 AREA = (None, ("told",), None)
-FUNCTIONS = (("to_date", to_date, ("quarters",)), ("over_window", over_window, (3,)), ("opening", opening, ()), ("closing", closing, ()), ("rise", rise, ()))
+FUNCTIONS = (("to_date", to_date, ("quarters",)), ("over_window", over_window, (3,)), ("opening", opening, ()),
+             ("closing", closing, ()), ("rise", rise, ()))
 
 
 def made(function, more=(), outline=OUTLINE, time="time", kind="kind", goal="told", source="flow", **rank):
@@ -30,10 +31,14 @@ def made(function, more=(), outline=OUTLINE, time="time", kind="kind", goal="tol
 class Spans(unittest.TestCase, Checks):
     def test_spans(self):
         for member, span, expected in (
-                ("m4", ("members", ("m5", "year", "m1")), ("m5", "year", "m1")), ("year", ("children", "quarters"), ("q1", "q2")), ("m1", ("children", "quarters"), ()),
-                ("odds", ("children", "quarters"), ()), ("year", ("leaves",), MONTHS), ("q2", ("leaves",), MONTHS[3:]), ("m2", ("leaves",), ("m2",)),
-                ("m4", ("window", 3), ("m2", "m3", "m4")), ("m2", ("window", 30), ("m1", "m2")), ("m2", ("window", 1), ("m2",)), ("q1", ("window", 3), ()),
-                ("m5", ("sofar", "quarters"), ("m4", "m5")), ("m4", ("sofar", "quarters"), ("m4",)), ("m5", ("sofar", "odd"), ("m1", "m3", "m5")),
+                ("m4", ("members", ("m5", "year", "m1")), ("m5", "year", "m1")), ("year", ("children", "quarters"), ("q1", "q2")),
+                                       ("m1", ("children", "quarters"), ()),
+                ("odds", ("children", "quarters"), ()), ("year", ("leaves",), MONTHS), ("q2", ("leaves",), MONTHS[3:]),
+                                       ("m2", ("leaves",), ("m2",)),
+                ("m4", ("window", 3), ("m2", "m3", "m4")), ("m2", ("window", 30), ("m1", "m2")), ("m2", ("window", 1), ("m2",)),
+                                       ("q1", ("window", 3), ()),
+                ("m5", ("sofar", "quarters"), ("m4", "m5")), ("m4", ("sofar", "quarters"), ("m4",)),
+                                       ("m5", ("sofar", "odd"), ("m1", "m3", "m5")),
                 ("m2", ("sofar", "odd"), ()), ("q2", ("sofar", "quarters"), ()), ("year", ("sofar", "quarters"), ())):
             self.assertEqual(span_of(YEAR, member, span), expected, (member, span))
 
@@ -43,7 +48,8 @@ class Spans(unittest.TestCase, Checks):
                 self.assert_raises(InvalidOutline, span_of, value, None, None)
             self.assert_raises(UnknownName, span_of, YEAR, value, None)
             self.assert_raises(InvalidOperation, span_of, YEAR, "m1", value)
-        for span in (("members", ("m1", "m9")), ("members", ()), ("members", ("m1", "m1")), ("children", "months"), ("sofar", "h"), ("window", 0), ("window", 31),
+        for span in (("members", ("m1", "m9")), ("members", ()), ("members", ("m1", "m1")), ("children", "months"), ("sofar", "h"),
+                     ("window", 0), ("window", 31),
                      ("window", True), ("leaves", 1), ["leaves"], ("all",), ("members", tuple(f"n{n}" for n in range(31)))):
             self.assert_raises(InvalidOperation, span_of, YEAR, "m1", span)
         self.assert_raises(UnknownName, span_of, YEAR, "quarters", ("leaves",))
@@ -87,9 +93,12 @@ class Rules(unittest.TestCase, Checks):
                     self.assertIs(error.asked, wrong)
                     self.assert_raises(UnknownName, function, OUTLINE, "time", *more, wrong, None, None, rank=None)
                     if name == "to_date":
-                        self.assertIs(self.assert_raises(UnknownName, function, OUTLINE, "time", wrong, None, None, None, rank=None).asked, wrong)
-                    self.assertIs(self.assert_raises(UnknownName, function, OUTLINE, "time", *more, "kind", wrong, None, rank=None).asked, wrong)
-                    self.assertIs(self.assert_raises(UnknownName, function, OUTLINE, "time", *more, "kind", "told", wrong, rank=None).asked, wrong)
+                        self.assertIs(self.assert_raises(UnknownName, function, OUTLINE, "time", wrong, None, None, None,
+                                                         rank=None).asked, wrong)
+                    self.assertIs(self.assert_raises(UnknownName, function, OUTLINE, "time", *more, "kind", wrong, None,
+                                                     rank=None).asked, wrong)
+                    self.assertIs(self.assert_raises(UnknownName, function, OUTLINE, "time", *more, "kind", "told", wrong,
+                                                     rank=None).asked, wrong)
                 if not (type(value) is int and 0 <= value <= 99):
                     self.assertIs(self.assert_raises(InvalidNumber, made, function, more, rank=value).given, value)
                 if name == "over_window" and not (type(value) is int and 1 <= value <= 30):
@@ -159,7 +168,8 @@ class Told(unittest.TestCase, Checks):
             source = chance.one_of(("flow", "stock", "all"))
             base = drawn_cube(chance)
             hierarchy, count = chance.one_of(YEAR.names), chance.random.randint(1, 7)
-            cubes = {name: with_more(base, (made(function, {"to_date": (hierarchy,), "over_window": (count,)}.get(name, ()), source=source),))
+            cubes = {name: with_more(base, (made(function, {"to_date": (hierarchy,), "over_window": (count,)}.get(name, ()),
+                                                 source=source),))
                      for name, function, _ in FUNCTIONS}
             for member in YEAR.members:
                 for where in PLACE.members:
@@ -180,8 +190,10 @@ class Told(unittest.TestCase, Checks):
         cells = {("m1", "flow", "x"): (3, 1), ("m6", "flow", "x"): (5, 1)}
         cube = Cube(OUTLINE, (), cells)
         for function, more, expected in ((to_date, ("quarters",), {"m1": 3, "m3": 3, "m4": None, "m6": 5, "q1": None, "year": None}),
-                                         (over_window, (2,), {"m1": 3, "m2": 3, "m3": None, "m5": None, "m6": 5}), (opening, (), {"m1": 3, "m2": None, "year": 3, "q2": 5}),
-                                         (closing, (), {"m1": 3, "q1": 3, "year": 5, "q2": 5, "odds": 3}), (rise, (), {"m1": None, "m2": None, "m6": None, "year": None})):
+                                         (over_window, (2,), {"m1": 3, "m2": 3, "m3": None, "m5": None, "m6": 5}),
+                                         (opening, (), {"m1": 3, "m2": None, "year": 3, "q2": 5}),
+                                         (closing, (), {"m1": 3, "q1": 3, "year": 5, "q2": 5, "odds": 3}),
+                                         (rise, (), {"m1": None, "m2": None, "m6": None, "year": None})):
             ruled = with_more(cube, (made(function, more),))
             for member, worth in expected.items():
                 self.assertEqual(told(ruled, (member, "told", "x")), worth, (function, member))
@@ -197,8 +209,10 @@ class Told(unittest.TestCase, Checks):
         broken = Rule((("m2",), ("flow",), None), ("over", number(1), number(0)), 60)
         cube = Cube(OUTLINE, (broken,), {("m1", "flow", "x"): ONE, ("m3", "flow", "x"): ONE})
         refused = ("refused", ("zero", ("m2", "flow", "x")))
-        for function, more, member, expected in ((to_date, ("quarters",), "m1", ("worth", ONE)), (to_date, ("quarters",), "m3", refused), (over_window, (1,), "m3", ("worth", ONE)),
-                                                 (over_window, (2,), "m3", refused), (opening, (), "q1", ("worth", ONE)), (closing, (), "q1", ("worth", ONE)),
+        for function, more, member, expected in ((to_date, ("quarters",), "m1", ("worth", ONE)),
+                                                 (to_date, ("quarters",), "m3", refused), (over_window, (1,), "m3", ("worth", ONE)),
+                                                 (over_window, (2,), "m3", refused), (opening, (), "q1", ("worth", ONE)),
+                                                 (closing, (), "q1", ("worth", ONE)),
                                                  (rise, (), "m3", refused), (rise, (), "m5", ("nothing",))):
             self.assertEqual(with_more(cube, (made(function, more),)).answer((member, "told", "x")), expected)
 
@@ -209,23 +223,28 @@ class Told(unittest.TestCase, Checks):
         ruled = cube.with_rules(self.powers() + (nines,))
         place = ("m1", "flow", "x")
         self.assertEqual(len(str(ruled.answer(place)[1][0])), 1000)
-        self.assertEqual(with_more(ruled, (made(to_date, ("quarters",)),)).answer(("m2", "told", "x")), ("refused", ("great", ("m2", "told", "x"))))
-        self.assertEqual(with_more(ruled, (made(over_window, (2,)),)).answer(("m3", "told", "x")), ("refused", ("great", ("m3", "told", "x"))))
+        self.assertEqual(with_more(ruled, (made(to_date, ("quarters",)),)).answer(("m2", "told", "x")),
+                         ("refused", ("great", ("m2", "told", "x"))))
+        self.assertEqual(with_more(ruled, (made(over_window, (2,)),)).answer(("m3", "told", "x")),
+                         ("refused", ("great", ("m3", "told", "x"))))
         self.assertEqual(with_more(ruled, (made(closing),)).answer(("q1", "told", "x"))[0], "worth")
         low = Rule((("m1",), ("flow",), None), ("minus", number(0), self.nines()), 61)
         self.assertEqual(with_more(ruled, (low, made(rise))).answer(("m2", "told", "x")), ("refused", ("great", ("m2", "told", "x"))))
 
     def powers(self):
         """Rules by which m4 at stock is 10 to the 50th, m5 10 to the 250th, m6 10 to the 999th."""
-        four, five = ("at", (("kind", ("to", "stock")), ("time", ("to", "m4")))), ("at", (("kind", ("to", "stock")), ("time", ("to", "m5"))))
+        four, five = ("at", (("kind", ("to", "stock")), ("time", ("to", "m4")))), ("at",
+                (("kind", ("to", "stock")), ("time", ("to", "m5"))))
 
         def times(*parts):
             product = parts[0]
             for part in parts[1:]:
                 product = ("times", product, part)
             return product
-        return (Rule((("m4",), ("stock",), None), ("worth", (10 ** 50, 1))), Rule((("m5",), ("stock",), None), times(four, four, four, four, four)),
-                Rule((("m6",), ("stock",), None), ("times", times(five, five, five), times(four, four, four, four, ("worth", (10 ** 49, 1))))))
+        return (Rule((("m4",), ("stock",), None), ("worth", (10 ** 50, 1))), Rule((("m5",), ("stock",), None),
+                times(four, four, four, four, four)),
+                Rule((("m6",), ("stock",), None), ("times", times(five, five, five),
+                                                   times(four, four, four, four, ("worth", (10 ** 49, 1))))))
 
     def nines(self):
         """The formula of 10 to the 1000th less 1."""
@@ -238,7 +257,8 @@ class Told(unittest.TestCase, Checks):
             source = chance.one_of(("flow", "stock", "all"))
             base = drawn_cube(chance, full=True)
             risen, windowed, dated = (with_more(base, (made(function, more, source=source),))
-                                      for function, more in ((rise, ()), (over_window, (chance.random.randint(6, 30),)), (to_date, ("quarters",))))
+                                      for function, more in ((rise, ()), (over_window, (chance.random.randint(6, 30),)),
+                                                             (to_date, ("quarters",))))
             for where in PLACE.members:
                 worths = [there(base, month, source, where) for month in MONTHS]
                 for at in range(1, 6):

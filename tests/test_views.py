@@ -47,11 +47,13 @@ class Rights(unittest.TestCase, Checks):
 
     def test_wrong_arguments(self):
         names = tuple(f"n{n}" for n in range(10, 40))
-        for value in odd_values() + [{"shop": ()}, {"shop": ["b"]}, {"shop": ("b", "a")}, {"shop": ("a", "a")}, {"Shop": ("a",)}, {"shop": ("A",)},
+        for value in odd_values() + [{"shop": ()}, {"shop": ["b"]}, {"shop": ("b", "a")}, {"shop": ("a", "a")}, {"Shop": ("a",)},
+                                     {"shop": ("A",)},
                                      {"shop": "a"}, {"shop": (1,)}, {1: ("a",)}, {name: ("a",) for name in names[:6]}, [("shop", ("a",))]]:
             if value != {}:
                 self.assert_raises(InvalidQuestion, Right, value)
-        for value in odd_values() + [[JAN_BOTH], (("jan", "both"), ("jan", "a")), (JAN_BOTH, JAN_BOTH), ((),), (("a",) * 6,), ("jan",), (["jan", "both"],),
+        for value in odd_values() + [[JAN_BOTH], (("jan", "both"), ("jan", "a")), (JAN_BOTH, JAN_BOTH), ((),), (("a",) * 6,),
+                                     ("jan",), (["jan", "both"],),
                                      tuple((name,) for name in names[:21]), ((1, 2),), (("Jan", "both"),), JAN_BOTH]:
             if value != ():
                 self.assert_raises(InvalidQuestion, Right, {}, value)
@@ -64,7 +66,8 @@ class Rights(unittest.TestCase, Checks):
         for right in (Right({}), Right({"time": ("feb", "jan"), "shop": ("a",)}), Right({}, tuple(sorted(FLAT.places()))[:16])):
             self.assertTrue(right.suits(FLAT))
         for right in (Right({"shop": ("a", "b")}), Right({"shop": ("c",)}), Right({"shop": ("both",)}), Right({"shops": ("a",)}),
-                      Right({"time": ("feb", "jan", "mar")}), Right({}, (("jan",),)), Right({}, (("jan", "c"),)), Right({}, (("a", "jan"), JAN_BOTH)),
+                      Right({"time": ("feb", "jan", "mar")}), Right({}, (("jan",),)), Right({}, (("jan", "c"),)),
+                      Right({}, (("a", "jan"), JAN_BOTH)),
                       Right({"shop": ("b",)}, (("jan", "both", "a"),))):
             self.assertFalse(right.suits(FLAT))
             self.assert_raises(InvalidQuestion, cut_outline, FLAT, right)
@@ -97,7 +100,8 @@ class Cutting(unittest.TestCase, Checks):
 
     def test_groups_and_hierarchies_that_become_empty(self):
         side = cut_outline(WIDE, Right({"deep": ("a", "b")})).sides[0]
-        self.assertEqual(side, Side("deep", ("c", "d"), (("one", (("top", (("d", (3, 1)),)),)), ("last", (("z", (("y", ONE),)), ("y", (("c", ONE),)))))))
+        self.assertEqual(side, Side("deep", ("c", "d"), (("one", (("top", (("d", (3, 1)),)),)),
+                                                         ("last", (("z", (("y", ONE),)), ("y", (("c", ONE),)))))))
         side = cut_outline(WIDE, Right({"deep": ("a", "b", "d")})).sides[0]
         self.assertEqual(side, Side("deep", ("c",), (("last", (("z", (("y", ONE),)), ("y", (("c", ONE),)))),)))
         side = cut_outline(WIDE, Right({"deep": ("a", "c")})).sides[0]
@@ -117,10 +121,12 @@ class Cutting(unittest.TestCase, Checks):
         self.assertEqual(cube.cells, {("feb", "a"): (6, 1)})
 
     def test_areas(self):
-        rules = (Rule((("a", "b"), None), number(1)), Rule((("a", "k"), ("jan",)), number(2)), Rule((("g", "y"), ("feb", "jan")), number(3), 4),
+        rules = (Rule((("a", "b"), None), number(1)), Rule((("a", "k"), ("jan",)), number(2)),
+                 Rule((("g", "y"), ("feb", "jan")), number(3), 4),
                  Rule((None, ("jan",)), number(5)))
         cut = cut_cube(Cube(WIDE, rules), Right({"deep": ("a",)}))
-        self.assertEqual(cut.rules, (Rule((("b",), None), number(1)), Rule((("g", "y"), ("feb", "jan")), number(3), 4), Rule((None, ("jan",)), number(5))))
+        self.assertEqual(cut.rules, (Rule((("b",), None), number(1)), Rule((("g", "y"), ("feb", "jan")), number(3), 4),
+                                     Rule((None, ("jan",)), number(5))))
         cut = cut_cube(Cube(WIDE, rules), Right({"deep": ("a", "b"), "time": ("jan",)}))
         self.assertEqual(cut.rules, (Rule((("y",), ("feb",)), number(3), 4),))
 
@@ -130,19 +136,25 @@ class Cutting(unittest.TestCase, Checks):
         def cut(formula, right=hidden):
             return cut_cube(Cube(WIDE, (Rule((None, None), formula, 3),)), right).rules[0].formula
         for formula, expected in (
-                (to(("deep", "a")), NOTHING), (to(("deep", "g")), NOTHING), (to(("deep", "all")), NOTHING), (to(("deep", "c")), to(("deep", "c"))),
+                (to(("deep", "a")), NOTHING), (to(("deep", "g")), NOTHING), (to(("deep", "all")), NOTHING),
+                                  (to(("deep", "c")), to(("deep", "c"))),
                 (to(("deep", "c"), ("time", "jan")), to(("deep", "c"), ("time", "jan"))), (to(("deep", "a"), ("time", "jan")), NOTHING),
-                (("at", (("deep", ("parent", "two")),)), NOTHING), (("at", (("deep", ("parent", "one")),)), ("at", (("deep", ("parent", "one")),))),
+                (("at", (("deep", ("parent", "two")),)), NOTHING), (("at", (("deep", ("parent", "one")),)),
+                                                                    ("at", (("deep", ("parent", "one")),))),
                 (("at", (("deep", ("step", 3)),)), ("at", (("deep", ("step", 3)),))), (HERE, HERE),
                 (("sum", "deep", ("members", ("b", "d", "g", "c")), HERE), ("sum", "deep", ("members", ("d", "c")), HERE)),
                 (("first", "deep", ("members", ("b", "g")), HERE), NOTHING), (("last", "deep", ("children", "two"), number(1)), NOTHING),
-                (("last", "deep", ("sofar", "two"), number(1)), NOTHING), (("sum", "deep", ("sofar", "last"), HERE), ("sum", "deep", ("sofar", "last"), HERE)),
+                (("last", "deep", ("sofar", "two"), number(1)), NOTHING), (("sum", "deep", ("sofar", "last"), HERE),
+                        ("sum", "deep", ("sofar", "last"), HERE)),
                 (("sum", "deep", ("children", "one"), to(("deep", "b"))), ("sum", "deep", ("children", "one"), NOTHING)),
-                (("sum", "deep", ("leaves",), HERE), ("sum", "deep", ("leaves",), HERE)), (("sum", "deep", ("window", 9), HERE), ("sum", "deep", ("window", 9), HERE)),
+                (("sum", "deep", ("leaves",), HERE), ("sum", "deep", ("leaves",), HERE)),
+                                  (("sum", "deep", ("window", 9), HERE), ("sum", "deep", ("window", 9), HERE)),
                 (("plus", to(("deep", "a")), ("times", number(2), to(("deep", "b")))), ("plus", NOTHING, ("times", number(2), NOTHING))),
-                (("if", ("both", ("not", ("there", to(("deep", "a")))), ("either", ("below", HERE, to(("deep", "m"))), ("same", number(1), number(1)))),
+                (("if", ("both", ("not", ("there", to(("deep", "a")))), ("either", ("below", HERE, to(("deep", "m"))),
+                        ("same", number(1), number(1)))),
                   to(("deep", "c")), to(("deep", "k"))),
-                 ("if", ("both", ("not", ("there", NOTHING)), ("either", ("below", HERE, NOTHING), ("same", number(1), number(1)))), to(("deep", "c")), NOTHING)),
+                 ("if", ("both", ("not", ("there", NOTHING)), ("either", ("below", HERE, NOTHING), ("same", number(1), number(1)))),
+                  to(("deep", "c")), NOTHING)),
                 (("over", ("minus", number(1), NOTHING), ("sum", "time", ("members", ("jan",)), to(("deep", "a")))),
                  ("over", ("minus", number(1), NOTHING), ("sum", "time", ("members", ("jan",)), NOTHING)))):
             self.assertEqual(cut(formula), expected)
@@ -213,7 +225,8 @@ class Views(unittest.TestCase, Checks):
         self.assertEqual(view, View(SOME, Right({"shop": ("b",)}, (JAN_BOTH,))))
         # hidden cells do not count, unless they change a granted answer
         self.assertEqual(view, View(SOME.with_cells({("feb", "b"): ONE}), RIGHT))
-        for other in (View(SOME.with_cells({("jan", "b"): ONE}), RIGHT), View(SOME.with_cells({("feb", "a"): ONE}), RIGHT), View(RULED, RIGHT),
+        for other in (View(SOME.with_cells({("jan", "b"): ONE}), RIGHT), View(SOME.with_cells({("feb", "a"): ONE}), RIGHT),
+                      View(RULED, RIGHT),
                       View(SOME, Right({"shop": ("b",)})), View(SOME, Right({}, (JAN_BOTH,)))):
             self.assertNotEqual(view, other)
         for value in odd_values():

@@ -30,6 +30,7 @@ class Disks(unittest.TestCase, Checks):
         self.assertIsNone(disk.append("a", ""))
         self.assertIsNone(disk.append("b", "two~ "))
         self.assertEqual((disk.names, disk.read("b"), disk.read("a"), disk.steps), (("a", "b"), "one\ntwo~ ", "", 3))
+        self.assertEqual((len(disk), str(disk)), (2, "disk of 2 files, 3 steps"))
         self.assertIsNone(disk.sync("b"))
         self.assertIsNone(disk.rename("b", "c"))
         self.assertIsNone(disk.remove("a"))

@@ -315,6 +315,9 @@ class Carrying(unittest.TestCase, Checks):
         # a member of another side with this name keeps it
         side = Side("time", ("c", "d"))
         cube = Cube(Outline((DEEP, side)), (Rule((None, ("c",)), ("sum", "time", ("members", ("c",)), to(("time", "c"), ("deep", "c")))),))
+        kept = Rule((None, None), ("sum", "deep", ("members", ("c", "d")), ("first", "time", ("members", ("d", "c")), HERE)))
+        told = carried(cube.with_rules((kept,)), (("rename", "time", "c", "z"),)).rules[0]
+        self.assertEqual(told, Rule((None, None), ("sum", "deep", ("members", ("c", "d")), ("first", "time", ("members", ("d", "z")), HERE))))
         told = carried(cube, (("rename", "time", "c", "z"),)).rules[0]
         self.assertEqual(told, Rule((None, ("z",)), ("sum", "time", ("members", ("z",)), to(("time", "z"), ("deep", "c")))))
 

@@ -11,7 +11,7 @@ from sumstead.plain.cubes import Cube
 from sumstead.plain.rules import Rule
 
 from chance import Chance
-from examples import ONE, RULED, SOME, Checks, nines, odd_values, raised
+from examples import ONE, RULED, SOME, Checks, nines, number, odd_values, raised
 from test_line import a_deed, wide
 
 JAN_A, MAR_A = ("jan", "a"), ("mar", "a")
@@ -186,6 +186,35 @@ class Keepers(unittest.TestCase, Checks):
         empty.append("fresh", "x")
         self.assertEqual(self.assert_raises(TooMany, Keeper, empty, great).limit, 200000)
         self.assertEqual((empty.steps, empty.names), (1, ("fresh",)))
+
+    def test_the_longest_log_and_one_sign_more(self):
+        cube = long_cube(18)
+        names = cube.outline.sides[0].leaves
+        part = cube.rules[0].formula
+        while part[0] == "plus":
+            part = part[1]
+
+        def missing(*rules):
+            return 200000 - len(log_text(cube.with_rules(cube.rules + rules), 0, ()))
+        while missing() > 900:
+            cube = cube.with_rules(cube.rules + (Rule((None,), part),))
+        # what is missing now is filled by members of areas, and then by digits of a worth
+        fillers = [Rule((names[:1],), number(1)) for _ in range(3)]
+        for at in range(3):
+            while missing(*fillers) > 9 and len(fillers[at].area[0]) < 30:
+                fillers[at] = Rule((names[:len(fillers[at].area[0]) + 1],), number(1))
+        fillers[2] = Rule(fillers[2].area, number(10 ** missing(*fillers)))
+        cube = cube.with_rules(cube.rules + tuple(fillers))
+        self.assertEqual(len(log_text(cube, 0, ())), 200000)
+        disk = Disk()
+        disk.append("fresh", "x")
+        keeper = Keeper(disk, cube)
+        self.assertEqual((len(disk.read("log")), keeper.squeeze(), Keeper.up(disk.lost()) == keeper), (200000, None, True))
+        self.assertEqual(self.assert_raises(TooMany, keeper.commit, "ann", (("cells", {}),)).limit, 200000)
+        longer = cube.with_rules(cube.rules[:-1] + (Rule(fillers[2].area, number(fillers[2].formula[1][0] * 10)),))
+        disk = Disk()
+        disk.append("fresh", "x")
+        self.assertEqual((self.assert_raises(TooMany, Keeper, disk, longer).limit, disk.steps, disk.read("fresh")), (200000, 1, "x"))
 
     def test_equality(self):
         def made(*calls, cube=SOME):

@@ -190,7 +190,7 @@ class Lines(unittest.TestCase, Checks):
                 self.assert_raises(InvalidNumber, line.compared, value, None)
                 self.assert_raises(InvalidNumber, line.compared, 0, value)
                 self.assert_raises(InvalidNumber, line.changed, value)
-        self.assert_raises(InvalidNumber, line.changed, 0)
+        self.assertEqual(self.assert_raises(InvalidNumber, line.changed, 0).given, 0)
         self.assertEqual(self.assert_raises(InvalidNumber, line.compared, 7, 8).given, 7)
         line.forward()
         self.assertEqual(line.changed(2), ((), True, False))
@@ -222,7 +222,8 @@ class Lines(unittest.TestCase, Checks):
                                     ("rules", (Rule(GROWTH.area, GROWTH.formula, 2),)))) in line)
         for value in ((2, "bob", (("cells", {JAN_A: ONE}),)), (True, "ann", (PUT, RULES)), (1, "ann", [PUT, RULES]),
                       (1, "ann", (PUT,)), [1, "ann", (PUT, RULES)],
-                      (1, "ann", (("cells", {MAR_A: (True, 1), ("jan", "b"): None}), RULES)), (1, "bob", (PUT, RULES)),
+                      (1, "ann", (("cells", {MAR_A: (True, 1), ("jan", "b"): None}), RULES)), (1, "bob", (PUT, RULES)), (1, "ann", (("cells", {MAR_A: (1, 1)}), RULES)),
+                      (1, "ann", (("cells", {MAR_A: (1, 1), ("jan", "b"): None, ("feb", "b"): None}), RULES)),
                       (1, "ann", (PUT, RULES), ())):
             self.assertFalse(value in line, value)
         line.forward()

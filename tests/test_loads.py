@@ -227,7 +227,8 @@ class Ledgers(unittest.TestCase, Checks):
         ledger = Ledger(SOME)
         other = load(("a", "1"), fields=(0,), worth_field=1, outline=Outline((Side("p", ("a",)),)))
         for value in odd_values() + [other]:
-            self.assert_raises(InvalidOperation, ledger.lay, value, None)
+            self.assertIs(self.assert_raises(InvalidOperation, ledger.lay, value, None).message, value)
+            self.assert_raises(InvalidOperation, ledger.lay, value)
         for value in odd_values() + ["Add", "put", ("add",)]:
             self.assert_raises(InvalidOperation, ledger.lay, load(), value)
         ledger.lay(load())

@@ -54,7 +54,10 @@ class PlainValues(unittest.TestCase, Checks):
         self.assertEqual(self.assert_raises(ParseError, read_plain, "(" * 40 + "{}").spot, 40)
         self.assertEqual(self.assert_raises(ParseError, read_plain, "(" * 39 + "{(").spot, 40)
         self.assertEqual(read_plain("(" * 39 + "{}" + ")" * 39), nested(39, {}))
-        self.assertEqual(len(read_plain("(() " * 1 + "() " * 100 + "())")), 102)
+        # brackets that are closed again do not count
+        self.assertEqual(len(read_plain("(" + "() " * 100 + "(" * 39 + ")" * 39 + ")")), 101)
+        self.assertEqual(self.assert_raises(ParseError, read_plain, "(" + "() " * 100 + "(" * 40).spot, 1 + 300 + 39)
+        self.assertEqual(self.assert_raises(ParseError, read_plain, "({() -} {(a) {}} " + "(" * 40).spot, 17 + 39)
 
     def test_texts_that_are_wrong(self):
         for value in odd_values():
@@ -184,6 +187,15 @@ class Logs(unittest.TestCase, Checks):
             self.assertIn(old, line)
             self.assertEqual(self.assert_raises(ParseError, read_log, line.replace(old, new, 1)).spot, 0, (old, new))
         self.assertEqual(read_log(line.replace("base 4", "base " + "9" * 60))[1], nines(60))
+        cells = "{(a x) (1 1)}"
+        sides = "((p (a) ()) (q (x) ()))"
+        self.assertEqual(read_log(f"(base 0 {sides} () {cells})\n")[0].cells, {("a", "x"): ONE})
+        for wrong in ("(base)", "(base 0)", f"(base 0 {sides} ())", f"(base 0 {sides} () {cells} ())", f"(base -1 {sides} () {cells})",
+                      f"(base 0 - () {cells})", f"(base 0 p () {cells})", f"(base 0 5 () {cells})", f"(base 0 {{}} () {cells})", f"(base 0 (p q) () {cells})",
+                      f"(base 0 (5 - ()) () {cells})", f"(base 0 ((p (a)) (q (x))) () {cells})", f"(base 0 () () {cells})", f"(base 0 {sides} - {cells})",
+                      f"(base 0 {sides} x {cells})", f"(base 0 {sides} 7 {cells})", f"(base 0 {sides} {{}} {cells})", f"(base 0 {sides} (-) {cells})",
+                      f"(base 0 {sides} ((- - -)) {cells})", f"(base 0 {sides} (((- -) (nothing) -)) {cells})", f"(base 0 {sides} () x)", f"(base 0 {sides} () 4)"):
+            self.assertEqual(self.assert_raises(ParseError, read_log, wrong + "\n").spot, 0, wrong)
 
     def test_commits_that_are_wrong(self):
         base = log_text(RULED, 0, ())
@@ -196,7 +208,10 @@ class Logs(unittest.TestCase, Checks):
                        "(commit 1 ann ((rules ()) (rules ()) (rules ()) (rules ()) (rules ()) (rules ())))",
                        "(commit 1 ann ((rules (((- -) (at ()) 100)))))", "(commit 1 ann ((rules (((- -) (at ()))))))",
                        "(commit 1 ann ((rules (((- (c)) (at ()) 1)))))", "(commit 1 ann ((rule ())))",
-                       "(commit 1 ann ((cells {(jan a) (2 2)})))", "(1 ann ((rules ())))", "(commit 1 ann {})"):
+                       "(commit 1 ann ((cells {(jan a) (2 2)})))", "(1 ann ((rules ())))", "(commit 1 ann {})", "(commit 1 ann (-))",
+                       "(commit 1 ann (4))", "(commit 1 ann ({}))", "(commit 1 ann (rules))", "(commit 1 ann (()))", "(commit 1 ann ((rules)))",
+                       "(commit 1 ann ((rules x)))", "(commit 1 ann ((rules 4)))", "(commit 1 ann ((rules (x))))", "(commit 1 ann x)", "(commit)",
+                       "(commit 1)", "-", "7", "commit"):
             self.assertEqual(self.assert_raises(ParseError, read_log, base + commit + "\n").spot, 1, commit)
         right = "(commit 1 ann ((rules (((- -) (at ()) 1)))))"
         self.assertEqual(len(read_log(base + right + "\n")[2]), 1)

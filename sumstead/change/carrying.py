@@ -78,7 +78,7 @@ def rules_behind(outline, rules, edit):
 
 def cells_behind(outline, cells, edit):
     """The cells behind an edit of an outline, whatever worths they have."""
-    shares = shares_behind(outline.side(edit[1]), edit)
+    shares = shares_behind(edit)
     at = outline.index(edit[1])
     found = {}
     for place in cells:

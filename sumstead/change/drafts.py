@@ -165,12 +165,12 @@ def draft_behind(side, edit):
     return draft(side, edit)
 
 
-def shares_behind(side, edit):
-    """The dict from the leaves of a side that an edit changes to the pairs (leaf, share) of what becomes of a cell."""
+def shares_behind(edit):
+    """The dict from the members that an edit changes to the pairs (leaf, share) of what becomes of a cell there."""
     word = edit[0]
     if word == "drop":
         return {edit[2]: ()}
-    if word == "rename" and side.is_leaf(edit[2]):
+    if word == "rename":
         return {edit[2]: ((edit[3], ONE),)}
     if word == "split":
         return {edit[2]: edit[3]}

@@ -69,7 +69,7 @@ def _side_tables(outline, script):
     for index, edit in enumerate(script):
         behind = outline_behind(outline, index, edit)
         at = outline.index(edit[1])
-        tables[at].note(shares_behind(outline.sides[at], edit))
+        tables[at].note(shares_behind(edit))
         outline = behind
     return tables
 

@@ -7,7 +7,7 @@ def _is_child(side, hierarchy, member):
 
 
 def _is_group_of(side, hierarchy, member):
-    return hierarchy in side.names and member in side and side.home(member) == hierarchy
+    return member in side and side.home(member) == hierarchy
 
 
 def is_top(side, member):

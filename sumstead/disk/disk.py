@@ -27,11 +27,6 @@ def _are_choices(value):
     return type(value) is tuple and all([is_passed_integer(choice) and choice >= 0 for choice in value])
 
 
-def _check_power(power):
-    if power is not None and not is_between(power, 0, _MOST_POWER):
-        raise InvalidNumber(power)
-
-
 def _choice_at(choices, index, many):
     """The choice with an index, or 0, of so many ways."""
     return choices[index] % many if index < len(choices) else 0
@@ -41,7 +36,8 @@ class Disk:
     """Files with names; the names have one table more for each change of them that is not firm."""
 
     def __init__(self, *, power=None):
-        _check_power(power)
+        if power is not None and not is_between(power, 0, _MOST_POWER):
+            raise InvalidNumber(power)
         self._power = power
         self._steps = 0
         # The firm table of names, and then the table behind each later change; the last one is what is there.
@@ -132,7 +128,6 @@ class Disk:
 
     def has_firm_text(self, name):
         """Whether the whole text of a file is firm."""
-        self._check_file(name)
         file = self._tables[-1][name]
         return file.firm_count == len(file.text)
 
@@ -144,14 +139,13 @@ class Disk:
         """A disk with what stays behind a loss of power."""
         if not _are_choices(choices):
             raise InvalidOperation(choices)
-        _check_power(power)
+        found = Disk(power=power)
         table = self._tables[_choice_at(choices, 0, len(self._tables))]
         left = {}
         for index, name in enumerate(sorted(table)):
             file = table[name]
             more = _choice_at(choices, index + 1, len(file.text) - file.firm_count + 1)
             left[name] = file.text[:file.firm_count + more]
-        found = Disk(power=power)
         found.put_firm(left)
         return found
 

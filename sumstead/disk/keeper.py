@@ -1,6 +1,6 @@
 """A keeper: a cube and commits, in a file of a disk that can lose its power at each step."""
 
-from sumstead.disk.disk import MAX_FILES, MAX_TEXT, Disk
+from sumstead.disk.disk import MAX_TEXT, Disk
 from sumstead.disk.log import base_line, commit_line, read_log
 from sumstead.errors import InvalidStore, TooMany
 from sumstead.hands.line import check_author, check_deeds, copied_commits, copied_deeds, cube_behind_all
@@ -14,10 +14,7 @@ _FRESH = "fresh"
 
 def _put_log(disk, text):
     """Makes a text the whole log, so that behind a loss of power the log is the one ahead, or this one."""
-    others = [name for name in disk.names if name != _FRESH]
-    # What no power would help is refused ahead of all steps, so that it changes nothing.
-    if len(others) == MAX_FILES:
-        raise TooMany(MAX_FILES)
+    # What no power would help is refused ahead of the first step, so that it changes nothing.
     if len(text) > MAX_TEXT:
         raise TooMany(MAX_TEXT)
     if _FRESH in disk:

@@ -27,7 +27,7 @@ def read_plain(text):
 
 def _cube_behind_commit(cube, number, value):
     """The cube behind a commit with the next number; None if the value is none that can be done."""
-    if type(value) is not tuple or len(value) != 3 or type(value[0]) is not int or value[0] != number + 1:
+    if type(value) is not tuple or len(value) != 3 or value[0] != number + 1:
         return None
     try:
         check_author(value[1])

@@ -3,7 +3,6 @@
 from sumstead.base.ordered import by_keys, unlike_keys
 from sumstead.errors import InvalidOperation, Refused
 from sumstead.hands.line import Line, check_author
-from sumstead.outline.outlines import check_place
 
 
 class Sandbox:
@@ -75,7 +74,6 @@ class Sandbox:
 
     def answer(self, place):
         """The answer of the cube; it is kept in mind what was read for it."""
-        check_place(self._cube.outline, place)
         told = self._cube.answer(place)
         self._told_some = True
         for touched in _touched_by(self._cube, place):
@@ -85,7 +83,7 @@ class Sandbox:
 
     def _is_adrift(self):
         """Whether the commits on which the sandbox stands are not those of the line any more."""
-        return self._line.present < self._base or self._line.commits[:self._base] != self._stood_on
+        return self._line.commits[:self._base] != self._stood_on
 
     def _check_bars(self):
         """Refuses a commit over one of the line that changes what was read."""

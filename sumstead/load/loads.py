@@ -1,12 +1,12 @@
 """Loads: rows that become totals of leaf places; and a ledger of loads, with the way down to their rows."""
 
-from sumstead.base.integers import is_between
+from sumstead.base.integers import is_between, is_integer
 from sumstead.base.ordered import by_keys
 from sumstead.base.reckoning import added
 from sumstead.base.worths import is_cell_worth
 from sumstead.errors import InvalidNumber, InvalidOperation, Refused, TooMany
 from sumstead.load.rows import are_rows, is_map, leaf_place_of, reason_against, worth_of
-from sumstead.outline.outlines import check_outline, check_place
+from sumstead.outline.outlines import check_outline
 from sumstead.plain.cubes import MAX_CELLS, Cube, check_cube
 from sumstead.plain.weights import is_clean, leaf_weights
 
@@ -154,7 +154,7 @@ class Ledger:
 
     def take_back(self, number):
         """Keeps a load no longer."""
-        if not is_between(number, 0, len(self._loads) - 1) or number not in self._kept_numbers:
+        if not is_integer(number) or number not in self._kept_numbers:
             raise InvalidNumber(number)
         self._keep(self._loads, [one for one in self._kept_numbers if one != number])
 
@@ -166,7 +166,6 @@ class Ledger:
 
     def down(self, place):
         """The triples (source, weight, worth) of the cells and rows of which the worth of a place comes."""
-        check_place(self._first_cube.outline, place)
         if not is_clean(self._cube, place):
             raise InvalidOperation(place)
         sources = self._sources()

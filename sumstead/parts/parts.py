@@ -2,7 +2,7 @@
 
 from sumstead.base.integers import is_between
 from sumstead.base.ordered import are_ascending, by_keys
-from sumstead.errors import InvalidCells, InvalidNumber, InvalidStore, Refused, TooMany, UnknownName
+from sumstead.errors import InvalidCells, InvalidNumber, InvalidStore, Refused, TooMany
 from sumstead.outline.outlines import check_place
 from sumstead.parts.stocks import cut_anew, first_stock, joined_cells
 from sumstead.plain.cubes import Cube, are_changes, check_cube
@@ -35,8 +35,6 @@ class Parts:
 
     def __init__(self, cube, name, cuts=()):
         check_cube(cube)
-        if name not in cube.outline.names:
-            raise UnknownName(name)
         if not _are_cuts(cuts, len(cube.outline.side(name).leaves)):
             raise InvalidStore(cuts)
         self._outline = cube.outline

@@ -110,8 +110,6 @@ def is_told_cell(outline, right, leaf_place, value):
 def hidden_fillings(outline, right, leaf_place):
     """Two fillings that are alike at all seen places and unlike at a leaf place, or None."""
     sight = _sight_of(outline, right, leaf_place)
-    if not sight.is_hidden(leaf_place):
-        return None
     free = sight.free_column(sight.rest_of(leaf_place))
     if free is None:
         return None

@@ -4,7 +4,6 @@ from sumstead.ask.sheets import Sheet
 from sumstead.base.signs import is_printable
 from sumstead.errors import CubeError, InvalidNumber, InvalidOperation, NothingToUndo, ParseError, Refused
 from sumstead.errors import TooMany, UnknownName
-from sumstead.hands.line import Line
 from sumstead.hands.sandboxes import Sandbox
 from sumstead.text.rules import read_rule
 from sumstead.text.saying import Pieces, answer_text, parts_said
@@ -36,11 +35,10 @@ class Shell:
     """A line, and a sandbox on it for each author."""
 
     def __init__(self, line):
-        if not isinstance(line, Line):
-            raise InvalidOperation(line)
+        # A sandbox refuses what is no line.
+        self._sandboxes = {_FIRST_AUTHOR: Sandbox(line, _FIRST_AUTHOR)}
         self._line = line
         self._author = _FIRST_AUTHOR
-        self._sandboxes = {_FIRST_AUTHOR: Sandbox(line, _FIRST_AUTHOR)}
         self._said = 0
 
     @property

@@ -5,7 +5,7 @@ from sumstead.errors import InvalidNumber, InvalidOperation, InvalidOutline, Inv
 from sumstead.outline.outlines import Side, check_outline
 from sumstead.plain.cubes import Cube, check_cube
 from sumstead.plain.moves import MOST_WINDOW, is_span, span_members, span_suits
-from sumstead.plain.rules import MAX_RANK, MAX_RULES, Rule
+from sumstead.plain.rules import MAX_RULES, Rule
 
 _NOTHING = ("nothing",)
 
@@ -27,17 +27,15 @@ def _check_time(outline, time):
         raise UnknownName(time)
 
 
-def _check_goal(outline, time, kind, goal, source, rank):
-    """Refuses what is no other side, no leaf of it, no other member of it, and no rank."""
-    if kind not in outline.names or kind == time:
+def _check_goal(outline, time, kind, goal, source):
+    """Refuses what is no other side, no leaf of it, and no other member of it."""
+    if kind == time:
         raise UnknownName(kind)
     side = outline.side(kind)
     if not side.is_leaf(goal):
         raise UnknownName(goal)
     if source not in side or source == goal:
         raise UnknownName(source)
-    if not is_between(rank, 0, MAX_RANK):
-        raise InvalidNumber(rank)
 
 
 def _rule(outline, kind, goal, formula, rank):
@@ -56,7 +54,7 @@ def to_date(outline, time, hierarchy, kind, goal, source, *, rank=50):
     _check_time(outline, time)
     if hierarchy not in outline.side(time).names:
         raise UnknownName(hierarchy)
-    _check_goal(outline, time, kind, goal, source, rank)
+    _check_goal(outline, time, kind, goal, source)
     return _rule(outline, kind, goal, ("sum", time, ("sofar", hierarchy), _at(kind, source)), rank)
 
 
@@ -65,28 +63,28 @@ def over_window(outline, time, count, kind, goal, source, *, rank=50):
     _check_time(outline, time)
     if not is_between(count, 1, MOST_WINDOW):
         raise InvalidNumber(count)
-    _check_goal(outline, time, kind, goal, source, rank)
+    _check_goal(outline, time, kind, goal, source)
     return _rule(outline, kind, goal, ("sum", time, ("window", count), _at(kind, source)), rank)
 
 
 def opening(outline, time, kind, goal, source, *, rank=50):
     """The rule by which a leaf has the first that another member has."""
     _check_time(outline, time)
-    _check_goal(outline, time, kind, goal, source, rank)
+    _check_goal(outline, time, kind, goal, source)
     return _rule(outline, kind, goal, ("first", time, ("leaves",), _at(kind, source)), rank)
 
 
 def closing(outline, time, kind, goal, source, *, rank=50):
     """The rule by which a leaf has the last that another member has."""
     _check_time(outline, time)
-    _check_goal(outline, time, kind, goal, source, rank)
+    _check_goal(outline, time, kind, goal, source)
     return _rule(outline, kind, goal, ("last", time, ("leaves",), _at(kind, source)), rank)
 
 
 def rise(outline, time, kind, goal, source, *, rank=50):
     """The rule by which a leaf has what another member has more than one leaf ahead."""
     _check_time(outline, time)
-    _check_goal(outline, time, kind, goal, source, rank)
+    _check_goal(outline, time, kind, goal, source)
     now = _at(kind, source)
     ahead = ("at", tuple(sorted([(kind, ("to", source)), (time, ("step", -1))])))
     both = ("both", ("there", now), ("there", ahead))

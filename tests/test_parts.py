@@ -1,3 +1,4 @@
+import sys
 import unittest
 
 from sumstead.errors import InvalidCells, InvalidCube, InvalidNumber, InvalidPlace, InvalidStore, Refused, TooMany, UnknownName
@@ -13,6 +14,27 @@ from test_line import wide
 JAN_A, JAN_B, FEB_A, MAR_A, MAR_B = ("jan", "a"), ("jan", "b"), ("feb", "a"), ("mar", "a"), ("mar", "b")
 TOP = ("all", "both")
 CHANGES = {MAR_A: (1, 1), JAN_B: None}
+
+
+def work_of(call):
+    """What a call returns, and how many of Python's own steps it takes."""
+    steps = 0
+
+    def trace(frame, event, _):
+        nonlocal steps
+        frame.f_trace_opcodes = True
+        steps += event == "opcode"
+        return trace
+
+    ahead = sys.gettrace()
+    # Python 3.12 tells of single steps only if a frame has asked for them ahead of settrace.
+    sys._getframe().f_trace_opcodes = True
+    sys.settrace(trace)
+    try:
+        result = call()
+    finally:
+        sys.settrace(ahead)
+    return result, steps
 
 
 class PartsOfCubes(unittest.TestCase, Checks):
@@ -80,6 +102,47 @@ class PartsOfCubes(unittest.TestCase, Checks):
         self.assertEqual(parts.send({places[299]: ONE}), 1)
         self.assertEqual(self.assert_raises(TooMany, parts.send, {places[300]: ONE}).limit, 300)
         self.assertEqual((parts.sent, parts.send({places[300]: ONE, places[0]: None})), (1, 2))
+
+    def test_which_changes_count_as_cells(self):
+        cube, places = wide(298)
+        parts = Parts(cube, "p", (3,))
+        # a cell that is put anew is no further one, and where there is none, none goes
+        self.assertEqual(parts.send({places[n]: (0, 1) for n in range(300)}), 1)
+        for changes in ({places[300]: ONE}, {places[0]: (2, 1), places[300]: ONE}, {places[301]: None, places[300]: ONE},
+                        {places[0]: None, places[300]: ONE, places[301]: ONE}):
+            self.assertEqual(self.assert_raises(TooMany, parts.send, changes).limit, 300)
+        self.assertEqual((parts.send({places[n]: None for n in range(400)}), parts.send({places[399]: None})), (2, 3))
+        self.assertEqual(parts.send({places[n]: ONE for n in range(300)}), 4)
+        # what is refused has no effect: neither what would come nor what would go
+        self.assert_raises(TooMany, parts.send, {places[0]: None, places[1]: None, **{places[n]: ONE for n in range(300, 303)}})
+        self.assertEqual(self.assert_raises(TooMany, parts.send, {places[300]: ONE}).limit, 300)
+        self.assertEqual((parts.send({places[0]: None}), parts.send({places[300]: ONE})), (5, 6))
+        # cells of moments that are forgotten, and of parts that fall or are cut anew, count as before
+        for call in (parts.fetch, parts.follow):
+            call(0, 6), call(1, 6)
+        parts.forget(6), parts.fall(0), parts.shift(0, 7)
+        self.assertEqual(self.assert_raises(TooMany, parts.send, {places[0]: ONE}).limit, 300)
+        self.assertEqual(parts.send({places[300]: None, places[0]: ONE}), 7)
+
+    def test_too_many_changes_come_ahead_of_too_many_cells(self):
+        cube, places = wide(300)
+        parts = Parts(cube, "p")
+        self.assertEqual([parts.send({places[n]: None, places[n + 300]: ONE}) for n in range(100)], list(range(1, 101)))
+        self.assertEqual(self.assert_raises(TooMany, parts.send, {places[0]: ONE}).limit, 100)
+        self.assert_raises(InvalidCells, parts.send, {places[0]: None, places[1]: (1, 1001)})
+
+    def test_a_send_looks_at_its_own_changes_only(self):
+        outline = Outline((Side("x", tuple(f"x{n}" for n in range(30))), Side("y", tuple(f"y{n}" for n in range(11)))))
+        places = sorted(outline.leaf_places())
+        works = []
+        for many in (0, 299):
+            parts = Parts(Cube(outline, (), {place: ONE for place in places[:many]}), "x", (15,))
+            self.assertEqual(parts.send({places[299]: (2, 1)}), 1)
+            numbers, work = work_of(lambda: [parts.send({}) for _ in range(49)] + [parts.send({places[299]: (n, 1)}) for n in range(50)])
+            self.assertEqual((numbers, parts.sent), (list(range(2, 101)), 100))
+            works.append(work)
+        self.assertGreater(works[0], 99)
+        self.assertEqual(works[0], works[1])
 
     def test_fetching_and_following(self):
         parts = Parts(SOME, "shop", (1,))
@@ -305,6 +368,29 @@ class Drawn(unittest.TestCase, Checks):
                 self.assertEqual(parts.answer(place), cubes[min(moments)].answer(place))
                 self.assert_raises(InvalidNumber, parts.answer, place, min(moments) + 1)
         self.assertGreater(answers, 4000)
+
+    def test_drawn_sends_of_nearly_too_many_cells(self):
+        done, refused = 0, 0
+        for seed in range(12):
+            chance = Chance(f"many {seed}")
+            cube, places = wide(chance.random.randint(296, 300))
+            parts = Parts(cube, "q", (5,))
+            cubes = [cube]
+            for _ in range(60):
+                changes = {place: chance.one_of((None, ONE, ONE, (0, 1))) for place in chance.random.sample(places, chance.random.randint(0, 6))}
+                try:
+                    cubes.append(cubes[-1].with_cells(changes))
+                except TooMany:
+                    self.assertEqual(self.assert_raises(TooMany, parts.send, changes).limit, 300)
+                    refused += 1
+                else:
+                    self.assertEqual(parts.send(changes), len(cubes) - 1)
+                    done += 1
+            for index in range(2):
+                parts.fetch(index, len(cubes) - 1)
+            for moment, expected in enumerate(cubes):
+                self.assertEqual({**parts.cells_in(0, moment), **parts.cells_in(1, moment)}, expected.cells)
+        self.assertGreater(min(done, refused), 50)
 
     def test_one_history_told_in_two_ways(self):
         """[23.1] Objects are equal by their moments and cells, whatever calls led there."""

@@ -5,7 +5,7 @@ from sumstead.base.ordered import are_ascending, by_keys
 from sumstead.errors import InvalidCells, InvalidNumber, InvalidStore, Refused, TooMany
 from sumstead.outline.outlines import check_place
 from sumstead.parts.stocks import cut_anew, first_stock, joined_cells
-from sumstead.plain.cubes import Cube, are_changes, check_cube
+from sumstead.plain.cubes import MAX_CELLS, Cube, are_changes, check_cube
 
 MAX_PARTS = 8
 MAX_SENT = 100
@@ -44,8 +44,9 @@ class Parts:
         at = cube.outline.index(name)
         self._parts = [first_stock(at, stretch, cube.cells) for stretch in self.stretches]
         self._copies = [part.twin() for part in self._parts]
-        # The cube behind all that was sent, and the changes behind the oldest moment.
-        self._sent_cube = cube
+        # Where cells are behind all that was sent: kept, so that a send looks at its own changes only.
+        self._filled = {place: True for place in cube.cells}
+        # The changes behind the oldest moment.
         self._changes = []
         self._oldest = 0
         # What was asked at sure moments; no answer there ever changes.
@@ -92,9 +93,20 @@ class Parts:
             raise InvalidCells(changes)
         if self.sent == MAX_SENT:
             raise TooMany(MAX_SENT)
-        self._sent_cube = self._sent_cube.with_cells(changes)
+        self._fill(changes)
         self._changes.append(by_keys(changes))
         return self.sent
+
+    def _fill(self, changes):
+        """Counts the cells that come and go with changes; refuses more cells than a cube can have."""
+        come = [place for place in changes if changes[place] is not None and place not in self._filled]
+        gone = [place for place in changes if changes[place] is None and place in self._filled]
+        if len(self._filled) + len(come) - len(gone) > MAX_CELLS:
+            raise TooMany(MAX_CELLS)
+        for place in come:
+            self._filled[place] = True
+        for place in gone:
+            del self._filled[place]
 
     def _check_index(self, index, many):
         if not is_between(index, 0, many - 1):
